@@ -1,0 +1,1 @@
+"""Paidbyheirs: what each deed must pay when versions have many heirs."""

@@ -1,0 +1,27 @@
+"""The interface of what has landed: file by file the functions with the names of their arguments."""
+
+import importlib
+
+INTERFACE = {
+    "paidbyheirs.crafts": {
+        "is_craft": ("thing",), "is_row": ("sizes", "thing"), "shapes_made": ("craft",), "rows_done": ("craft",),
+        "idle_rows": ("craft",), "cut_craft": ("craft",), "renamed": ("craft", "shapes", "rows"),
+        "joined_craft": ("craft", "other"), "new_slots": ("craft",), "with_cost": ("craft", "row", "slot", "cost"),
+    },
+    "paidbyheirs.webs": {
+        "is_web": ("craft", "thing"), "next_deeds": ("craft", "web"), "all_webs": ("craft", "many"),
+        "heirs": ("web", "version"), "is_line": ("web",), "shapes_of": ("craft", "web"),
+        "comes_from": ("web", "version"), "held": ("craft", "web"), "wanted": ("craft", "web", "wait"),
+        "holders": ("craft", "web", "wait"), "cut_web": ("web", "versions"), "beside": ("webs",),
+    },
+    "paidbyheirs.ledgers": {
+        "ledger": ("craft", "web"), "paid": ("craft", "web"), "cost": ("craft", "web"),
+        "forced_by": ("craft", "web", "wait"), "unforced": ("craft", "web"),
+        "look_now": ("craft", "web", "version", "slot"),
+    },
+}
+
+
+def found(path, name):
+    """What the file under this path has under this name."""
+    return getattr(importlib.import_module(path), name)

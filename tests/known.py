@@ -1,0 +1,130 @@
+"""CRAFTS and values on which the tests try the program."""
+
+import random
+
+CHAIN = ((1,), (((), (), 0, 0, (("none",),)), ((0,), (), 0, 0, (("new", 1, ((0, 0),)),)),
+                ((0,), ((0, 0),), 0, 0, (("none",),))))
+TWINS = ((2, 0), (((), (), 0, 0, (("new", 3, ()), ("new", 3, ()))), ((0,), ((0, 0),), 0, 1, ()),
+                  ((0,), ((0, 1),), 0, 1, ())))
+MELDS = ((1,), (((), (), 0, 0, (("new", 4, ()),)), ((0, 0), ((0, 0), (1, 0)), 0, 0, (("none",),))))
+KEPT = ((2,), (((), (), 0, 0, (("none",), ("new", 1, ()))),
+               ((0,), (), 0, 0, (("new", 0, ((0, 0), (0, 1))), ("kept", 0, 1))),
+               ((0,), ((0, 0),), 0, 0, (("none",), ("kept", 0, 1)))))
+DOUBLE = ((2,), (((), (), 0, 0, (("new", 1, ()), ("new", 1, ()))),
+                 ((0,), (), 0, 0, (("new", 0, ((0, 0), (0, 1))), ("new", 0, ((0, 0), (0, 1))))),
+                 ((0,), ((0, 0),), 0, 0, (("none",), ("none",)))))
+LONE = ((1,), CHAIN[1][:2])
+LATE = ((1, 1), (*CHAIN[1], ((1,), ((0, 0),), 5, 1, (("none",),))))
+CARRY = ((1,), (((), (), 0, 0, (("new", 2, ()),)), ((0,), (), 0, 0, (("kept", 0, 0),)),
+                ((0,), ((0, 0),), 1, 0, (("none",),))))
+STRAY = ((0, 0), (((), (), 5, 0, ()), ((1,), (), 0, 1, ())))
+SPROUT = ((0, 1), (((), (), 0, 0, ()), ((0,), (), 0, 1, (("new", 5, ()),)), ((1,), ((0, 0),), 0, 0, ())))
+# One WAIT in two slots of one VERSION, both wanted by one WAIT and looked at, the later slot first.
+COPIES = ((2,), (((), (), 1, 0, (("new", 7, ()), ("new", 9, ()))), ((0,), (), 0, 0, (("kept", 0, 0), ("kept", 0, 0))),
+                 ((0,), (), 2, 0, (("new", 1, ((0, 0), (0, 1))), ("kept", 0, 1))),
+                 ((0,), ((0, 1), (0, 0)), 3, 0, (("kept", 0, 1), ("none",)))))
+# Both elders asked, the second one first, and two WAITS that want of both.
+PAIRS = ((2, 1), (((), (), 2, 0, (("new", 10, ()), ("none",))), ((0,), (), 0, 1, (("new", 100, ((0, 0), (0, 1))),)),
+                  ((0, 1), ((1, 0), (0, 0)), 1, 0, (("kept", 1, 0), ("kept", 0, 1))),
+                  ((0, 0), (), 5, 0, (("new", 1000, ((0, 0), (1, 0), (1, 1))), ("new", 10000, ((1, 1),))))))
+# No ROW comes.
+NEVER = ((1,), (((0,), (), 0, 0, (("none",),)),))
+# SHAPE 2 comes of 1, this of 0; ROWS 0 and 4 are idle, as SHAPE 3 comes of itself alone.
+STAIRS = ((0, 1, 1, 0), (((3,), (), 0, 0, ()), ((1,), ((0, 0),), 0, 2, (("kept", 0, 0),)),
+                         ((0,), (), 0, 1, (("new", 6, ()),)), ((), (), 4, 0, ()),
+                         ((0, 3), (), 0, 3, ()), ((2, 2), ((1, 0),), 0, 2, (("none",),))))
+
+CRAFTS = (CHAIN, TWINS, MELDS, KEPT, DOUBLE, LONE, LATE, CARRY, STRAY, SPROUT, COPIES, PAIRS, NEVER, STAIRS)
+
+
+def deep(levels):
+    """A tuple nested so many levels deep."""
+    nested = ()
+    for _ in range(levels - 1):
+        nested = (nested,)
+    return nested
+
+
+# Values that are neither a CRAFT, nor a ROW, nor a WEB but ().
+JUNK = (True, False, None, 0, 1, -1, 5, 10 ** 30, "", "kept", "none", [], [()], [[], []], ((),), ((), ()), ((), (), ()),
+        (1,), (1, 2), (None, None), ("new", 1, ()), (True, False), ((True,), ()), ((1,), ()), ((), (1,)), "ab", ("", ""),
+        deep(12), [deep(11)])
+
+
+def as_lists(value):
+    """value with lists in the place of tuples, at any depth."""
+    if isinstance(value, (list, tuple)):
+        return [as_lists(part) for part in value]
+    return value
+
+
+def as_mixed(value, turn=0):
+    """value with lists in the place of every second tuple on each way down."""
+    if isinstance(value, (list, tuple)):
+        parts = [as_mixed(part, turn + at + 1) for at, part in enumerate(value)]
+        return parts if turn % 2 else tuple(parts)
+    return value
+
+
+def variants(value, others):
+    """All values that are value with one part, itself among them, exchanged for one of others, or lengthened or cut."""
+    yield from others
+    if not isinstance(value, tuple):
+        return
+    yield list(value)
+    yield (value,)
+    yield value[:-1]
+    yield value[1:]
+    yield value[::-1]
+    yield (*value, 0)
+    yield (*value, value)
+    if value:
+        yield (*value, value[-1])
+        yield (*value, value[0])
+    for at, part in enumerate(value):
+        for other in variants(part, others):
+            yield (*value[:at], other, *value[at + 1:])
+
+
+def some_row(dice, sizes):
+    """A ROW for these sizes, as the dice tell."""
+    elders = tuple([dice.randrange(len(sizes)) for _ in range(dice.choice((0, 0, 1, 1, 2)))])
+    asked = [(place, slot) for place, shape in enumerate(elders) for slot in range(sizes[shape])]
+    looks = tuple(dice.sample(asked, dice.randint(0, len(asked))))
+    shape = dice.randrange(len(sizes))
+    slots = []
+    for _ in range(sizes[shape]):
+        word = dice.choice(("kept", "none", "new", "new"))
+        if word == "kept" and asked:
+            slots.append(("kept", *dice.choice(asked)))
+        elif word == "none":
+            slots.append(("none",))
+        else:
+            wants = tuple(sorted(dice.sample(asked, dice.randint(0, len(asked)))))
+            slots.append(("new", dice.randrange(5), wants))
+    return (elders, looks, dice.randrange(4), shape, tuple(slots))
+
+
+def diced_crafts(many):
+    """So many CRAFTS within the bounds, always the same ones."""
+    dice = random.Random(20)
+    crafts = []
+    for _ in range(many):
+        sizes = tuple([dice.randrange(3) for _ in range(dice.randint(1, 3))])
+        crafts.append((sizes, tuple([some_row(dice, sizes) for _ in range(dice.randint(1, 6))])))
+    return crafts
+
+
+def diced_webs(craft, many, length, seed=7):
+    """So many WEBS of craft of this length, or of none if no ROW comes, always the same ones."""
+    from tests.plain import plain_next
+    dice = random.Random(seed)
+    webs = []
+    for _ in range(many):
+        web = ()
+        for _ in range(length):
+            deeds = plain_next(craft, web)
+            if deeds:
+                web = (*web, dice.choice(deeds))
+        webs.append(web)
+    return webs

@@ -1,0 +1,156 @@
+"""[2]: how all functions take their arguments, and what they leave as it was."""
+
+import copy
+import inspect
+import unittest
+
+from tests.interface import INTERFACE, found
+from tests.known import CHAIN, COPIES, KEPT, NEVER, PAIRS, TWINS, as_lists, as_mixed
+
+FAN = ((0, ()), (1, (0,)), (1, (1,)), (2, (2,)), (2, (1,)))
+MANY = ((0, ()), (1, (0,)), (2, (0, 1)), (3, (2, 0)), (1, (3,)), (2, (3, 4)))
+COPIED = ((0, ()), (1, (0,)), (2, (1,)), (3, (2,)))
+# For each function some calls; arguments called thing are told apart, as lists are no tuples there.
+CALLS = {
+    "is_craft": [(CHAIN,), (PAIRS,), (5,)],
+    "is_row": [((1,), CHAIN[1][1]), ((2, 1), PAIRS[1][3]), ((2,), CHAIN[1][0])],
+    "shapes_made": [(CHAIN,), (PAIRS,), (NEVER,)],
+    "rows_done": [(CHAIN,), (PAIRS,), (NEVER,)],
+    "idle_rows": [(CHAIN,), (PAIRS,), (NEVER,)],
+    "cut_craft": [(CHAIN,), (PAIRS,), (NEVER,)],
+    "renamed": [(TWINS, (1, 0), (2, 0, 1)), (PAIRS, (0, 1), (3, 2, 1, 0)), (TWINS, (1, 1), (0, 1, 2))],
+    "joined_craft": [(CHAIN, TWINS), (PAIRS, PAIRS)],
+    "new_slots": [(PAIRS,), (KEPT,)],
+    "with_cost": [(PAIRS, 3, 1, 8), (CHAIN, 1, 0, 0), (CHAIN, 3, 0, 0), (CHAIN, 1, 1, 0), (CHAIN, 0, 0, 0)],
+    "is_web": [(CHAIN, FAN), (CHAIN, MANY), (PAIRS, MANY), (TWINS, None)],
+    "next_deeds": [(CHAIN, FAN), (PAIRS, MANY), (PAIRS, ()), (PAIRS, FAN)],
+    "all_webs": [(CHAIN, 0), (CHAIN, 3), (PAIRS, 2), (PAIRS, 5)],
+    "heirs": [(FAN, 1), (MANY, 3), (MANY, 6)],
+    "is_line": [(FAN,), (FAN[:4],), (MANY,), ((),)],
+    "shapes_of": [(CHAIN, FAN), (PAIRS, MANY), (TWINS, FAN)],
+    "comes_from": [(FAN, 4), (MANY, 5), (MANY, -1)],
+    "held": [(CHAIN, FAN), (PAIRS, MANY), (COPIES, COPIED), (TWINS, FAN)],
+    "wanted": [(CHAIN, FAN, (2, 0)), (COPIES, COPIED, (2, 0)), (CHAIN, FAN, (0, 0)), (CHAIN, FAN, (0, 1))],
+    "holders": [(CHAIN, FAN, (2, 0)), (COPIES, COPIED, (0, 0)), (CHAIN, FAN, (0, 0)), (CHAIN, FAN, (9, 1))],
+    "cut_web": [(FAN, (3,)), (MANY, (1, 2)), (MANY, ()), (FAN, (4, 5))],
+    "beside": [((FAN, MANY, ()),), ((),), ((FAN, FAN),)],
+    "ledger": [(CHAIN, FAN), (PAIRS, MANY), (COPIES, COPIED), (TWINS, FAN)],
+    "paid": [(CHAIN, FAN), (PAIRS, MANY), (COPIES, COPIED), (TWINS, FAN)],
+    "cost": [(CHAIN, FAN), (PAIRS, MANY), (COPIES, COPIED), (TWINS, FAN)],
+    "forced_by": [(CHAIN, FAN, (2, 0)), (COPIES, COPIED, (0, 0)), (COPIES, COPIED, (0, 1)), (CHAIN, FAN, (0, 0))],
+    "unforced": [(CHAIN, FAN[:3]), (PAIRS, MANY), (COPIES, COPIED), (TWINS, FAN)],
+    "look_now": [(CHAIN, FAN[:3], 2, 0), (PAIRS, MANY, 3, 1), (CHAIN, FAN, 5, 0), (CHAIN, FAN, 0, 1)],
+}
+
+RAISED = "raised "
+
+
+def outcome(call, arguments, by_name=()):
+    """What the call returns, by repr, or what it raises with all that this keeps."""
+    try:
+        if by_name:
+            return repr(call(**dict(zip(by_name, arguments))))
+        return repr(call(*arguments))
+    except (LookupError, ValueError) as error:
+        return f"{RAISED}{type(error).__name__} {vars(error)!r}"
+
+
+def spoil(value):
+    """Change each list in value."""
+    if isinstance(value, (list, tuple)):
+        for part in value:
+            spoil(part)
+    if isinstance(value, list):
+        value.append("spoilt")
+        value.reverse()
+
+
+class Calls(unittest.TestCase):
+
+    def each(self, check):
+        """Have check look at each call."""
+        for path, table in INTERFACE.items():
+            for name, names in table.items():
+                for arguments in CALLS[name]:
+                    with self.subTest(name=name, arguments=arguments):
+                        check(found(path, name), names, arguments)
+
+    def test_each_function_is_called(self):
+        told = sorted(name for table in INTERFACE.values() for name in table)
+        self.assertEqual(told, sorted(CALLS))
+
+    def test_each_is_defined_in_its_file_with_these_arguments(self):
+        for path, table in INTERFACE.items():
+            for name, names in table.items():
+                call = found(path, name)
+                self.assertEqual(call.__module__, path)
+                told = inspect.signature(call).parameters.values()
+                self.assertEqual(tuple(one.name for one in told), names)
+                self.assertEqual({(one.kind, one.default) for one in told},
+                                 {(inspect.Parameter.POSITIONAL_OR_KEYWORD, inspect.Parameter.empty)})
+
+    def test_by_name_as_by_position(self):
+        self.each(self.check_by_name)
+
+    def check_by_name(self, call, names, arguments):
+        self.assertEqual(outcome(call, arguments, by_name=names), outcome(call, arguments))
+
+    def test_again_the_same(self):
+        self.each(self.check_again)
+
+    def check_again(self, call, names, arguments):
+        first = outcome(call, arguments)
+        self.assertEqual([outcome(call, arguments) for _ in range(2)], [first, first])
+
+    def test_lists_for_tuples_and_mixed(self):
+        self.each(self.check_lists)
+
+    def check_lists(self, call, names, arguments):
+        for turned in (as_lists, as_mixed, lambda value: as_mixed(value, 1)):
+            other = [one if name == "thing" else turned(one) for name, one in zip(names, arguments)]
+            self.assertEqual(outcome(call, other), outcome(call, arguments))
+            self.assertEqual(outcome(call, other, by_name=names), outcome(call, arguments))
+
+    def test_arguments_stay_as_they_were(self):
+        self.each(self.check_arguments)
+
+    def check_arguments(self, call, names, arguments):
+        other = as_lists(arguments)
+        before = copy.deepcopy(other)
+        outcome(call, other)
+        self.assertEqual(other, before)
+
+    def test_what_is_told_is_new(self):
+        self.each(self.check_new)
+
+    def check_new(self, call, names, arguments):
+        for other in (arguments, as_lists(arguments)):
+            before = copy.deepcopy(other)
+            first = outcome(call, other)
+            if not first.startswith(RAISED):
+                spoil(call(*other))
+            self.assertEqual(other, before)
+            self.assertEqual(outcome(call, other), first)
+
+    def test_kinds_of_results(self):
+        self.each(self.check_kind)
+
+    def check_kind(self, call, names, arguments):
+        if outcome(call, arguments).startswith(RAISED):
+            return
+        told = call(*arguments)
+        many = call.__name__ in ("next_deeds", "all_webs", "heirs")
+        self.assertEqual(isinstance(told, list), many)
+        self.assertTrue(built_of_tuples(told if many else [told]))
+
+
+def built_of_tuples(parts):
+    """Whether no part holds a list, at any depth."""
+    for part in parts:
+        if isinstance(part, list) or isinstance(part, tuple) and not built_of_tuples(part):
+            return False
+    return True
+
+
+if __name__ == "__main__":
+    unittest.main()
