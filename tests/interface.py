@@ -19,6 +19,23 @@ INTERFACE = {
         "forced_by": ("craft", "web", "wait"), "unforced": ("craft", "web"),
         "look_now": ("craft", "web", "version", "slot"),
     },
+    "paidbyheirs.manners": {
+        "paid_anew": ("craft", "web", "some"), "cost_anew": ("craft", "web", "some"), "paid_at_once": ("craft", "web"),
+        "cost_at_once": ("craft", "web"), "again": ("craft", "web", "some", "version", "slot"),
+    },
+    "paidbyheirs.errands": {
+        "flags_of": ("craft", "web"), "errand": ("craft", "web", "wait"), "parts_taken": ("craft", "web"),
+        "kinds_of": ("craft", "web"),
+    },
+    "paidbyheirs.kinds": {
+        "is_kind": ("craft", "thing"), "all_kinds": ("craft",), "worth": ("craft", "kind"), "taken": ("craft", "kind"),
+        "made": ("craft", "kind"),
+    },
+    "paidbyheirs.let": {
+        "struck": ("craft",), "let_kinds": ("craft",), "let_sorts": ("craft",), "let_stands": ("craft",),
+        "is_let": ("craft", "kind"), "come_lap": ("craft", "sort"), "end_lap": ("craft", "sort"),
+        "best_kinds": ("craft",),
+    },
 }
 
 

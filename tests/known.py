@@ -33,8 +33,27 @@ NEVER = ((1,), (((0,), (), 0, 0, (("none",),)),))
 STAIRS = ((0, 1, 1, 0), (((3,), (), 0, 0, ()), ((1,), ((0, 0),), 0, 2, (("kept", 0, 0),)),
                          ((0,), (), 0, 1, (("new", 6, ()),)), ((), (), 4, 0, ()),
                          ((0, 3), (), 0, 3, ()), ((2, 2), ((1, 0),), 0, 2, (("none",),))))
+# Slot 1 is never looked at: no VERSION has both in FLAGS.
+HALF = ((2, 0), (((), (), 0, 0, (("new", 1, ()), ("new", 1, ()))), ((0,), ((0, 0),), 0, 1, ())))
+# What one slot held goes on in one of two; no ROW comes.
+PASSES = ((2,), (((0,), (), 1, 0, (("kept", 0, 0), ("kept", 0, 0))),))
+# One WAIT handed on from SHAPE to SHAPE, looked at by the last deed alone.
+RELAY = ((1, 1, 1), (((), (), 1, 0, (("new", 8, ()),)), ((0,), (), 2, 1, (("kept", 0, 0),)),
+                     ((1,), (), 3, 2, (("kept", 0, 0),)), ((2,), ((0, 0),), 4, 2, (("none",),))))
+# What is kept of both elders, in one VERSION, is looked at there at once.
+SHARES = ((1, 2), (((), (), 1, 0, (("new", 5, ()),)), ((0, 0), (), 2, 1, (("kept", 0, 0), ("kept", 1, 0))),
+                   ((1,), ((0, 0), (0, 1)), 3, 0, (("none",),)), ((1, 0), ((0, 1),), 0, 1, (("kept", 0, 0), ("none",)))))
 
-CRAFTS = (CHAIN, TWINS, MELDS, KEPT, DOUBLE, LONE, LATE, CARRY, STRAY, SPROUT, COPIES, PAIRS, NEVER, STAIRS)
+CRAFTS = (CHAIN, TWINS, MELDS, KEPT, DOUBLE, LONE, LATE, CARRY, STRAY, SPROUT, COPIES, PAIRS, NEVER, STAIRS, HALF, PASSES,
+          RELAY, SHARES)
+
+# Rows of KINDS by the score, 1,500 of them in one CRAFT, 1,501 in the other.
+BOTH = ((0, 0), (0, 1), (1, 0), (1, 1))
+MANY_ROWS = (((), (), 1, 0, (("new", 2, ()), ("new", 3, ()))),
+             *[((0, 0), BOTH, number, 0, (("new", number, ()), ("new", 1, BOTH[:number % 4]))) for number in range(18)])
+BORDER = ((2,), (*MANY_ROWS, ((0, 0), (), 1, 0, (("kept", 1, 1), ("kept", 0, 1))),
+                 ((0,), (), 0, 0, (("kept", 0, 1), ("kept", 0, 0))), ((), (), 0, 0, (("new", 3, ()), ("new", 2, ())))))
+BEYOND = ((2,), (*MANY_ROWS, ((0, 0), ((1, 0), (0, 1)), 2, 0, (("kept", 1, 1), ("new", 2, ((0, 1), (1, 0)))))))
 
 
 def deep(levels):

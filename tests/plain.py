@@ -1,6 +1,6 @@
 """The rules of the document once more, told as plainly as can be, to try the program against."""
 
-from itertools import product
+from itertools import combinations, product
 
 
 def is_num(thing):
@@ -147,3 +147,185 @@ class Story:
         if self.versions[version][slot] is not None:
             self.versions[version][slot].force(len(self.versions), "look", log)
         return sum(wait.cost for wait in log)
+
+
+class Payer:
+    """What deeds pay in a manner: a WAIT at a pair of some is paid whenever it is forced."""
+
+    def __init__(self, craft, web, some):
+        self.story = Story(craft, web)
+        self.rows = [row for row, _ in web]
+        self.some = some
+        self.done = set()
+        self.paid = []
+        for row, elders in web:
+            asked = [self.story.versions[elders[place]][slot] for place, slot in craft[1][row][1]]
+            self.paid.append(craft[1][row][2] + sum(self.force(wait) for wait in asked if wait is not None))
+
+    def is_anew(self, wait):
+        return (self.rows[wait.name[0]], wait.name[1]) in self.some
+
+    def force(self, wait):
+        """What is paid for it now."""
+        if wait.name in self.done:
+            return 0
+        pays = sum(self.force(other) for other in wait.wants) + wait.cost
+        if not self.is_anew(wait):
+            self.done.add(wait.name)
+        return pays
+
+    def again(self, wait):
+        """What a look pays if all shared ones are done."""
+        if wait is None or not self.is_anew(wait):
+            return 0
+        return wait.cost + sum(self.again(other) for other in wait.wants)
+
+
+def plain_errand(craft, web, wait):
+    """The ERRAND of a WAIT, None if it is not done: found forwards, along all slots that keep it."""
+    story = Story(craft, web)
+    reason = story.waits[wait].done_by
+    if reason is None:
+        return None
+    if reason[1] == "look":
+        heir, place, asked = reason[0], reason[2], reason[3]
+    else:
+        heir, own = reason[2]
+        row, elders = web[heir]
+        for place, asked in craft[1][row][4][own][2]:
+            held = story.versions[elders[place]][asked]
+            if held is not None and held.name == wait:
+                break
+    goal = (web[heir][1][place], asked)
+    ways = [(wait,)]
+    for way in ways:
+        if way[-1] == goal:
+            return (*way, (heir, place))
+        for version, (row, elders) in enumerate(web):
+            for slot, told in enumerate(craft[1][row][4]):
+                if told[0] == "kept" and (elders[told[1]], told[2]) == way[-1]:
+                    ways.append((*way, (version, slot)))
+    raise AssertionError("no way")
+
+
+def plain_kinds_of(craft, web):
+    """The KINDS of all VERSIONS, from the ERRANDS."""
+    story = Story(craft, web)
+    flags = [tuple(slot for slot, wait in enumerate(made) if wait is None or wait.done_by is not None)
+             for made in story.versions]
+    taken = {}
+    for wait in story.waits:
+        way = plain_errand(craft, web, wait)
+        if way is None:
+            continue
+        for (version, slot), (heir, to) in zip(way[:-2], way[1:-1]):
+            place = craft[1][web[heir][0]][4][to][1]
+            taken.setdefault((heir, place, version), set()).add(slot)
+        taken.setdefault((*way[-1], way[-2][0]), set()).add(way[-2][1])
+    kinds = []
+    for version, (row, elders) in enumerate(web):
+        takes = tuple((flags[elder], tuple(sorted(taken.get((version, place, elder), ()))))
+                      for place, elder in enumerate(elders))
+        parts = sorted(tuple(sorted(slots)) for (_, _, elder), slots in taken.items() if elder == version)
+        kinds.append((row, takes, flags[version], tuple(parts)))
+    return tuple(kinds)
+
+
+def powers(slots):
+    """All sets of some of slots."""
+    return [tuple(sorted(some)) for many in range(len(slots) + 1) for some in combinations(slots, many)]
+
+
+def plain_is_set(thing, many):
+    return is_tup(thing) and all(is_num(one) and 0 <= one < many for one in thing) and list(thing) == sorted(set(thing))
+
+
+def plain_is_kind(craft, thing):
+    """Whether thing is a KIND, by trying all ways in which the errands that come may end or go on."""
+    sizes, rows = craft
+    if not is_tup(thing, 4) or not is_num(thing[0]) or not 0 <= thing[0] < len(rows):
+        return False
+    row, takes, flags, parts = thing
+    elders, looks, _, shape, slots = rows[row]
+    if not is_tup(takes, len(elders)) or not plain_is_set(flags, sizes[shape]) or not is_tup(parts):
+        return False
+    for elder, pair in zip(elders, takes):
+        if not is_tup(pair, 2) or not plain_is_set(pair[0], sizes[elder]) or not plain_is_set(pair[1], sizes[elder]):
+            return False
+        if not set(pair[1]) <= set(pair[0]):
+            return False
+    if not all(plain_is_set(part, sizes[shape]) and part and set(part) <= set(flags) for part in parts):
+        return False
+    told = [slot for part in parts for slot in part]
+    if list(parts) != sorted(set(parts)) or len(told) != len(set(told)):
+        return False
+    if not all(slot in takes[place][0] for place, slot in looks):
+        return False
+    new = [slot for slot in flags if slots[slot][0] == "new"]
+    for slot, own in enumerate(slots):
+        if own[0] == "none" and slot not in flags:
+            return False
+        if own[0] == "kept" and (slot in flags) != (own[2] in takes[own[1]][0]):
+            return False
+    if not all(slot in takes[place][0] for own in new for place, slot in slots[own][2]):
+        return False
+    asked = [(place, slot) for place, (_, part) in enumerate(takes) for slot in part]
+    fates = []
+    for pair in asked:
+        keeps = [slot for slot, own in enumerate(slots) if own == ("kept", *pair)]
+        wanted = any(pair in slots[own][2] for own in new)
+        fates.append([None] if pair in looks else [*keeps, *([None] if wanted else [])])
+    return any(sorted([*new, *[slot for slot in fate if slot is not None]]) == sorted(told)
+               for fate in product(*fates))
+
+
+def plain_parts(slots):
+    """All sets of sets, none (), that hold just slots."""
+    some = [part for part in powers(slots) if part]
+    return [parts for parts in powers(some) if sorted(slot for part in parts for slot in part) == sorted(slots)]
+
+
+def plain_all_kinds(craft):
+    sizes, rows = craft
+    told = []
+    for number, (elders, _, _, shape, _) in enumerate(rows):
+        pairs = [[(flags, part) for flags in powers(range(sizes[elder])) for part in powers(flags)] for elder in elders]
+        for takes in product(*pairs):
+            for flags in powers(range(sizes[shape])):
+                for gone in powers(flags):
+                    told.extend((number, takes, flags, parts) for parts in plain_parts(gone))
+    return sorted(kind for kind in told if plain_is_kind(craft, kind))
+
+
+def plain_sorts(craft, kind):
+    """The STANDS and SORTS of a KIND: stands on, takes, stand, makes."""
+    row, takes, flags, parts = kind
+    elders, _, _, shape, _ = craft[1][row]
+    return ([(elder, pair[0]) for elder, pair in zip(elders, takes)],
+            [(elder, *pair) for elder, pair in zip(elders, takes) if pair[1]],
+            (shape, flags), [(shape, flags, part) for part in parts])
+
+
+def plain_struck(craft):
+    """The rounds of striking and what is left, one thing after another until no more comes or ends."""
+    left = plain_all_kinds(craft)
+    rounds = []
+    while True:
+        come, ended, before = set(), set(), None
+        while before != (len(come), len(ended)):
+            before = (len(come), len(ended))
+            for kind in left:
+                stands, takes, stand, makes = plain_sorts(craft, kind)
+                if come.issuperset(stands) and come.issuperset(takes):
+                    come |= {stand, *makes}
+                    if ended.issuperset(makes):
+                        ended |= set(takes)
+        bad = []
+        for kind in left:
+            stands, takes, _, makes = plain_sorts(craft, kind)
+            if not come.issuperset([*stands, *takes]) or not ended.issuperset(makes):
+                bad.append(kind)
+        if not bad:
+            return rounds, left
+        rounds.append(bad)
+        left = [kind for kind in left if kind not in bad]

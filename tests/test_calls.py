@@ -5,11 +5,13 @@ import inspect
 import unittest
 
 from tests.interface import INTERFACE, found
-from tests.known import CHAIN, COPIES, KEPT, NEVER, PAIRS, TWINS, as_lists, as_mixed
+from tests.known import BEYOND, CHAIN, COPIES, HALF, KEPT, NEVER, PAIRS, TWINS, as_lists, as_mixed
 
 FAN = ((0, ()), (1, (0,)), (1, (1,)), (2, (2,)), (2, (1,)))
 MANY = ((0, ()), (1, (0,)), (2, (0, 1)), (3, (2, 0)), (1, (3,)), (2, (3, 4)))
 COPIED = ((0, ()), (1, (0,)), (2, (1,)), (3, (2,)))
+MAKE = (0, (), (0, 1), ((0,), (1,)))
+PUT = (1, (((0,), (0,)),), (0,), ((0,),))
 # For each function some calls; arguments called thing are told apart, as lists are no tuples there.
 CALLS = {
     "is_craft": [(CHAIN,), (PAIRS,), (5,)],
@@ -40,7 +42,32 @@ CALLS = {
     "forced_by": [(CHAIN, FAN, (2, 0)), (COPIES, COPIED, (0, 0)), (COPIES, COPIED, (0, 1)), (CHAIN, FAN, (0, 0))],
     "unforced": [(CHAIN, FAN[:3]), (PAIRS, MANY), (COPIES, COPIED), (TWINS, FAN)],
     "look_now": [(CHAIN, FAN[:3], 2, 0), (PAIRS, MANY, 3, 1), (CHAIN, FAN, 5, 0), (CHAIN, FAN, 0, 1)],
+    "paid_anew": [(CHAIN, FAN, ((1, 0),)), (PAIRS, MANY, ((0, 0), (3, 1))), (COPIES, COPIED, ()), (TWINS, FAN, ())],
+    "cost_anew": [(CHAIN, FAN, ((1, 0),)), (PAIRS, MANY, ((0, 0), (3, 1))), (COPIES, COPIED, ()), (TWINS, FAN, ())],
+    "paid_at_once": [(CHAIN, FAN), (PAIRS, MANY), (COPIES, COPIED), (TWINS, FAN)],
+    "cost_at_once": [(CHAIN, FAN), (PAIRS, MANY), (COPIES, COPIED), (TWINS, FAN)],
+    "again": [(CHAIN, FAN, ((1, 0),), 2, 0), (PAIRS, MANY, ((0, 0), (1, 0)), 4, 0), (CHAIN, FAN, ((1, 0),), 5, 0),
+              (CHAIN, FAN, ((1, 0),), 0, 1)],
+    "flags_of": [(CHAIN, FAN), (PAIRS, MANY), (COPIES, COPIED), (TWINS, FAN)],
+    "errand": [(CHAIN, FAN, (1, 0)), (PAIRS, MANY, (0, 0)), (COPIES, COPIED, (0, 1)), (CHAIN, FAN, (0, 0)),
+               (CHAIN, FAN[:3], (1, 0))],
+    "parts_taken": [(CHAIN, FAN), (PAIRS, MANY), (COPIES, COPIED), (TWINS, FAN)],
+    "kinds_of": [(CHAIN, FAN), (PAIRS, MANY), (COPIES, COPIED), (TWINS, FAN)],
+    "is_kind": [(TWINS, MAKE), (TWINS, (0, (), (0, 1), ((0,),))), (PAIRS, MANY), (TWINS, None)],
+    "all_kinds": [(CHAIN,), (PAIRS,), (NEVER,), (BEYOND,)],
+    "worth": [(TWINS, MAKE), (CHAIN, PUT), (CHAIN, MAKE)],
+    "taken": [(TWINS, MAKE), (CHAIN, PUT), (CHAIN, MAKE)],
+    "made": [(TWINS, MAKE), (CHAIN, PUT), (CHAIN, MAKE)],
+    "struck": [(CHAIN,), (HALF,), (NEVER,), (BEYOND,)],
+    "let_kinds": [(CHAIN,), (PAIRS,), (NEVER,), (BEYOND,)],
+    "let_sorts": [(TWINS,), (PAIRS,), (NEVER,), (BEYOND,)],
+    "let_stands": [(TWINS,), (PAIRS,), (NEVER,), (BEYOND,)],
+    "is_let": [(TWINS, MAKE), (TWINS, (0, (), (0, 1), ((0, 1),))), (CHAIN, MAKE), (BEYOND, MAKE)],
+    "come_lap": [(CHAIN, (0, (0,), (0,))), (TWINS, (0, (0, 1), (1,))), (TWINS, (0, (0,), (1,))), (BEYOND, (0, (0,), (0,)))],
+    "end_lap": [(CHAIN, (0, (0,), (0,))), (TWINS, (0, (0, 1), (1,))), (TWINS, (0, (0,), (1,))), (BEYOND, (0, (0,), (0,)))],
+    "best_kinds": [(CHAIN,), (PAIRS,), (NEVER,), (BEYOND,)],
 }
+LISTS = ("next_deeds", "all_webs", "heirs", "all_kinds", "taken", "made", "struck", "let_kinds", "best_kinds")
 
 RAISED = "raised "
 
@@ -139,8 +166,11 @@ class Calls(unittest.TestCase):
         if outcome(call, arguments).startswith(RAISED):
             return
         told = call(*arguments)
-        many = call.__name__ in ("next_deeds", "all_webs", "heirs")
+        many = call.__name__ in LISTS
         self.assertEqual(isinstance(told, list), many)
+        if call.__name__ == "struck":
+            self.assertTrue(all(isinstance(lost, list) for lost in told))
+            told = [kind for lost in told for kind in lost]
         self.assertTrue(built_of_tuples(told if many else [told]))
 
 
