@@ -12,6 +12,8 @@ PACKAGE = os.path.join(ROOT, "paidbyheirs")
 BUILTINS = set("""len range enumerate zip min max sum abs sorted reversed int str bool bytes list tuple dict set frozenset
 isinstance ord repr any all divmod pow Exception ValueError TypeError KeyError IndexError LookupError ZeroDivisionError
 ArithmeticError OverflowError RuntimeError NotImplementedError AttributeError StopIteration""".split())
+# Without the name that doctest leaves there.
+BUILT_IN = set(dir(builtins)) - {"_"}
 METHODS = set("""append clear copy count endswith extend find get index insert isalnum isalpha isdigit islower isspace
 isupper items join keys ljust lower lstrip partition pop remove replace reverse rfind rjust rpartition rsplit rstrip
 setdefault split splitlines startswith strip update upper values zfill bit_length add discard""".split())
@@ -77,7 +79,7 @@ class Language(unittest.TestCase):
     def test_files(self):
         for name in files():
             self.assertRegex(name, r"^([a-z][a-z0-9_]*|__init__)\.py$")
-            self.assertNotIn(name[:-3], dir(builtins))
+            self.assertNotIn(name[:-3], BUILT_IN)
             self.assertFalse(name.startswith(("test", "law_")))
             self.assertNotIn(name[:-3], BARRED | {"site", "conftest"})
         self.assertIn("__init__.py", files())
@@ -144,7 +146,7 @@ class Language(unittest.TestCase):
 
     def test_names(self):
         for name, tree in self.trees.items():
-            barred = BARRED | set(dir(builtins))
+            barred = BARRED | BUILT_IN
             for word, node in bound_names(tree):
                 if word.startswith("__") and isinstance(self.parents.get(node), ast.ClassDef):
                     self.assertIn(word, ("__init__", "__eq__", "__repr__", "__str__", "__len__"))
@@ -169,7 +171,7 @@ class Language(unittest.TestCase):
     def test_builtins(self):
         for name, tree in self.trees.items():
             for node in ast.walk(tree):
-                if isinstance(node, ast.Name) and node.id in dir(builtins):
+                if isinstance(node, ast.Name) and node.id in BUILT_IN:
                     self.assertIn(node.id, BUILTINS, f"{name}:{node.lineno}")
 
     def test_methods(self):
