@@ -26,6 +26,11 @@ def is_ascending(things):
     return all([things[at - 1] < things[at] for at in range(1, len(things))])
 
 
+def is_numbers(thing):
+    """Whether thing is a tuple of numbers."""
+    return isinstance(thing, tuple) and all([is_number(number) for number in thing])
+
+
 def is_set_below(thing, many):
     """Whether thing is a set of numbers from 0, below many."""
     return isinstance(thing, tuple) and all([is_below(number, many) for number in thing]) and is_ascending(thing)

@@ -8,7 +8,7 @@ that it makes.
 
 from paidbyheirs.crafts import fit_craft
 from paidbyheirs.errors import Unfit
-from paidbyheirs.forms import as_tuples, ascending
+from paidbyheirs.forms import as_tuples, ascending, is_number, is_numbers, is_tuple_of
 from paidbyheirs.kinds import fit_kind, kinds_found, sorts_made, sorts_taken
 
 # From a SORT down to its slots.
@@ -97,6 +97,13 @@ def best_deals(deals):
         kind, _, takes, _, makes = deal
         best.setdefault((kind[0], tuple(sorted(takes)), tuple(sorted(makes))), deal)
     return list(best.values())
+
+
+def is_sort(thing, sort):
+    """Whether thing is this SORT: True in the place of 1 is none."""
+    if not is_tuple_of(thing, 3) or not is_number(thing[0]) or not is_numbers(thing[1]) or not is_numbers(thing[2]):
+        return False
+    return thing == sort
 
 
 def struck(craft):

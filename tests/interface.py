@@ -36,6 +36,30 @@ INTERFACE = {
         "is_let": ("craft", "kind"), "come_lap": ("craft", "sort"), "end_lap": ("craft", "sort"),
         "best_kinds": ("craft",),
     },
+    "paidbyheirs.bundles": {
+        "is_plan": ("craft", "thing"), "web_of": ("plan",), "pending": ("plan",), "plan_for": ("craft", "web"),
+        "bundle_of": ("plan",), "is_bundle": ("craft", "thing"), "bundle_deeds": ("bundle",),
+        "bundle_rows": ("craft", "bundle"), "bundle_worth": ("craft", "bundle"), "begun": ("craft", "sorts"),
+        "is_begun": ("craft", "sorts", "thing"), "ended": ("craft", "plan"), "is_ended": ("craft", "plan", "thing"),
+        "repeated": ("craft", "bundle", "many"), "rest": ("craft", "bundle"),
+    },
+    "paidbyheirs.cuts": {
+        "is_fraction": ("thing",), "cut": ("number", "many"), "added": ("one", "another"),
+        "taken_off": ("one", "another"), "multiplied": ("one", "another"), "divided": ("one", "another"),
+        "order": ("one", "another"),
+    },
+    "paidbyheirs.lines": {
+        "is_mix": ("columns", "thing"), "mix_gain": ("columns", "mix"), "gaining": ("columns",),
+        "is_gaining": ("columns", "thing"), "rates": ("columns",), "is_rates": ("columns", "thing"),
+        "best_share": ("columns", "weights"), "best_mix": ("columns", "weights"),
+        "is_best_mix": ("columns", "weights", "thing"), "craft_columns": ("craft", "payments"),
+    },
+    "paidbyheirs.payments": {
+        "is_enough": ("craft", "payments"), "prices": ("craft", "payments"),
+        "is_prices": ("craft", "payments", "thing"), "breaking": ("craft", "payments"),
+        "is_breaking": ("craft", "payments", "thing"), "even": ("craft", "fraction"), "mean": ("craft",),
+        "mean_bundle": ("craft",), "is_mean_bundle": ("craft", "thing"),
+    },
 }
 
 

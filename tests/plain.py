@@ -329,3 +329,70 @@ def plain_struck(craft):
             return rounds, left
         rounds.append(bad)
         left = [kind for kind in left if kind not in bad]
+
+
+def plain_is_plan(craft, thing):
+    """Whether thing is a PLAN, each STEP held against all those ahead of it."""
+    if not is_tup(thing):
+        return False
+    given = []
+    for at, step in enumerate(thing):
+        if not is_tup(step, 2) or not plain_is_kind(craft, step[0]) or not is_tup(step[1]):
+            return False
+        (row, takes, _, _), givers = step
+        if len(givers) != len(takes):
+            return False
+        for elder, (flags, part), giver in zip(craft[1][row][0], takes, givers):
+            if not is_tup(giver, 2) or not is_num(giver[0]) or not 0 <= giver[0] < at:
+                return False
+            other = thing[giver[0]][0]
+            if craft[1][other[0]][3] != elder or other[2] != flags:
+                return False
+            if not part:
+                if giver[1] is not None:
+                    return False
+                continue
+            if not is_num(giver[1]) or not 0 <= giver[1] < len(other[3]) or other[3][giver[1]] != part:
+                return False
+            if giver in given:
+                return False
+            given.append(giver)
+    return True
+
+
+def plain_pending(plan):
+    """The pairs (version, number) of the PARTS that nobody takes."""
+    parts = [(version, number) for version, (kind, _) in enumerate(plan) for number in range(len(kind[3]))]
+    for _, givers in plan:
+        for giver in givers:
+            if giver[1] is not None:
+                parts.remove(giver)
+    return tuple(parts)
+
+
+def plain_balance(craft, bundle):
+    """How often the KINDS of bundle make each SORT less how often they take it, all that is not even."""
+    left = {}
+    for kind, number in bundle:
+        _, takes, _, makes = plain_sorts(craft, kind)
+        for sort in makes:
+            left[sort] = left.get(sort, 0) + number
+        for sort in takes:
+            left[sort] = left.get(sort, 0) - number
+    return {sort: many for sort, many in left.items() if many}
+
+
+def plain_is_bundle(craft, let, thing):
+    """Whether thing is a BUNDLE, let being the let KINDS."""
+    if not is_tup(thing) or not thing or not all(is_tup(pair, 2) and is_num(pair[1]) and pair[1] > 0 for pair in thing):
+        return False
+    if not all(plain_is_kind(craft, kind) and kind in let for kind, _ in thing):
+        return False
+    kinds = [kind for kind, _ in thing]
+    return kinds == sorted(set(kinds)) and not plain_balance(craft, thing)
+
+
+def plain_worth(craft, kind):
+    row, _, flags, _ = kind
+    _, _, cost, _, slots = craft[1][row]
+    return cost + sum(own[1] for slot, own in enumerate(slots) if own[0] == "new" and slot in flags)

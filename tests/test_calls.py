@@ -12,6 +12,12 @@ MANY = ((0, ()), (1, (0,)), (2, (0, 1)), (3, (2, 0)), (1, (3,)), (2, (3, 4)))
 COPIED = ((0, ()), (1, (0,)), (2, (1,)), (3, (2,)))
 MAKE = (0, (), (0, 1), ((0,), (1,)))
 PUT = (1, (((0,), (0,)),), (0,), ((0,),))
+PLAN = ((MAKE, ()), ((1, (((0, 1), (0,)),), (), ()), ((0, 0),)), ((2, (((0, 1), (1,)),), (), ()), ((0, 1),)))
+TRIO = tuple((kind, 1) for kind, _ in PLAN)
+SORT = (0, (0, 1), (0,))
+LOOP = (1, (((0,), (0,)),), (0,), ((0,),))
+TIGHT, LOOSE = (((4, 3), (-1,)), ((-8, 3), (2,))), (((3, 2), (-1,)), ((-5, 2), (2,)))
+FAIR = ((1, 2), (3, 1), (3, 1))
 # For each function some calls; arguments called thing are told apart, as lists are no tuples there.
 CALLS = {
     "is_craft": [(CHAIN,), (PAIRS,), (5,)],
@@ -66,6 +72,47 @@ CALLS = {
     "come_lap": [(CHAIN, (0, (0,), (0,))), (TWINS, (0, (0, 1), (1,))), (TWINS, (0, (0,), (1,))), (BEYOND, (0, (0,), (0,)))],
     "end_lap": [(CHAIN, (0, (0,), (0,))), (TWINS, (0, (0, 1), (1,))), (TWINS, (0, (0,), (1,))), (BEYOND, (0, (0,), (0,)))],
     "best_kinds": [(CHAIN,), (PAIRS,), (NEVER,), (BEYOND,)],
+    "is_plan": [(TWINS, PLAN), (TWINS, PLAN[1:]), (TWINS, None)],
+    "web_of": [(PLAN,), ((),), (PLAN[:1],)],
+    "pending": [(PLAN,), ((),), (PLAN[:1],)],
+    "plan_for": [(CHAIN, FAN), (PAIRS, MANY), (COPIES, COPIED), (TWINS, FAN)],
+    "bundle_of": [(PLAN,), ((),), (PLAN[:1],)],
+    "is_bundle": [(TWINS, TRIO), (TWINS, TRIO[1:]), (BEYOND, TRIO)],
+    "bundle_deeds": [(TRIO,), (TRIO[:1],)],
+    "bundle_rows": [(TWINS, TRIO), (TWINS, TRIO[:1])],
+    "bundle_worth": [(TWINS, TRIO), (TWINS, TRIO[:1])],
+    "begun": [(TWINS, (SORT, SORT)), (TWINS, ()), (TWINS, ((0, (0, 1), (0, 1)),)), (BEYOND, (SORT,))],
+    "is_begun": [(TWINS, (SORT,), PLAN[:1]), (TWINS, (SORT, SORT), PLAN[:1]), (BEYOND, (SORT,), ())],
+    "ended": [(TWINS, PLAN[:1]), (TWINS, PLAN), (TWINS, (((0, (), (0, 1), ((0, 1),)), ()),)), (BEYOND, ())],
+    "is_ended": [(TWINS, PLAN[:1], PLAN), (TWINS, PLAN, PLAN[:1]), (BEYOND, (), ())],
+    "repeated": [(TWINS, TRIO, 2), (CHAIN, ((LOOP, 2),), 3), (BEYOND, TRIO, 1)],
+    "rest": [(TWINS, TRIO), (CHAIN, ((LOOP, 2),)), (BEYOND, TRIO)],
+    "is_fraction": [((-1, 2),), ((2, 4),), (None,)],
+    "cut": [(6, -4), (0, 5), (1, 0)],
+    "added": [((1, 2), (-1, 6))],
+    "taken_off": [((1, 2), (-1, 6))],
+    "multiplied": [((1, 2), (-1, 6))],
+    "divided": [((1, 2), (-1, 6)), ((1, 2), (0, 1))],
+    "order": [((1, 2), (-1, 6)), ((1, 2), (1, 2))],
+    "is_mix": [(LOOSE, (2, 1)), (LOOSE, (1, 2))],
+    "mix_gain": [(LOOSE, (2, 1)), (TIGHT, (2, 1))],
+    "gaining": [(LOOSE,), (TIGHT,), ((((1, 2), ()), ((3, 1), ())),)],
+    "is_gaining": [(LOOSE, (2, 1)), (TIGHT, (2, 1))],
+    "rates": [(LOOSE,), (TIGHT,), ((((-1, 2), ()), ((-3, 1), ())),)],
+    "is_rates": [(TIGHT, ((-4, 3),)), (LOOSE, ((-4, 3),))],
+    "best_share": [(LOOSE, ((1, 1), (1, 2))), (LOOSE, ((0, 1), (0, 1))), (TIGHT, ((0, 1), (0, 1)))],
+    "best_mix": [(LOOSE, ((1, 1), (1, 2))), (LOOSE, ((0, 1), (0, 1))), (TIGHT, ((0, 1), (1, 1)))],
+    "is_best_mix": [(LOOSE, ((1, 1), (1, 2)), (2, 1)), (LOOSE, ((0, 1), (0, 1)), (2, 1))],
+    "craft_columns": [(TWINS, FAIR), (TWINS, FAIR[:2]), (NEVER, FAIR[:1]), (BEYOND, ())],
+    "is_enough": [(TWINS, FAIR), (CHAIN, FAIR), (TWINS, FAIR[:2]), (BEYOND, ())],
+    "prices": [(TWINS, FAIR), (TWINS, ((1, 1),) * 3), (TWINS, FAIR[:2]), (BEYOND, ())],
+    "is_prices": [(CHAIN, FAIR, (((0, (0,), (0,)), (0, 1)),)), (TWINS, FAIR, ()), (BEYOND, (), ())],
+    "breaking": [(TWINS, FAIR), (TWINS, ((1, 1),) * 3), (TWINS, FAIR[:2]), (BEYOND, ())],
+    "is_breaking": [(TWINS, ((1, 1),) * 3, TRIO), (TWINS, FAIR, TRIO), (BEYOND, (), ())],
+    "even": [(TWINS, (3, 2)), (BEYOND, (0, 1))],
+    "mean": [(TWINS,), (NEVER,), (BEYOND,)],
+    "mean_bundle": [(TWINS,), (PAIRS,), (NEVER,), (BEYOND,)],
+    "is_mean_bundle": [(TWINS, TRIO), (TWINS, TRIO[:1]), (BEYOND, TRIO)],
 }
 LISTS = ("next_deeds", "all_webs", "heirs", "all_kinds", "taken", "made", "struck", "let_kinds", "best_kinds")
 
