@@ -42,8 +42,7 @@ def is_step(craft, ahead, given, thing):
     for shape, pair, giver in zip(elders, kind[1], givers):
         if not is_giver(craft, ahead, given, (shape, *pair), giver):
             return False
-        if giver[1] is not None:
-            given[giver] = True
+        given[giver] = True
     return True
 
 

@@ -29,35 +29,33 @@ def has_come(laps, deal):
     return all([own in laps for own in stands]) and all([sort in laps for sort in takes])
 
 
-def come_laps(deals):
-    """The dict with the lap of each STAND and SORT that is come to by these DEALS."""
+def laps_of(told):
+    """The dict with the lap of whatever is given, told by pairs (asks, gives), lists.
+
+    What is given in a lap is so by those pairs of which all that they ask was
+    given in laps ahead.
+    """
     laps = {}
     lap = 0
     many = -1
     while many < len(laps):
         many = len(laps)
         lap += 1
-        come = [deal for deal in deals if has_come(laps, deal)]
-        for _, _, _, stand, makes in come:
-            for own in [stand, *makes]:
+        ready = [gives for asks, gives in told if all([own in laps for own in asks])]
+        for gives in ready:
+            for own in gives:
                 laps.setdefault(own, lap)
     return laps
 
 
+def come_laps(deals):
+    """The dict with the lap of each STAND and SORT that is come to by these DEALS."""
+    return laps_of([([*stands, *takes], [stand, *makes]) for _, stands, takes, stand, makes in deals])
+
+
 def end_laps(deals, come):
     """The dict with the lap of each SORT that is ended by these DEALS, by which what stands in come is come to."""
-    started = [deal for deal in deals if has_come(come, deal)]
-    laps = {}
-    lap = 0
-    many = -1
-    while many < len(laps):
-        many = len(laps)
-        lap += 1
-        ending = [deal for deal in started if all([sort in laps for sort in deal[4]])]
-        for _, _, takes, _, _ in ending:
-            for sort in takes:
-                laps.setdefault(sort, lap)
-    return laps
+    return laps_of([(deal[4], deal[2]) for deal in deals if has_come(come, deal)])
 
 
 def split_round(deals):

@@ -1,12 +1,12 @@
 """TABLEAUS: a MIX that gains, or the best one, found exactly by exchanging one COLUMN of a basis for another.
 
 A TABLEAU has a row for each place, a row for the weights and one for the
-gains; below them stands its goal, which is to grow. Its columns are the
-COLUMNS of [13], whole numbers throughout, then one for each place, by which
-RATES are told at the end, and one, the margins, that lets steps lead on. All
-its numbers are to be divided by its scale, which is above 0. The basis has
-for each place the COLUMN that has the scale there and 0 in all other rows,
-None where all COLUMNS have 0.
+gains; below them stands its goal, which is to grow: the gains, at first. Its
+columns are the COLUMNS of [13], whole numbers throughout, then one for each
+place, by which RATES are told at the end, and one, the margins, that lets
+steps lead on. All its numbers are to be divided by its scale, which is above
+0. The basis has for each place the COLUMN that has the scale there and 0 in
+all other rows, None where all COLUMNS have 0.
 """
 
 from math import gcd
@@ -112,7 +112,6 @@ class Tableau:
 
     def gaining_mix(self):
         """The list of the numbers of a MIX that gains; None if none does."""
-        self.aim(1, 0)
         column = self.climb()
         return None if column is None else self.mix(column)
 

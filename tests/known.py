@@ -47,8 +47,16 @@ SHARES = ((1, 2), (((), (), 1, 0, (("new", 5, ()),)), ((0, 0), (), 2, 1, (("kept
 CRAFTS = (CHAIN, TWINS, MELDS, KEPT, DOUBLE, LONE, LATE, CARRY, STRAY, SPROUT, COPIES, PAIRS, NEVER, STAIRS, HALF, PASSES,
           RELAY, SHARES)
 
-# Rows of KINDS by the score, 1,500 of them in one CRAFT, 1,501 in the other.
+# As much as the bounds let be, or nearly: slots that are kept, wanted and looked at by two elders.
 BOTH = ((0, 0), (0, 1), (1, 0), (1, 1))
+AMPLE = ((2, 2, 2), (((), (), 1, 0, (("new", 10 ** 6, ()), ("new", 3, ()))),
+                     ((0, 0), BOTH[:2], 2, 1, (("new", 5, BOTH[2:]), ("kept", 1, 0))),
+                     ((1, 0), BOTH[2:], 10 ** 6, 2, (("kept", 0, 0), ("new", 7, BOTH[:2]))),
+                     ((2, 1), (BOTH[3], BOTH[0]), 4, 0, (("kept", 0, 1), ("new", 2, BOTH))),
+                     ((2, 2), (), 5, 2, (("kept", 0, 0), ("kept", 1, 1))),
+                     ((0, 2), (BOTH[3],), 6, 1, (("new", 9, BOTH[:1]), ("new", 11, BOTH[2:3])))))
+
+# Rows of KINDS by the score, 1,500 of them in one CRAFT, 1,501 in the other.
 MANY_ROWS = (((), (), 1, 0, (("new", 2, ()), ("new", 3, ()))),
              *[((0, 0), BOTH, number, 0, (("new", number, ()), ("new", 1, BOTH[:number % 4]))) for number in range(18)])
 BORDER = ((2,), (*MANY_ROWS, ((0, 0), (), 1, 0, (("kept", 1, 1), ("kept", 0, 1))),

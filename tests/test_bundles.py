@@ -11,7 +11,7 @@ from paidbyheirs.kinds import made
 from paidbyheirs.ledgers import cost
 from paidbyheirs.let import let_kinds, let_sorts
 from paidbyheirs.payments import mean_bundle
-from tests.known import BEYOND, BORDER, CARRY, CHAIN, COPIES, CRAFTS, HALF, JUNK, LONE, MELDS, NEVER, RELAY, SHARES, STRAY
+from tests.known import BEYOND, BORDER, CARRY, CHAIN, CRAFTS, HALF, JUNK, LONE, MELDS, NEVER, RELAY, SHARES, STRAY
 from tests.known import TWINS, diced_crafts, diced_webs, variants
 from tests.plain import plain_is_bundle, plain_is_plan, plain_pending, plain_struck, plain_worth
 
@@ -53,7 +53,8 @@ class IsPlan(unittest.TestCase):
         self.assertIs(is_plan(TWINS, ((MAKE, ()), (LEFT, ((0, 1),)))), False)
         self.assertIs(is_plan(TWINS, ((MAKE, ()), (LEFT, ((0, 2),)))), False)
         self.assertIs(is_plan(TWINS, ((MAKE, ()), (LEFT, ((0, None),)))), False)
-        self.assertIs(is_plan(TWINS, ((FULL, ()), (LEFT, ((0, 0),)))), False)
+        for number in (0, 1, 2):
+            self.assertIs(is_plan(TWINS, ((FULL, ()), (LEFT, ((0, number),)))), False)
         bare = (1, (((0, 1), ()),), (), ())
         self.assertIs(is_plan(TWINS, ((MAKE, ()), (bare, ((0, None),)), (bare, ((0, None),)))), True)
         self.assertIs(is_plan(TWINS, ((MAKE, ()), (bare, ((0, 0),)))), False)
@@ -200,6 +201,7 @@ class Begun(unittest.TestCase):
             self.assertIs(is_begun(craft, (), ()), True)
         self.assertIs(is_begun(TWINS, (), PLAN[:2]), True)
         self.assertIs(is_begun(TWINS, (), ((FULL, ()),)), False)
+        self.assertIs(is_begun(TWINS, (), ((FULL, ()), (MAKE, ()))), False)
 
     def test_of_both_places(self):
         sorts = ((0, (0, 1), (0,)), (0, (0, 1), (1,)), (0, (0, 1), (1,)), (0, (0,), (0,)))

@@ -201,6 +201,19 @@ class Language(unittest.TestCase):
                 self.assertNotIn("%", node.value, place)
                 self.assertNotRegex(node.value, r"\._{1,2}$")
 
+    def test_stars_and_the_library_in_calls(self):
+        own = {node.name for _, node in self.nodes(ast.FunctionDef, ast.ClassDef)}
+        library = set().union(*LIBRARY.values())
+        for place, node in self.nodes(ast.Call):
+            if any(isinstance(one, ast.Starred) for one in node.args):
+                self.assertIn(getattr(node.func, "id", getattr(node.func, "attr", None)), own | {"max", "min", "zip"}, place)
+            if getattr(node.func, "id", None) in library:
+                self.assertEqual(node.keywords, [], place)
+        for place, node in self.nodes(ast.Name):
+            if node.id in library:
+                above = self.parents[node]
+                self.assertTrue(isinstance(above, ast.Call) and above.func is node, place)
+
     def test_sets_and_what_is_iterated_at_once(self):
         for place, node in self.nodes(ast.Call):
             if not isinstance(node.func, ast.Name):

@@ -8,8 +8,8 @@ from paidbyheirs.cuts import added, cut, taken_off
 from paidbyheirs.errors import CanNot, TooMany, Unfit
 from paidbyheirs.let import let_kinds, let_sorts
 from paidbyheirs.payments import breaking, even, is_breaking, is_enough, is_mean_bundle, is_prices, mean, mean_bundle, prices
-from tests.known import BEYOND, BORDER, CARRY, CHAIN, CRAFTS, DOUBLE, HALF, JUNK, KEPT, LATE, LONE, MELDS, NEVER, PASSES
-from tests.known import RELAY, SPROUT, STAIRS, STRAY, TWINS, deep, diced_crafts, variants
+from tests.known import AMPLE, BEYOND, BORDER, CARRY, CHAIN, CRAFTS, DOUBLE, HALF, JUNK, KEPT, LATE, LONE, MELDS, NEVER
+from tests.known import PASSES, RELAY, SPROUT, STAIRS, STRAY, TWINS, deep, diced_crafts, variants
 from tests.plain import plain_is_bundle, plain_sorts, plain_struck, plain_worth
 
 ONE = (1, 1)
@@ -231,6 +231,14 @@ class Wrong(unittest.TestCase):
         self.assertIs(is_prices(BORDER, even(BORDER, own), prices(BORDER, even(BORDER, own))), True)
         less = even(BORDER, taken_off(own, LITTLE))
         self.assertIs(is_breaking(BORDER, less, breaking(BORDER, less)), True)
+
+    def test_at_the_bounds_of_crafts(self):
+        own = mean(AMPLE)
+        self.assertIs(is_mean_bundle(AMPLE, mean_bundle(AMPLE)), True)
+        for payments in (even(AMPLE, own), even(AMPLE, taken_off(own, LITTLE)),
+                         tuple(cut(10 ** 6 - 7 * row, 10 ** 6 - row) for row in range(6)),
+                         tuple(cut(10 ** 6 * (3 - row), 1 + row) for row in range(6))):
+            Enough.check(self, AMPLE, payments, is_enough(AMPLE, payments))
 
 
 if __name__ == "__main__":
