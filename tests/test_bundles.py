@@ -135,8 +135,9 @@ class Bundles(unittest.TestCase):
 
     def test_bundle_of(self):
         self.assertEqual(bundle_of(PLAN), TRIO)
-        twice = (*PLAN, (LEFT[:1] + ((((0, 1), ()),),) + LEFT[2:], ((0, None),)), (MAKE, ()), (RIGHT, ((4, 1),)), (LEFT, ((4, 0),)))
-        self.assertEqual(bundle_of(twice), ((MAKE, 2), ((1, (((0, 1), ()),), (), ()), 1), (LEFT, 2), (RIGHT, 2)))
+        bare = (1, (((0, 1), ()),), (), ())
+        twice = (*PLAN, (bare, ((0, None),)), (MAKE, ()), (RIGHT, ((4, 1),)), (LEFT, ((4, 0),)))
+        self.assertEqual(bundle_of(twice), ((MAKE, 2), (bare, 1), (LEFT, 2), (RIGHT, 2)))
         for plan in ((), PLAN[:1], PLAN[:2], (*PLAN, (FULL, ()))):
             self.assertRaises(Unfit, bundle_of, plan)
 
@@ -154,12 +155,14 @@ class Bundles(unittest.TestCase):
 
     def test_is_bundle(self):
         heap = ((ALONE[0], 4), (MELD, 2))
-        self.assertEqual([is_bundle(MELDS, own) for own in (heap, ((ALONE[0], 2), (MELD, 1)), (*heap[:1], (MELD, 1)), heap[:1])],
+        less = ((ALONE[0], 2), (MELD, 1))
+        self.assertEqual([is_bundle(MELDS, own) for own in (heap, less, (heap[0], less[1]), heap[:1])],
                          [True, True, False, False])
-        self.assertEqual([is_bundle(TWINS, own) for own in (TRIO, TRIO[::-1], TRIO[:2], (), ((MAKE, 1),) + TRIO, list(TRIO))],
-                         [True, False, False, False, False, False])
-        self.assertEqual([is_bundle(TWINS, tuple((kind, number) for kind, _ in TRIO)) for number in (2, 10 ** 40, 0, -1, True)],
-                         [True, True, False, False, False])
+        self.assertIs(is_bundle(TWINS, TRIO), True)
+        for thing in (TRIO[::-1], TRIO[:2], (), ((MAKE, 1), *TRIO), list(TRIO)):
+            self.assertIs(is_bundle(TWINS, thing), False)
+        for number, said in ((2, True), (10 ** 40, True), (0, False), (-1, False), (True, False)):
+            self.assertIs(is_bundle(TWINS, tuple((kind, number) for kind, _ in TRIO)), said)
 
     def test_of_let_kinds_alone(self):
         # What is idle makes and takes nothing here, but is not let.

@@ -170,7 +170,7 @@ class IsRates(unittest.TestCase):
         self.assertEqual([is_rates(TIGHT, ((number, 3),)) for number in (-4, -5, -2, 4)], [True, False, False, False])
         self.assertEqual([is_rates(LOOSE, ((number, 2),)) for number in (-3, -5, -1)], [False, False, False])
         self.assertEqual((is_rates(BARE, ()), is_rates((((1, 2), ()),), ())), (True, False))
-        self.assertEqual([is_rates(FAST, own) for own in (((9, 1), (9, 1)), ((0, 1), (7, 1)), ((5, 1), (0, 1)), ((4, 1), (0, 1)))],
+        self.assertEqual([is_rates(FAST, ((one, 1), (other, 1))) for one, other in ((9, 9), (0, 7), (5, 0), (4, 0))],
                          [True, True, True, False])
 
     def test_values_that_are_none(self):

@@ -45,7 +45,8 @@ class Enough(unittest.TestCase):
 
     def test_chain(self):
         # k puts and one look cost k.
-        for payments, said in (((NOUGHT, ONE, NOUGHT), True), (((9, 1), NOUGHT, (9, 1)), False), ((NOUGHT, (1, 2), NOUGHT), False),
+        for payments, said in (((NOUGHT, ONE, NOUGHT), True), (((9, 1), NOUGHT, (9, 1)), False),
+                               ((NOUGHT, (1, 2), NOUGHT), False),
                                ((NOUGHT, cut(10 ** 6 - 1, 10 ** 6), (10 ** 6, 1)), False),
                                ((NOUGHT, (2, 1), (-1, 10 ** 6)), False), (((-1, 1), ONE, NOUGHT), False)):
             self.check(CHAIN, payments, said)
@@ -124,7 +125,8 @@ class Prices(unittest.TestCase):
         asked = even(TWINS, (2, 1))
         own = prices(TWINS, asked)
         self.assertEqual(len(own), 4)
-        for thing in (own[1:], own[:-1], own[::-1], (*own, own[-1]), own + ((((1, (), ())), NOUGHT),), list(own), (*own[:3], own[2])):
+        for thing in (own[1:], own[:-1], own[::-1], (*own, own[-1]), (*own, ((1, (), ()), NOUGHT)), list(own),
+                      (*own[:3], own[2])):
             self.assertIs(is_prices(TWINS, asked, thing), False)
 
     def test_bent_prices(self):
@@ -132,7 +134,8 @@ class Prices(unittest.TestCase):
         bent = list(variants(((WAITS, (-4, 3)),), OTHERS))
         self.assertGreater(len(bent), 200)
         for thing in (*JUNK, *bent, (((False, (0,), (0,)), (-4, 3)),), (((0, (False,), (0,)), (-4, 3)),), (deep(11),)):
-            self.assertIs(is_prices(MELDS, asked, thing), thing == ((WAITS, (-4, 3)),) and repr(thing) == "(((0, (0,), (0,)), (-4, 3)),)")
+            # By repr, as False == 0.
+            self.assertIs(is_prices(MELDS, asked, thing), repr(thing) == "(((0, (0,), (0,)), (-4, 3)),)")
 
 
 class Breaking(unittest.TestCase):
@@ -188,8 +191,9 @@ class Means(unittest.TestCase):
     def test_is_mean_bundle(self):
         twice = ((MAKE, 4), (MELD, 2))
         same = (1, (((0,), (0,)), ((0,), ())), (0,), ())
-        self.assertEqual([is_mean_bundle(MELDS, own) for own in (HEAP, twice, ((MAKE, 1), (same, 1)), HEAP[:1], (), list(HEAP), None)],
-                         [True, True, False, False, False, False, False])
+        self.assertEqual([is_mean_bundle(MELDS, own) for own in (HEAP, twice)], [True, True])
+        for thing in (((MAKE, 1), (same, 1)), HEAP[:1], (), list(HEAP), None):
+            self.assertIs(is_mean_bundle(MELDS, thing), False)
         for thing in (*JUNK, *variants(HEAP, OTHERS)):
             said = thing in (HEAP, twice) and repr(thing) in (repr(HEAP), repr(twice))
             self.assertIs(is_mean_bundle(MELDS, thing), said, msg=thing)
