@@ -66,20 +66,24 @@ def split_round(deals):
     return [deal for deal, stay in zip(deals, stays) if not stay], [deal for deal, stay in zip(deals, stays) if stay]
 
 
-def all_rounds(craft):
-    """The list of the lists of DEALS struck round by round, and the list of those that are let; TooMany()."""
-    left = [deal_of(craft, kind) for kind in kinds_found(craft)]
+def all_rounds(deals):
+    """The list of the lists of DEALS struck round by round, and the list of those that are left."""
     rounds = []
-    lost, left = split_round(left)
+    lost, left = split_round(deals)
     while lost:
         rounds.append(lost)
         lost, left = split_round(left)
     return rounds, left
 
 
+def all_deals(craft):
+    """The list, ascending, of the DEALS of all KINDS of this CRAFT; TooMany()."""
+    return [deal_of(craft, kind) for kind in kinds_found(craft)]
+
+
 def deals_let(craft):
     """The list, ascending, of the DEALS of the let KINDS of this CRAFT; TooMany()."""
-    _, left = all_rounds(craft)
+    _, left = all_rounds(all_deals(craft))
     return left
 
 
@@ -106,7 +110,7 @@ def is_sort(thing, sort):
 
 def struck(craft):
     """The list, round by round, of the lists, ascending, of the KINDS that are struck."""
-    rounds, _ = all_rounds(fit_craft(craft))
+    rounds, _ = all_rounds(all_deals(fit_craft(craft)))
     return [[deal[0] for deal in lost] for lost in rounds]
 
 

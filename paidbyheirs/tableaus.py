@@ -138,4 +138,6 @@ class Tableau:
 def cleared(row, lead, column, scale):
     """row with 0 in this column, having so many times lead taken off; scale is what both were to be divided by."""
     step, times = lead[column], row[column]
+    if times == 0:
+        return row if step == scale else [step * own // scale for own in row]
     return [(step * own - times * first) // scale for own, first in zip(row, lead)]

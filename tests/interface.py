@@ -60,6 +60,23 @@ INTERFACE = {
         "is_breaking": ("craft", "payments", "thing"), "even": ("craft", "fraction"), "mean": ("craft",),
         "mean_bundle": ("craft",), "is_mean_bundle": ("craft", "thing"),
     },
+    "paidbyheirs.border": {
+        "least_for": ("craft", "payments", "row"), "free_rows": ("craft", "payments"),
+        "bends": ("craft", "payments", "row", "other"), "corners": ("craft",), "is_corner": ("craft", "thing"),
+    },
+    "paidbyheirs.rings": {
+        "line_mean": ("craft",), "line_bundle": ("craft",), "is_line_bundle": ("craft", "thing"),
+        "web_beats_line": ("craft",), "brings": ("craft", "payments", "sort"), "one_again": ("craft", "payments"),
+    },
+    "paidbyheirs.anew": {
+        "dear_slots": ("craft", "web", "some"), "endless_ring": ("craft", "some"),
+        "is_endless_ring": ("craft", "some", "thing"), "numbered_craft": ("craft", "some"),
+        "most_again": ("craft", "some"), "anew_mean": ("craft", "some"),
+    },
+    "paidbyheirs.shared": {
+        "is_enough_with": ("craft", "payments", "some"), "lot_enough": ("craft", "payments", "lot"),
+        "must_share": ("craft", "payments"), "is_must": ("craft", "payments", "thing"),
+    },
 }
 
 

@@ -63,6 +63,25 @@ BORDER = ((2,), (*MANY_ROWS, ((0, 0), (), 1, 0, (("kept", 1, 1), ("kept", 0, 1))
                  ((0,), (), 0, 0, (("kept", 0, 1), ("kept", 0, 0))), ((), (), 0, 0, (("new", 3, ()), ("new", 2, ())))))
 BEYOND = ((2,), (*MANY_ROWS, ((0, 0), ((1, 0), (0, 1)), 2, 0, (("kept", 1, 1), ("new", 2, ((0, 1), (1, 0)))))))
 
+# 60 NUMBERED pairs come if all is anew.
+SIXTY = ((1, 2, 2), (((), (), 0, 0, (("new", 3, ()),)), ((), (), 0, 0, (("new", 1, ()),)),
+                     ((2,), ((0, 0), (0, 1)), 0, 0, (("none",),)), ((0, 0), ((0, 0),), 0, 1, (("kept", 0, 0), ("kept", 1, 0))),
+                     ((1, 1), ((0, 0), (1, 1)), 0, 2, (("new", 1, ((0, 0), (1, 0))), ("new", 0, ((0, 1), (1, 1))))),
+                     ((0, 1), (), 0, 2, (("new", 2, ((0, 0), (1, 0))), ("new", 2, ((0, 0), (1, 1)))))))
+# What is dear grows, by an anew WAIT that costs nothing, in a slot that is looked at or not.
+GROWS = ((2,), (((), (), 0, 0, (("new", 1, ()), ("none",))), ((0,), (), 0, 0, (("kept", 0, 0), ("new", 0, BOTH[:2]))),
+                ((0,), ((0, 1),), 1, 0, (("none",), ("none",)))))
+HIDES = ((2,), (*GROWS[1][:2], ((0,), ((0, 0),), 1, 0, (("none",), ("none",)))))
+# What is dear is handed from SHAPE to SHAPE, and grows by a turn of all three; a shared WAIT at its end.
+TURNS = ((1, 1, 1), (((), (), 1, 0, (("new", 2, ()),)), ((0,), (), 1, 1, (("new", 0, ((0, 0),)),)),
+                     ((1,), (), 1, 2, (("kept", 0, 0),)), ((2, 0), (), 1, 0, (("new", 0, ((0, 0), (1, 0))),)),
+                     ((2,), (), 0, 2, (("new", 7, ((0, 0),)),)), ((2,), ((0, 0),), 1, 0, (("none",),))))
+
+
+def begins(many):
+    """A CRAFT of so many ROWS that begin, each WAIT of which costs something else, and one that looks at them."""
+    return ((1,), (*[((), (), 0, 0, (("new", cost, ()),)) for cost in range(1, many)], ((0,), ((0, 0),), 0, 0, (("none",),))))
+
 
 def deep(levels):
     """A tuple nested so many levels deep."""

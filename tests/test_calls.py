@@ -18,6 +18,8 @@ SORT = (0, (0, 1), (0,))
 LOOP = (1, (((0,), (0,)),), (0,), ((0,),))
 TIGHT, LOOSE = (((4, 3), (-1,)), ((-8, 3), (2,))), (((3, 2), (-1,)), ((-5, 2), (2,)))
 FAIR = ((1, 2), (3, 1), (3, 1))
+DOWN = ((0, 1), (-1, 2), (0, 1))
+RING = (((0, ()), (1, (0,)), (1, (1,)), (2, (2,))), ((1, 0), (2, 0)), 1)
 # For each function some calls; arguments called thing are told apart, as lists are no tuples there.
 CALLS = {
     "is_craft": [(CHAIN,), (PAIRS,), (5,)],
@@ -113,8 +115,32 @@ CALLS = {
     "mean": [(TWINS,), (NEVER,), (BEYOND,)],
     "mean_bundle": [(TWINS,), (PAIRS,), (NEVER,), (BEYOND,)],
     "is_mean_bundle": [(TWINS, TRIO), (TWINS, TRIO[:1]), (BEYOND, TRIO)],
+    "least_for": [(TWINS, FAIR, 0), (TWINS, FAIR, 2), (TWINS, FAIR, 3), (TWINS, FAIR[:2], 3), (TWINS, DOWN, 0), (BEYOND, (), 0)],
+    "free_rows": [(TWINS, FAIR), (CHAIN, FAIR), (TWINS, FAIR[:2]), (BEYOND, ())],
+    "bends": [(TWINS, FAIR, 0, 2), (TWINS, FAIR, 2, 0), (TWINS, FAIR, 2, 2), (TWINS, FAIR, 4, -1), (CHAIN, DOWN, 0, 2),
+              (BEYOND, (), 0, 1)],
+    "corners": [(TWINS,), (CHAIN,), (PAIRS,), (BEYOND,)],
+    "is_corner": [(TWINS, ((6, 1), (0, 1), (0, 1))), (TWINS, FAIR), (TWINS, None), (PAIRS, ()), (BEYOND, ())],
+    "line_mean": [(TWINS,), (KEPT,), (PAIRS,), (NEVER,), (BEYOND,)],
+    "line_bundle": [(TWINS,), (KEPT,), (PAIRS,), (NEVER,), (BEYOND,)],
+    "is_line_bundle": [(CHAIN, ((LOOP, 1),)), (CHAIN, ((LOOP, 2), (PUT, 1))), (TWINS, TRIO), (PAIRS, ()), (BEYOND, ())],
+    "web_beats_line": [(TWINS,), (KEPT,), (PAIRS,), (NEVER,), (BEYOND,)],
+    "brings": [(TWINS, FAIR, SORT), (CHAIN, DOWN, (0, (0,), (0,))), (TWINS, FAIR, (0, (0, 1), (0, 1))), (TWINS, (), SORT),
+               (PAIRS, (), SORT), (BEYOND, (), SORT)],
+    "one_again": [(TWINS, FAIR), (CHAIN, DOWN), (TWINS, ()), (PAIRS, ()), (BEYOND, ())],
+    "dear_slots": [(CHAIN, FAN, ((1, 0),)), (PAIRS, MANY, ((0, 0), (3, 1))), (COPIES, COPIED, ()), (TWINS, FAN, ())],
+    "endless_ring": [(CHAIN, ((1, 0),)), (KEPT, ((0, 1), (1, 0))), (CHAIN, ()), (BEYOND, ())],
+    "is_endless_ring": [(CHAIN, ((1, 0),), RING), (CHAIN, (), RING), (KEPT, ((0, 1), (1, 0)), RING), (CHAIN, ((1, 0),), None)],
+    "numbered_craft": [(TWINS, ((0, 0),)), (PAIRS, ((0, 0), (1, 0))), (KEPT, ((0, 1),)), (CHAIN, ((1, 0),)), (NEVER, ())],
+    "most_again": [(TWINS, ((0, 0),)), (PAIRS, ((0, 0), (1, 0))), (CHAIN, ((1, 0),)), (NEVER, ())],
+    "anew_mean": [(TWINS, ((0, 0),)), (KEPT, ((0, 1),)), (CHAIN, ((1, 0),)), (NEVER, ()), (BEYOND, ())],
+    "is_enough_with": [(TWINS, FAIR, ((0, 0),)), (TWINS, FAIR, ()), (CHAIN, FAIR, ((1, 0),)), (TWINS, (), ())],
+    "lot_enough": [(TWINS, FAIR, ((0, 0),)), (TWINS, FAIR, ()), (CHAIN, FAIR, ((1, 0),)), (TWINS, (), ())],
+    "must_share": [(TWINS, ((2, 1),) * 3), (KEPT, ((1, 1),) * 3), (TWINS, DOWN), (TWINS, ()), (BEYOND, ((1, 1),) * len(BEYOND[1]))],
+    "is_must": [(KEPT, ((1, 1),) * 3, ((1, 0),)), (KEPT, ((1, 1),) * 3, ()), (TWINS, (), ()), (BEYOND, ((1, 1),) * len(BEYOND[1]), ())],
 }
-LISTS = ("next_deeds", "all_webs", "heirs", "all_kinds", "taken", "made", "struck", "let_kinds", "best_kinds")
+LISTS = ("next_deeds", "all_webs", "heirs", "all_kinds", "taken", "made", "struck", "let_kinds", "best_kinds", "bends",
+         "corners", "must_share")
 
 RAISED = "raised "
 
