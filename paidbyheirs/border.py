@@ -4,11 +4,12 @@ from math import lcm
 
 from paidbyheirs.cones import Cone
 from paidbyheirs.crafts import fit_craft, rows_coming
-from paidbyheirs.cuts import cut, divided, is_fraction, order
+from paidbyheirs.cuts import cut, divided, order
 from paidbyheirs.errors import CanNot, NoRow, TooMany, Unfit
-from paidbyheirs.forms import exchanged, is_below, is_tuple_of
+from paidbyheirs.forms import exchanged, is_below
 from paidbyheirs.let import best_deals, deals_let
-from paidbyheirs.lines import NOUGHT, columns_of, gains_without_weight, mix_gain, mix_of_best_share, weighed
+from paidbyheirs.lines import NOUGHT, columns_of, gains_without_weight, is_payments, mix_gain, mix_of_best_share
+from paidbyheirs.lines import weighed
 from paidbyheirs.payments import asked, mix_or_prices
 
 MOST_DONE = 3
@@ -147,4 +148,4 @@ def is_corner(craft, thing):
     """Whether thing is one of these; TooMany() likewise."""
     craft = fit_craft(craft)
     told = corners_of(craft, deals_let(craft))
-    return is_tuple_of(thing, len(craft[1])) and all([is_fraction(part) for part in thing]) and thing in told
+    return is_payments(craft, thing) and thing in told

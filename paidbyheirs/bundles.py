@@ -85,6 +85,11 @@ def pending(plan):
 def plan_for(craft, web):
     """The whole PLAN of the KINDS of this WEB: each PART is given to the place that takes it there."""
     craft, web = fit_both(craft, web)
+    return plan_told(craft, web)
+
+
+def plan_told(craft, web):
+    """The whole PLAN of the KINDS of a WEB of this CRAFT."""
     kinds = all_kinds_of(craft, web)
     plan = []
     for (_, elders), kind in zip(web, kinds):
@@ -230,6 +235,14 @@ def is_ended(craft, plan, thing):
     if not is_plan_of(craft, thing) or thing[:len(plan)] != plan or not is_let_from(deals, thing, len(plan)):
         return False
     return not parts_pending(thing)
+
+
+def bundle_with(deals, kind):
+    """A BUNDLE that has this KIND, which is let, deals being those of all let KINDS: that of a whole PLAN with it."""
+    draft = Draft(deals)
+    draft.do(by_kind(deals)[kind], False)
+    draft.end_all()
+    return bundle_of(draft.steps)
 
 
 def done_often(craft, bundle, many):

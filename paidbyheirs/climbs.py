@@ -79,13 +79,13 @@ class Climber:
         """An empty one; found tells by which ROW and elders each STATE comes."""
         self.craft = craft
         self.found = found
-        self.web = []
+        self.deeds = []
         self.versions = {}
 
     def do(self, number, elders):
         """The number of the VERSION that a deed of this ROW makes of these VERSIONS."""
-        self.web.append((number, tuple(elders)))
-        return len(self.web) - 1
+        self.deeds.append((number, tuple(elders)))
+        return len(self.deeds) - 1
 
     def version_with(self, state):
         """A VERSION with this STATE, made if there is none."""
@@ -121,7 +121,7 @@ def ring_by(craft, found, loop, way, look):
         version = climber.go(version, move)
         steps.append((version, move[2][1]))
     climber.look(version, look)
-    return (tuple(climber.web), tuple(steps), len(loop))
+    return (tuple(climber.deeds), tuple(steps), len(loop))
 
 
 def ring_found(craft, some):
@@ -137,7 +137,8 @@ def ring_found(craft, some):
     looks = all_looks(craft)
     for move in grows:
         node, _, other, _ = move
-        look = look_from(moves, looks, node) if node in ways[other] else None
-        if look is not None:
-            return ring_by(craft, found, [move, *ways[other][node]], *look)
+        told = look_from(moves, looks, node) if node in ways[other] else None
+        if told is not None:
+            way, look = told
+            return ring_by(craft, found, [move, *ways[other][node]], way, look)
     return None

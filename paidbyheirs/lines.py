@@ -136,10 +136,15 @@ def is_best_mix(columns, weights, thing):
     return mix is None
 
 
+def is_payments(craft, thing):
+    """Whether thing is PAYMENTS for this CRAFT."""
+    return is_tuple_of(thing, len(craft[1])) and all([is_fraction(payment) for payment in thing])
+
+
 def fit_payments(craft, payments):
     """payments as tuples throughout; Unfit() if they are none for this CRAFT."""
     payments = as_tuples(payments, PAYMENTS_LEVELS)
-    if not is_tuple_of(payments, len(craft[1])) or not all([is_fraction(payment) for payment in payments]):
+    if not is_payments(craft, payments):
         raise Unfit()
     return payments
 

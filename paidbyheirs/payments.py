@@ -2,7 +2,7 @@
 
 from paidbyheirs.bundles import is_bundle_of, rows_told, total_deeds, total_worth
 from paidbyheirs.crafts import fit_craft
-from paidbyheirs.cuts import cut, order
+from paidbyheirs.cuts import cut, is_fraction, order
 from paidbyheirs.errors import CanNot
 from paidbyheirs.forms import as_tuples, is_tuple_of
 from paidbyheirs.let import best_deals, deals_let, is_sort, sorts_in
@@ -47,13 +47,17 @@ def prices(craft, payments):
     return tuple(list(zip(sorts_in(deals), told)))
 
 
+def are_prices(sorts, thing):
+    """Whether thing has a FRACTION for each of these SORTS, as PRICES have."""
+    if not is_tuple_of(thing, len(sorts)) or not all([is_tuple_of(pair, 2) for pair in thing]):
+        return False
+    return all([is_sort(own, sort) and is_fraction(price) for sort, (own, price) in zip(sorts, thing)])
+
+
 def is_prices(craft, payments, thing):
     """Whether thing is PRICES that show payments."""
     craft, deals, payments = asked(craft, payments)
-    sorts = sorts_in(deals)
-    if not is_tuple_of(thing, len(sorts)) or not all([is_tuple_of(pair, 2) for pair in thing]):
-        return False
-    if not all([is_sort(own, sort) for sort, (own, _) in zip(sorts, thing)]):
+    if not are_prices(sorts_in(deals), thing):
         return False
     columns = columns_of(craft, deals, payments)
     return not columns or is_rates(columns, tuple([price for _, price in thing]))

@@ -77,6 +77,25 @@ INTERFACE = {
         "is_enough_with": ("craft", "payments", "some"), "lot_enough": ("craft", "payments", "lot"),
         "must_share": ("craft", "payments"), "is_must": ("craft", "payments", "thing"),
     },
+    "paidbyheirs.twocrafts": {
+        "are_mates": ("craft", "other"), "all_twins": ("craft", "other"), "let_twins": ("craft", "other"),
+        "twins_of": ("craft", "other", "web"), "ratio": ("craft", "other"), "ratio_bundle": ("craft", "other"),
+        "is_ratio_bundle": ("craft", "other", "thing"), "apart_bundle": ("craft", "other"),
+        "is_apart_bundle": ("craft", "other", "thing"), "is_never_dearer": ("craft", "other"),
+        "row_exchanged": ("craft", "row", "like"),
+    },
+    "paidbyheirs.judge": {
+        "is_claim": ("thing",), "is_so": ("claim",), "paper_against": ("claim",), "is_paper_against": ("claim", "thing"),
+        "reason_for": ("claim",), "is_reason_for": ("claim", "thing"), "first_fallen": ("claims",),
+    },
+    "paidbyheirs.texts": {
+        "kind_name": ("kind",), "fraction_name": ("fraction",), "craft_text": ("craft",), "web_text": ("web",),
+        "plan_text": ("plan",), "bundle_text": ("bundle",), "kind_read": ("word",), "fraction_read": ("word",),
+        "read_craft": ("text",), "read_web": ("text",), "read_plan": ("text",), "read_bundle": ("text",),
+    },
+    "paidbyheirs.board": {
+        "Board": ("craft",),
+    },
 }
 
 

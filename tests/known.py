@@ -161,6 +161,57 @@ def diced_crafts(many):
     return crafts
 
 
+def some_slots(dice, sizes, elders, size):
+    """What so many slots of a ROW with these elders hold, as the dice tell."""
+    row = some_row(dice, sizes)
+    asked = [(place, slot) for place, shape in enumerate(elders) for slot in range(sizes[shape])]
+    slots = []
+    for _ in range(size):
+        word = dice.choice(("kept", "none", "new", "new"))
+        if word == "kept" and asked:
+            slots.append(("kept", *dice.choice(asked)))
+        elif word == "none":
+            slots.append(("none",))
+        else:
+            slots.append(("new", dice.randrange(5), tuple(sorted(dice.sample(asked, dice.randint(0, len(asked)))))))
+    return row[2], tuple(dice.sample(asked, dice.randint(0, len(asked)))), tuple(slots)
+
+
+def mate_of(dice, craft):
+    """A mate of craft, as the dice tell: some ROWS are as they are, sizes may be other ones."""
+    sizes, rows = craft
+    if dice.random() < 0.3:
+        sizes = tuple([dice.randrange(3) for _ in sizes])
+    told = []
+    for elders, looks, cost, shape, slots in rows:
+        if sizes != craft[0] or dice.random() < 0.6:
+            cost, looks, slots = some_slots(dice, sizes, elders, sizes[shape])
+        told.append((elders, looks, cost, shape, slots))
+    return (sizes, tuple(told))
+
+
+def counting(craft):
+    """The mate of craft by which each deed costs 1 and nothing waits."""
+    return ((0,) * len(craft[0]), tuple([(elders, (), 1, shape, ()) for elders, _, _, shape, _ in craft[1]]))
+
+
+def paying_at_once(craft):
+    """The mate of craft by which each deed costs what it pays at once."""
+    costs = [cost + sum(slot[1] for slot in slots if slot[0] == "new") for _, _, cost, _, slots in craft[1]]
+    return ((0,) * len(craft[0]), tuple([(row[0], (), cost, row[3], ()) for row, cost in zip(craft[1], costs)]))
+
+
+def diced_mates(many):
+    """So many pairs of CRAFTS that are mates, always the same ones."""
+    dice = random.Random(11)
+    pairs = []
+    for _ in range(many):
+        sizes = tuple([dice.randrange(3) for _ in range(dice.randint(1, 3))])
+        craft = (sizes, tuple([some_row(dice, sizes) for _ in range(dice.randint(1, 5))]))
+        pairs.append((craft, mate_of(dice, craft)))
+    return pairs
+
+
 def diced_webs(craft, many, length, seed=7):
     """So many WEBS of craft of this length, or of none if no ROW comes, always the same ones."""
     from tests.plain import plain_next

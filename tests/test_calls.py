@@ -20,6 +20,13 @@ TIGHT, LOOSE = (((4, 3), (-1,)), ((-8, 3), (2,))), (((3, 2), (-1,)), ((-5, 2), (
 FAIR = ((1, 2), (3, 1), (3, 1))
 DOWN = ((0, 1), (-1, 2), (0, 1))
 RING = (((0, ()), (1, (0,)), (1, (1,)), (2, (2,))), ((1, 0), (2, 0)), 1)
+PAIR = ((0, ()), (1, (0,)), (2, (0,)))
+UNEVEN = ((2, 0), ((((), (), 0, 0, (("new", 2, ()), ("new", 4, ()))),) + TWINS[1][1:]))
+FREE = ((1,), tuple([(*row[:2], 1, *row[3:]) for row in CHAIN[1]]))
+TWO = ((((0, (), (0,), ((0,),)), (0, (), (0,), ((0,),)), (((0,), (0,)),)), 1),
+       (((1, (((0,), (0,)),), (), ()), (1, (((0,), (0,)),), (), ()), ()), 1))
+CLAIMS = (("enough", CHAIN, ((0, 1), (1, 1), (0, 1))), ("mean", TWINS, (2, 1)), ("mean", TWINS, (3, 2)), ("ratio", TWINS, UNEVEN, (4, 3)),
+          ("let", TWINS, MAKE), ("endless", CHAIN, ((1, 0),)), ("endless", CHAIN, ()), ("mean", BEYOND, (1, 1)), ("let", CHAIN, MAKE))
 # For each function some calls; arguments called thing are told apart, as lists are no tuples there.
 CALLS = {
     "is_craft": [(CHAIN,), (PAIRS,), (5,)],
@@ -137,10 +144,42 @@ CALLS = {
     "is_enough_with": [(TWINS, FAIR, ((0, 0),)), (TWINS, FAIR, ()), (CHAIN, FAIR, ((1, 0),)), (TWINS, (), ())],
     "lot_enough": [(TWINS, FAIR, ((0, 0),)), (TWINS, FAIR, ()), (CHAIN, FAIR, ((1, 0),)), (TWINS, (), ())],
     "must_share": [(TWINS, ((2, 1),) * 3), (KEPT, ((1, 1),) * 3), (TWINS, DOWN), (TWINS, ()), (BEYOND, ((1, 1),) * len(BEYOND[1]))],
+    "are_mates": [(TWINS, UNEVEN), (CHAIN, TWINS), (BEYOND, BEYOND)],
+    "all_twins": [(TWINS, UNEVEN), (CHAIN, TWINS), (BEYOND, BEYOND)],
+    "let_twins": [(TWINS, UNEVEN), (CHAIN, TWINS), (BEYOND, BEYOND)],
+    "twins_of": [(TWINS, UNEVEN, PAIR), (COPIES, COPIES, COPIED), (TWINS, UNEVEN, FAN), (CHAIN, TWINS, ())],
+    "ratio": [(TWINS, UNEVEN), (CHAIN, CHAIN), (FREE, CHAIN), (CHAIN, TWINS), (BEYOND, BEYOND)],
+    "ratio_bundle": [(TWINS, UNEVEN), (CHAIN, CHAIN), (FREE, CHAIN), (CHAIN, TWINS), (BEYOND, BEYOND)],
+    "is_ratio_bundle": [(TWINS, UNEVEN, TWO), (TWINS, UNEVEN, TWO[:1]), (CHAIN, TWINS, None), (BEYOND, BEYOND, TWO)],
+    "apart_bundle": [(FREE, CHAIN), (TWINS, UNEVEN), (CHAIN, TWINS), (BEYOND, BEYOND)],
+    "is_apart_bundle": [(TWINS, UNEVEN, TWO), (FREE, CHAIN, ((((0, (), (0,), ()),) * 2 + ((),), 1),)), (CHAIN, TWINS, None)],
+    "is_never_dearer": [(TWINS, UNEVEN), (CHAIN, CHAIN), (CHAIN, TWINS), (BEYOND, BEYOND)],
+    "row_exchanged": [(TWINS, 1, ((0,), ((0, 1), (0, 0)), 4, 1, ())), (TWINS, 3, ()), (TWINS, 1, TWINS[1][0])],
+    "is_claim": [(CLAIMS[0],), (CLAIMS[3],), (("mean", CHAIN, (2, 4)),)],
+    "is_so": [(claim,) for claim in CLAIMS],
+    "paper_against": [(claim,) for claim in CLAIMS],
+    "is_paper_against": [(claim, TRIO) for claim in CLAIMS],
+    "reason_for": [(claim,) for claim in CLAIMS],
+    "is_reason_for": [*[(claim, TRIO) for claim in CLAIMS], (CLAIMS[5], RING)],
+    "first_fallen": [(CLAIMS[:2],), (CLAIMS[1:2],), (CLAIMS,), ((),), (CLAIMS[-1:],)],
+    "kind_name": [(MAKE,), (PUT,)],
+    "fraction_name": [((-4, 3),), ((0, 1),)],
+    "craft_text": [(PAIRS,), (CHAIN,)],
+    "web_text": [(MANY,), ((),)],
+    "plan_text": [(PLAN,), (((PUT, ((0, None),)),),)],
+    "bundle_text": [(TRIO,)],
+    "kind_read": [("0/-/0,1/0;1",), ("1/0:0/-/-",), ("1",)],
+    "fraction_read": [("-4/3",), ("2/4",)],
+    "read_craft": [("sizes 1\nrow 0 0.0 0 0\nnew 1 0.0\n",), ("sizes 1\n",), ("sizes 1\nrow 0 - 0 0",)],
+    "read_web": [("version 0 -\nversion 1 0,0\n",), ("version",)],
+    "read_plan": [("step 0/-/-/- 0.-,1.1",), ("\n",)],
+    "read_bundle": [("kind 0/-/-/- 1",), ("",)],
+    # Boards are tried by themselves.
+    "Board": [],
     "is_must": [(KEPT, ((1, 1),) * 3, ((1, 0),)), (KEPT, ((1, 1),) * 3, ()), (TWINS, (), ()), (BEYOND, ((1, 1),) * len(BEYOND[1]), ())],
 }
 LISTS = ("next_deeds", "all_webs", "heirs", "all_kinds", "taken", "made", "struck", "let_kinds", "best_kinds", "bends",
-         "corners", "must_share")
+         "corners", "must_share", "all_twins", "let_twins")
 
 RAISED = "raised "
 

@@ -37,7 +37,7 @@ class Examples(unittest.TestCase):
                     with self.subTest(file=file, code=code):
                         self.run_one(names, code, said)
                     many += said is not None
-        self.assertEqual(many, 104)
+        self.assertEqual(many, 128)
 
     def run_one(self, names, code, said):
         if said is None:
