@@ -6,7 +6,7 @@ from paidbyheirs.errands import all_kinds_of
 from paidbyheirs.errors import CanNot, Unfit
 from paidbyheirs.forms import as_tuples, is_ascending, is_below, is_number, is_tuple_of
 from paidbyheirs.kinds import is_kind_of, sorts_made, worth_of
-from paidbyheirs.let import deal_of, deals_let
+from paidbyheirs.let import deal_of, deals_let, is_balanced
 from paidbyheirs.webs import fit_both
 
 # From a PLAN, from a BUNDLE, down to the slots of a KIND; from a tuple of SORTS down to theirs.
@@ -126,14 +126,7 @@ def is_bundle_of(craft, deals, thing):
     kinds = [kind for kind, _ in thing]
     if not is_ascending(kinds) or not all([kind in told for kind in kinds]):
         return False
-    left = {}
-    for kind, number in thing:
-        _, _, takes, _, makes = told[kind]
-        for sort in takes:
-            left[sort] = left.get(sort, 0) - number
-        for sort in makes:
-            left[sort] = left.get(sort, 0) + number
-    return all([left[sort] == 0 for sort in left])
+    return is_balanced([(told[kind], number) for kind, number in thing])
 
 
 def is_counted(craft, thing):

@@ -92,6 +92,17 @@ def sorts_in(deals):
     return ascending([sort for _, _, _, _, makes in deals for sort in makes])
 
 
+def is_balanced(counted):
+    """Whether these pairs of a DEAL and a number make of each SORT as many as they take."""
+    left = {}
+    for deal, number in counted:
+        for sort in deal[2]:
+            left[sort] = left.get(sort, 0) - number
+        for sort in deal[4]:
+            left[sort] = left.get(sort, 0) + number
+    return all([left[sort] == 0 for sort in left])
+
+
 def best_deals(deals):
     """The list, ascending, of the first of each lot of alike DEALS."""
     best = {}

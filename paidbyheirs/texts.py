@@ -35,9 +35,15 @@ def takes_name(takes):
     return joined([f"{numbers_name(flags)}:{numbers_name(part)}" for flags, part in takes], ";")
 
 
+def giver_name(version, number):
+    """The name of a giver."""
+    told = NOTHING if number is None else number
+    return f"{version}.{told}"
+
+
 def givers_name(givers):
     """The name of the givers of a STEP."""
-    return joined([f"{version}.{NOTHING if number is None else number}" for version, number in givers], ",")
+    return joined([giver_name(version, number) for version, number in givers], ",")
 
 
 def kind_name(kind):
@@ -49,7 +55,8 @@ def kind_name(kind):
 def fraction_name(fraction):
     """The name of a FRACTION."""
     number, many = fraction
-    return f"{NOTHING if number < 0 else ''}{abs(number)}/{many}"
+    # Python writes a sign ahead of a number below 0 alone.
+    return f"{number}/{many}"
 
 
 def text_of(lines):

@@ -9,7 +9,7 @@ from paidbyheirs.cuts import multiplied, order, taken_off
 from paidbyheirs.errors import TooMany, Unfit
 from paidbyheirs.forms import is_ascending, is_number, is_numbers, is_tuple_of
 from paidbyheirs.kinds import MOST_KINDS, is_kind_of, kinds_found, worth_of
-from paidbyheirs.let import all_rounds, sorts_in
+from paidbyheirs.let import all_rounds, is_balanced, sorts_in
 from paidbyheirs.lines import mix_or_rates
 
 NONE = ((), ())
@@ -150,14 +150,7 @@ def is_twin_bundle(craft, other, deals, thing):
     twins = [twin for twin, _ in thing]
     if not is_ascending(twins) or not all([twin in told for twin in twins]):
         return False
-    left = {}
-    for twin, number in thing:
-        _, _, takes, _, makes = told[twin]
-        for sort in takes:
-            left[sort] = left.get(sort, 0) - number
-        for sort in makes:
-            left[sort] = left.get(sort, 0) + number
-    return all([left[sort] == 0 for sort in left])
+    return is_balanced([(told[twin], number) for twin, number in thing])
 
 
 def is_dearer_bundle(craft, other, deals, fraction, thing):

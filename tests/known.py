@@ -42,9 +42,11 @@ RELAY = ((1, 1, 1), (((), (), 1, 0, (("new", 8, ()),)), ((0,), (), 2, 1, (("kept
                      ((1,), (), 3, 2, (("kept", 0, 0),)), ((2,), ((0, 0),), 4, 2, (("none",),))))
 # What is kept of both elders, in one VERSION, is looked at there at once.
 SHARES = ((1, 2), (((), (), 1, 0, (("new", 5, ()),)), ((0, 0), (), 2, 1, (("kept", 0, 0), ("kept", 1, 0))),
-                   ((1,), ((0, 0), (0, 1)), 3, 0, (("none",),)), ((1, 0), ((0, 1),), 0, 1, (("kept", 0, 0), ("none",)))))
+                   ((1,), ((0, 0), (0, 1)), 3, 0, (("none",),)), ((1, 0), ((0, 1),), 0, 1,
+                                                                  (("kept", 0, 0), ("none",)))))
 
-CRAFTS = (CHAIN, TWINS, MELDS, KEPT, DOUBLE, LONE, LATE, CARRY, STRAY, SPROUT, COPIES, PAIRS, NEVER, STAIRS, HALF, PASSES,
+CRAFTS = (CHAIN, TWINS, MELDS, KEPT, DOUBLE, LONE, LATE, CARRY, STRAY, SPROUT, COPIES, PAIRS, NEVER, STAIRS, HALF,
+          PASSES,
           RELAY, SHARES)
 
 # As much as the bounds let be, or nearly: slots that are kept, wanted and looked at by two elders.
@@ -65,7 +67,8 @@ BEYOND = ((2,), (*MANY_ROWS, ((0, 0), ((1, 0), (0, 1)), 2, 0, (("kept", 1, 1), (
 
 # 60 NUMBERED pairs come if all is anew.
 SIXTY = ((1, 2, 2), (((), (), 0, 0, (("new", 3, ()),)), ((), (), 0, 0, (("new", 1, ()),)),
-                     ((2,), ((0, 0), (0, 1)), 0, 0, (("none",),)), ((0, 0), ((0, 0),), 0, 1, (("kept", 0, 0), ("kept", 1, 0))),
+                     ((2,), ((0, 0), (0, 1)), 0, 0, (("none",),)), ((0, 0), ((0, 0),), 0, 1,
+                                                                    (("kept", 0, 0), ("kept", 1, 0))),
                      ((1, 1), ((0, 0), (1, 1)), 0, 2, (("new", 1, ((0, 0), (1, 0))), ("new", 0, ((0, 1), (1, 1))))),
                      ((0, 1), (), 0, 2, (("new", 2, ((0, 0), (1, 0))), ("new", 2, ((0, 0), (1, 1)))))))
 # What is dear grows, by an anew WAIT that costs nothing, in a slot that is looked at or not.
@@ -77,10 +80,33 @@ TURNS = ((1, 1, 1), (((), (), 1, 0, (("new", 2, ()),)), ((0,), (), 1, 1, (("new"
                      ((1,), (), 1, 2, (("kept", 0, 0),)), ((2, 0), (), 1, 0, (("new", 0, ((0, 0), (1, 0))),)),
                      ((2,), (), 0, 2, (("new", 7, ((0, 0),)),)), ((2,), ((0, 0),), 1, 0, (("none",),))))
 
+# What took longest of many thousand CRAFTS: to tell which WAITS must be shared; to tell the corners.
+LABOUR = ((2, 2, 1), (((2,), ((0, 0),), 3, 1, (("kept", 0, 0), ("new", 4, ((0, 0),)))),
+                      ((1,), (), 2, 0, (("kept", 0, 1), ("new", 3, BOTH[:2]))),
+                      ((1,), ((0, 0),), 1, 0, (("none",), ("kept", 0, 1))),
+                      ((2,), (), 2, 0, (("new", 2, ((0, 0),)), ("kept", 0, 0))),
+                      ((0, 1), ((1, 0), (0, 1), (0, 0)), 2, 1, (("new", 2, ()), ("new", 3, BOTH[1:]))),
+                      ((), (), 3, 2, (("new", 4, ()),))))
+FACETS = ((2,), (((), (), 0, 0, (("new", 3, ()), ("new", 3, ()))),
+                 ((0, 0), ((0, 1), (0, 0), (1, 1)), 1, 0, (("new", 2, ((0, 0),)), ("none",))),
+                 ((0,), (), 2, 0, (("new", 1, ()), ("new", 3, ((0, 0),))))))
+# Two mates with more than a thousand TWINS.
+MATE = ((2,), (((0,), ((0, 0),), 0, 0, (("new", 3, BOTH[:2]), ("none",))), ((), (), 0, 0, (("new", 0, ()), ("none",))),
+               ((0, 0), ((1, 1), (0, 1)), 1, 0, (("kept", 1, 1), ("kept", 0, 0))),
+               ((), (), 0, 0, (("none",), ("new", 1, ()))),
+               ((0,), ((0, 1),), 2, 0, (("new", 1, BOTH[:2]), ("none",))),
+               ((0,), (), 0, 0, (("new", 4, ((0, 1),)), ("kept", 0, 0)))))
+BUDDY = ((2,), (((0,), ((0, 1),), 2, 0, (("new", 0, ()), ("kept", 0, 1))), ((), (), 3, 0, (("none",), ("new", 3, ()))),
+                ((0, 0), ((1, 1),), 3, 0, (("kept", 1, 1), ("kept", 0, 0))),
+                ((), (), 2, 0, (("none",), ("new", 3, ()))),
+                ((0,), ((0, 1), (0, 0)), 1, 0, (("kept", 0, 0), ("none",))),
+                ((0,), ((0, 0),), 3, 0, (("new", 2, BOTH[:2]), ("new", 3, BOTH[:2])))))
+
 
 def begins(many):
     """A CRAFT of so many ROWS that begin, each WAIT of which costs something else, and one that looks at them."""
-    return ((1,), (*[((), (), 0, 0, (("new", cost, ()),)) for cost in range(1, many)], ((0,), ((0, 0),), 0, 0, (("none",),))))
+    return ((1,), (*[((), (), 0, 0, (("new", cost, ()),)) for cost in range(1, many)],
+                   ((0,), ((0, 0),), 0, 0, (("none",),))))
 
 
 def deep(levels):
@@ -93,7 +119,8 @@ def deep(levels):
 
 # Values that are neither a CRAFT, nor a ROW, nor a WEB but ().
 JUNK = (True, False, None, 0, 1, -1, 5, 10 ** 30, "", "kept", "none", [], [()], [[], []], ((),), ((), ()), ((), (), ()),
-        (1,), (1, 2), (None, None), ("new", 1, ()), (True, False), ((True,), ()), ((1,), ()), ((), (1,)), "ab", ("", ""),
+        (1,), (1, 2), (None, None), ("new", 1, ()), (True, False), ((True,), ()), ((1,), ()), ((), (1,)), "ab",
+        ("", ""),
         deep(12), [deep(11)])
 
 
@@ -132,14 +159,15 @@ def variants(value, others):
             yield (*value[:at], other, *value[at + 1:])
 
 
-def some_row(dice, sizes):
-    """A ROW for these sizes, as the dice tell."""
-    elders = tuple([dice.randrange(len(sizes)) for _ in range(dice.choice((0, 0, 1, 1, 2)))])
-    asked = [(place, slot) for place, shape in enumerate(elders) for slot in range(sizes[shape])]
-    looks = tuple(dice.sample(asked, dice.randint(0, len(asked))))
-    shape = dice.randrange(len(sizes))
+def asked_of(sizes, elders):
+    """All pairs (place, slot) that a ROW with these elders may ask for."""
+    return [(place, slot) for place, shape in enumerate(elders) for slot in range(sizes[shape])]
+
+
+def some_slots(dice, asked, size):
+    """What so many slots of a ROW hold that may ask for these pairs, as the dice tell."""
     slots = []
-    for _ in range(sizes[shape]):
+    for _ in range(size):
         word = dice.choice(("kept", "none", "new", "new"))
         if word == "kept" and asked:
             slots.append(("kept", *dice.choice(asked)))
@@ -148,7 +176,17 @@ def some_row(dice, sizes):
         else:
             wants = tuple(sorted(dice.sample(asked, dice.randint(0, len(asked)))))
             slots.append(("new", dice.randrange(5), wants))
-    return (elders, looks, dice.randrange(4), shape, tuple(slots))
+    return tuple(slots)
+
+
+def some_row(dice, sizes):
+    """A ROW for these sizes, as the dice tell."""
+    elders = tuple([dice.randrange(len(sizes)) for _ in range(dice.choice((0, 0, 1, 1, 2)))])
+    asked = asked_of(sizes, elders)
+    looks = tuple(dice.sample(asked, dice.randint(0, len(asked))))
+    shape = dice.randrange(len(sizes))
+    slots = some_slots(dice, asked, sizes[shape])
+    return (elders, looks, dice.randrange(4), shape, slots)
 
 
 def diced_crafts(many):
@@ -161,22 +199,6 @@ def diced_crafts(many):
     return crafts
 
 
-def some_slots(dice, sizes, elders, size):
-    """What so many slots of a ROW with these elders hold, as the dice tell."""
-    row = some_row(dice, sizes)
-    asked = [(place, slot) for place, shape in enumerate(elders) for slot in range(sizes[shape])]
-    slots = []
-    for _ in range(size):
-        word = dice.choice(("kept", "none", "new", "new"))
-        if word == "kept" and asked:
-            slots.append(("kept", *dice.choice(asked)))
-        elif word == "none":
-            slots.append(("none",))
-        else:
-            slots.append(("new", dice.randrange(5), tuple(sorted(dice.sample(asked, dice.randint(0, len(asked)))))))
-    return row[2], tuple(dice.sample(asked, dice.randint(0, len(asked)))), tuple(slots)
-
-
 def mate_of(dice, craft):
     """A mate of craft, as the dice tell: some ROWS are as they are, sizes may be other ones."""
     sizes, rows = craft
@@ -185,7 +207,9 @@ def mate_of(dice, craft):
     told = []
     for elders, looks, cost, shape, slots in rows:
         if sizes != craft[0] or dice.random() < 0.6:
-            cost, looks, slots = some_slots(dice, sizes, elders, sizes[shape])
+            asked = asked_of(sizes, elders)
+            cost, looks = dice.randrange(4), tuple(dice.sample(asked, dice.randint(0, len(asked))))
+            slots = some_slots(dice, asked, sizes[shape])
         told.append((elders, looks, cost, shape, slots))
     return (sizes, tuple(told))
 

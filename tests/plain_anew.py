@@ -85,7 +85,8 @@ def plain_numbered(craft, some, most):
             fit = [[pair for pair in sorted(pairs) if pair[0] == elder] for elder in elders]
             for own in product(*fit):
                 if (row, own) not in made:
-                    made[row, own] = (shape, tuple(plain_number(told, (row, slot) in some, own) * ((shape, slot) in leads)
+                    made[row, own] = (shape,
+                                      tuple(plain_number(told, (row, slot) in some, own) * ((shape, slot) in leads)
                                                    for slot, told in enumerate(slots)))
         pairs = set(made.values())
         if len(pairs) > most:
@@ -115,7 +116,8 @@ def plain_numbered_craft(craft, some):
                 own = ("new", 0 if (row, slot) in some else own[1] + more, own[2])
             told.append(own)
         rows.append((tuple(pairs.index(own) for own in elders), looks,
-                     cost + sum(elders[place][1][slot] for place, slot in looks), pairs.index(made[row, elders]), tuple(told)))
+                     cost + sum(elders[place][1][slot] for place, slot in looks), pairs.index(made[row, elders]),
+                     tuple(told)))
         numbers.append(row)
     return (tuple(craft[0][shape] for shape, _ in pairs), tuple(rows)), tuple(numbers)
 

@@ -11,7 +11,8 @@ def plain_pairings(parts, likes):
     told = []
     for many in range(len(parts) + len(likes) + 1):
         for some in combinations(sorted(pairs), many):
-            if sorted(part for part, _ in some if part) == list(parts) and sorted(like for _, like in some if like) == list(likes):
+            if sorted(part for part, _ in some if part) == list(parts) and sorted(like for _,
+                                                                                  like in some if like) == list(likes):
                 told.append(some)
     return told
 
@@ -29,7 +30,8 @@ def plain_twin_sorts(craft, twin):
     places = list(zip(elders, kind[1], like[1]))
     stand = (shape, (kind[2], like[2]))
     return ([(elder, (own[0], own_like[0])) for elder, own, own_like in places],
-            [(elder, (own[0], own_like[0]), (own[1], own_like[1])) for elder, own, own_like in places if own[1] or own_like[1]],
+            [(elder, (own[0], own_like[0]), (own[1], own_like[1])) for elder, own,
+             own_like in places if own[1] or own_like[1]],
             stand, [(*stand, pair) for pair in parts])
 
 

@@ -20,7 +20,8 @@ from tests.test_guarantees import some_webs
 
 NOUGHT = (0, 1)
 PUTS = ((0, ()), (1, (0,)), (1, (1,)), (2, (2,)))
-OTHERS = (True, False, None, "", (), 0, 1, 2, 3, -1, (0, 0), (1, 0), (2, 0), (1, 1), (True, 0), (1, False), [1, 0], (0, ()), (1, (0,)))
+OTHERS = (True, False, None, "", (), 0, 1, 2, 3, -1, (0, 0), (1, 0), (2, 0), (1, 1), (True, 0), (1, False), [1, 0],
+          (0, ()), (1, (0,)))
 ALL = (*CRAFTS, GROWS, HIDES, TURNS, *diced_crafts(80))
 
 
@@ -49,7 +50,8 @@ class Dear(unittest.TestCase):
         web = ((0, ()), (1, (0,)), (2, (1,)))
         for craft, some, said in ((KEPT, ((0, 1),), ((1,), (1,), (1,))), (KEPT, ((1, 0),), ((), (), ())),
                                   (KEPT, ((0, 1), (1, 0)), ((1,), (0, 1), (1,))), (KEPT, (), ((), (), ())),
-                                  (DOUBLE, ((0, 0), (1, 1)), ((0,), (1,), ())), (DOUBLE, ((1, 0), (1, 1)), ((), (), ())),
+                                  (DOUBLE, ((0, 0), (1, 1)), ((0,), (1,), ())), (DOUBLE, ((1, 0), (1, 1)),
+                                                                                 ((), (), ())),
                                   (CHAIN, ((1, 0),), ((), (0,), ())), (CARRY, ((0, 0),), ((0,), (0,), ())),
                                   (CARRY, (), ((), (), ()))):
             self.assertEqual(dear_slots(craft, web, some), said)
@@ -73,13 +75,18 @@ class Rings(unittest.TestCase):
 
     def test_whether_there_is_one(self):
         for craft, some, said in (
-                (CHAIN, ((1, 0),), True), (CHAIN, (), False), (with_cost(CHAIN, 1, 0, 0), ((1, 0),), False), (LONE, ((1, 0),), False),
-                (LATE, ((1, 0),), True), (TWINS, new_slots(TWINS), False), (KEPT, ((0, 1), (1, 0)), True), (KEPT, ((1, 0),), False),
+                (CHAIN, ((1, 0),), True), (CHAIN, (), False), (with_cost(CHAIN, 1, 0, 0), ((1, 0),), False),
+                (LONE, ((1, 0),), False),
+                (LATE, ((1, 0),), True), (TWINS, new_slots(TWINS), False), (KEPT, ((0, 1), (1, 0)), True),
+                (KEPT, ((1, 0),), False),
                 (KEPT, ((0, 1),), False), (DOUBLE, new_slots(DOUBLE), True), (DOUBLE, ((0, 0), (0, 1), (1, 0)), False),
-                (DOUBLE, ((1, 0), (1, 1)), False), (DOUBLE, ((0, 0), (1, 0), (1, 1)), True), (with_cost(DOUBLE, 1, 0, 1), ((1, 0),), True),
+                (DOUBLE, ((1, 0), (1, 1)), False), (DOUBLE, ((0, 0), (1, 0), (1, 1)), True),
+                (with_cost(DOUBLE, 1, 0, 1), ((1, 0),), True),
                 (DOUBLE, ((0, 0), (1, 0)), False), (GROWS, new_slots(GROWS), True), (GROWS, ((1, 1),), False),
-                (HIDES, new_slots(HIDES), False), (TURNS, new_slots(TURNS), True), (TURNS, ((0, 0), (1, 0), (3, 0)), True),
-                (TURNS, ((0, 0), (3, 0)), False), (TURNS, ((1, 0), (3, 0)), False), (STRAY, (), False), (NEVER, (), False),
+                (HIDES, new_slots(HIDES), False), (TURNS, new_slots(TURNS), True), (TURNS, ((0, 0), (1, 0), (3, 0)),
+                                                                                    True),
+                (TURNS, ((0, 0), (3, 0)), False), (TURNS, ((1, 0), (3, 0)), False), (STRAY, (), False),
+                (NEVER, (), False),
                 (SPROUT, ((1, 0),), False), (CARRY, ((0, 0),), False), (SIXTY, new_slots(SIXTY), False)):
             self.assertIs(is_endless(craft, some), said, msg=(craft, some))
 
@@ -144,7 +151,8 @@ class Rings(unittest.TestCase):
         self.assertIs(is_endless_ring(craft, some, (((0, ()), (1, (0, 0)), (2, (1,))), ((0, 0), (1, 0)), 1)), True)
         empty = ((0, ()), (2, (0,)), (1, (0, 1)), (2, (2,)))
         self.assertIs(is_endless_ring(craft, some, (empty, ((0, 0), (2, 0)), 1)), False)
-        self.assertIs(is_endless_ring(craft, ((1, 0),), (((0, ()), (1, (0, 0)), (2, (1,))), ((0, 0), (1, 0)), 1)), False)
+        self.assertIs(is_endless_ring(craft, ((1, 0),), (((0, ()), (1, (0, 0)), (2, (1,))), ((0, 0), (1, 0)), 1)),
+                      False)
 
     def test_bent_rings(self):
         both = new_slots(KEPT)
@@ -163,12 +171,19 @@ class Rings(unittest.TestCase):
         for craft, some in cases(ALL):
             if is_endless(craft, some):
                 web, steps, place = endless_ring(craft, some)
-                pays = [paid_anew(craft, pumped(web, steps, place, turns), some)[-1] for turns in (0, 1, 2, 3)]
-                self.assertEqual(pays, sorted(set(pays)), msg=(craft, some))
+                tells = []
+                for turns in range(4):
+                    longer, version = pumped(web, steps, place, turns)
+                    tells.append((again(craft, longer, some, version, steps[place][1]),
+                                  paid_anew(craft, longer, some)[-1]))
+                self.assertEqual([own for own, _ in tells], sorted({own for own, _ in tells}), msg=(craft, some))
+                # Deeds of the first turn may look at what is shared, and leave less to the last one.
+                self.assertEqual([pays for _, pays in tells[1:]], sorted({pays for _, pays in tells[1:]}),
+                                 msg=(craft, some))
 
 
 def pumped(web, steps, place, turns):
-    """web with the deeds of the pairs 1 to place done so many times more, then those behind them."""
+    """web with the deeds of the pairs 1 to place done so many times more, then those behind them; the last of the turns."""
     longer = list(web[:-1])
     behind = dict(zip([version for version, _ in steps[1:]], range(len(steps))))
     now = steps[place][0]
@@ -178,13 +193,14 @@ def pumped(web, steps, place, turns):
             row, elders = web[version]
             longer.append((row, tuple(now if elder == ahead else elder for elder in elders)))
             now = len(longer) - 1
+    last = now
     for version, _ in steps[place + 1:]:
         ahead = steps[behind[version]][0]
         row, elders = web[version]
         longer.append((row, tuple(now if elder == ahead else elder for elder in elders)))
         now = len(longer) - 1
     row, elders = web[-1]
-    return (*longer, (row, tuple(now if elder == steps[-1][0] else elder for elder in elders)))
+    return (*longer, (row, tuple(now if elder == steps[-1][0] else elder for elder in elders))), last
 
 
 class Numbered(unittest.TestCase):
@@ -201,12 +217,14 @@ class Numbered(unittest.TestCase):
 
     def test_slots_that_lead_to_no_look(self):
         # LONE, HIDES: dear, and dearer and dearer, but never asked for.
-        self.assertEqual(numbered_craft(LONE, ((1, 0),)), (((1,), (LONE[1][0], ((0,), (), 0, 0, (("new", 0, ((0, 0),)),)))), (0, 1)))
+        self.assertEqual(numbered_craft(LONE, ((1, 0),)),
+                         (((1,), (LONE[1][0], ((0,), (), 0, 0, (("new", 0, ((0, 0),)),)))), (0, 1)))
         numbered, _ = numbered_craft(HIDES, new_slots(HIDES))
         self.assertEqual(sorted({row[2] for row in numbered[1]}), [0, 1, 2])
         self.assertEqual(len(numbered[0]), 2)
         # HALF: slot 1 is never looked at, so what is dear there does not tell VERSIONS apart.
-        self.assertEqual(numbered_craft(HALF, ((0, 1),))[0], ((2, 0), (((), (), 0, 0, (("new", 1, ()), ("new", 0, ()))), HALF[1][1])))
+        self.assertEqual(numbered_craft(HALF, ((0, 1),))[0],
+                         ((2, 0), (((), (), 0, 0, (("new", 1, ()), ("new", 0, ()))), HALF[1][1])))
         self.assertEqual(numbered_craft(HALF, ((0, 0),))[0][1][1], ((0,), ((0, 0),), 1, 1, ()))
 
     def test_idle_rows_and_shapes_are_left_out(self):
@@ -235,7 +253,8 @@ class Numbered(unittest.TestCase):
             told = numbered_craft(craft, some)
             self.assertEqual(told, plain_numbered_craft(craft, some))
             self.assertTrue(is_craft(told[0]))
-            looked = [numbers[slot] for row in coming(craft) for place, slot in craft[1][row][1] for shape, numbers in pairs
+            looked = [numbers[slot] for row in coming(craft) for place, slot in craft[1][row][1] for shape,
+                      numbers in pairs
                       if shape == craft[1][row][0][place]]
             self.assertEqual(most_again(craft, some), max(looked, default=0))
 
@@ -248,7 +267,8 @@ class Numbered(unittest.TestCase):
             if said:
                 self.assertIsNone(pairs, msg=(craft, some))
             else:
-                self.assertTrue(pairs is not None or plain_numbered(craft, some, 4000)[0] is not None, msg=(craft, some))
+                self.assertTrue(pairs is not None or plain_numbered(craft, some, 4000)[0] is not None,
+                                msg=(craft, some))
         self.assertGreater(min(many), 40)
 
     def test_each_web_costs_what_it_costs_anew(self):
@@ -273,7 +293,8 @@ class Numbered(unittest.TestCase):
         self.assertEqual(len(numbered_craft(begins(60), new_slots(begins(60)))[0][0]), 60)
         for call in (numbered_craft, most_again, anew_mean):
             self.assertRaises(TooMany, call, begins(61), new_slots(begins(61)))
-        self.assertEqual((most_again(begins(60), new_slots(begins(60))), anew_mean(begins(60), new_slots(begins(60)))), (59, (59, 1)))
+        self.assertEqual((most_again(begins(60), new_slots(begins(60))), anew_mean(begins(60), new_slots(begins(60)))),
+                         (59, (59, 1)))
         # All but one are anew: as many less.
         self.assertEqual(len(numbered_craft(begins(61), new_slots(begins(61))[1:])[0][0]), 60)
 
@@ -284,18 +305,22 @@ class Numbered(unittest.TestCase):
         self.assertEqual(most_again(SIXTY, new_slots(SIXTY)), 8)
         # Too many KINDS of its own do not matter, but for the mean.
         self.assertRaises(TooMany, anew_mean, BEYOND, ())
-        self.assertEqual((most_again(BEYOND, ()), numbered_craft(BEYOND, ())), (0, (BEYOND, tuple(range(len(BEYOND[1]))))))
+        self.assertEqual((most_again(BEYOND, ()), numbered_craft(BEYOND, ())),
+                         (0, (BEYOND, tuple(range(len(BEYOND[1]))))))
 
 
 class Means(unittest.TestCase):
 
     def test_by_hand(self):
         for craft, some, said in (
-                (TWINS, (), (2, 1)), (TWINS, ((0, 0),), (3, 1)), (MELDS, ((0, 0),), (8, 1)), (MELDS, (), (8, 3)), (LONE, ((1, 0),), NOUGHT),
-                (HIDES, new_slots(HIDES), (2, 1)), (NEVER, (), NOUGHT), (STRAY, (), (5, 1)), (SPROUT, ((1, 0),), (5, 1)),
+                (TWINS, (), (2, 1)), (TWINS, ((0, 0),), (3, 1)), (MELDS, ((0, 0),), (8, 1)), (MELDS, (), (8, 3)),
+                (LONE, ((1, 0),), NOUGHT),
+                (HIDES, new_slots(HIDES), (2, 1)), (NEVER, (), NOUGHT), (STRAY, (), (5, 1)),
+                (SPROUT, ((1, 0),), (5, 1)),
                 (RELAY, ((0, 0),), (12, 1)), (HALF, ((0, 0),), (1, 1)), (HALF, ((0, 1),), (1, 2))):
             self.assertEqual(anew_mean(craft, some), said, msg=(craft, some))
-        self.assertEqual([most_again(craft, some) for craft, some in ((NEVER, ()), (STRAY, ()), (RELAY, ((0, 0),)), (HALF, ((0, 1),)))],
+        self.assertEqual([most_again(craft, some) for craft, some in ((NEVER, ()), (STRAY, ()), (RELAY, ((0, 0),)),
+                                                                      (HALF, ((0, 1),)))],
                          [0, 0, 8, 0])
 
     def test_no_web_costs_more_and_none_less_is_enough(self):
@@ -336,7 +361,8 @@ class Means(unittest.TestCase):
 
 class Wrong(unittest.TestCase):
 
-    CALLS = (endless_ring, numbered_craft, most_again, anew_mean, lambda craft, some: is_endless_ring(craft, some, None))
+    CALLS = (endless_ring, numbered_craft, most_again, anew_mean, lambda craft, some: is_endless_ring(craft, some,
+                                                                                                      None))
 
     def test_crafts_and_webs(self):
         for craft in (*JUNK, (BEYOND[0], (*BEYOND[1], 5))):
@@ -366,10 +392,14 @@ class Wrong(unittest.TestCase):
                     self.assertLessEqual(Fraction(*anew_mean(AMPLE, ())), Fraction(*anew_mean(AMPLE, some)))
                 except TooMany:
                     pass
-        swaps = ((2, 2), (((), (), 1, 0, (("new", 1, ()), ("new", 3, ()))), ((), (), 1, 0, (("new", 10, ()), ("new", 30, ()))),
-                          ((0,), (), 1, 1, (("new", 5, ((0, 0),)), ("kept", 0, 1))), ((0,), (), 1, 1, (("kept", 0, 0), ("new", 9, BOTH[1:2]))),
-                          ((1,), ((0, 0),), 1, 1, (("kept", 0, 1), ("new", 7, ()))), ((1,), (), 1, 1, (("kept", 0, 1), ("kept", 0, 0)))))
-        self.assertEqual((anew_mean(swaps, new_slots(swaps)), len(numbered_craft(swaps, new_slots(swaps))[0][0])), ((40, 1), 27))
+        swaps = ((2, 2), (((), (), 1, 0, (("new", 1, ()), ("new", 3, ()))),
+                          ((), (), 1, 0, (("new", 10, ()), ("new", 30, ()))),
+                          ((0,), (), 1, 1, (("new", 5, ((0, 0),)), ("kept", 0, 1))),
+                          ((0,), (), 1, 1, (("kept", 0, 0), ("new", 9, BOTH[1:2]))),
+                          ((1,), ((0, 0),), 1, 1, (("kept", 0, 1), ("new", 7, ()))),
+                          ((1,), (), 1, 1, (("kept", 0, 1), ("kept", 0, 0)))))
+        self.assertEqual((anew_mean(swaps, new_slots(swaps)), len(numbered_craft(swaps, new_slots(swaps))[0][0])),
+                         ((40, 1), 27))
         self.assertIs(is_endless(PAIRS, new_slots(PAIRS)), is_endless(PAIRS, ((0, 0), (1, 0), (3, 0), (3, 1))))
 
 

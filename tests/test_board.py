@@ -20,8 +20,10 @@ from tests.known import BEYOND, CHAIN, CRAFTS, JUNK, KEPT, LONE, MELDS, NEVER, P
 from tests.known import diced_crafts, diced_webs
 
 NOUGHT, ONE = (0, 1), (1, 1)
-METHODS = {"do": ("row", "elders"), "keep": ("versions",), "undo": (), "redo": (), "web": (), "can_come": (), "cost_now": (),
-           "paid_now": (), "look": ("version", "slot"), "undone": (), "kind": ("version",), "accounts": ("payments", "prices"), "twin": ()}
+METHODS = {"do": ("row", "elders"), "keep": ("versions",), "undo": (), "redo": (), "web": (), "can_come": (),
+           "cost_now": (),
+           "paid_now": (), "look": ("version", "slot"), "undone": (), "kind": ("version",),
+           "accounts": ("payments", "prices"), "twin": ()}
 SORTS = let_sorts(TWINS)
 LESS = tuple((sort, (-2, 1)) for sort in SORTS)
 TWO = ((2, 1),) * 3
@@ -77,9 +79,12 @@ class Deeds(unittest.TestCase):
         desk = desk_with(SHARES, ((0, ()), (0, ()), (1, (0, 1))))
         before = state(desk)
         for row, elders, kind, kept in (
-                (4, (), NoRow, {"number": 4}), (-1, (9, 9, 9), NoRow, {"number": -1}), (0, (0,), Unfit, {}), (1, (0,), Unfit, {}),
-                (1, (0, 9, 1), Unfit, {}), (1, (), Unfit, {}), (1, (9, 7), NoVersion, {"number": 9}), (1, (2, 3), NoVersion, {"number": 3}),
-                (1, (-1, 9), NoVersion, {"number": -1}), (1, (0, 2), Unfit, {}), (1, (2, 2), Unfit, {}), (2, (0,), Unfit, {}), (3, (0, 2), Unfit, {}),
+                (4, (), NoRow, {"number": 4}), (-1, (9, 9, 9), NoRow, {"number": -1}), (0, (0,), Unfit, {}),
+                (1, (0,), Unfit, {}),
+                (1, (0, 9, 1), Unfit, {}), (1, (), Unfit, {}), (1, (9, 7), NoVersion, {"number": 9}),
+                (1, (2, 3), NoVersion, {"number": 3}),
+                (1, (-1, 9), NoVersion, {"number": -1}), (1, (0, 2), Unfit, {}), (1, (2, 2), Unfit, {}),
+                (2, (0,), Unfit, {}), (3, (0, 2), Unfit, {}),
                 (2, (3,), NoVersion, {"number": 3})):
             with self.assertRaises(kind) as caught:
                 desk.do(row, elders)
@@ -111,7 +116,8 @@ class Deeds(unittest.TestCase):
             desk.do(row, elders)
         desk.keep((1,))
         self.assertEqual([desk.undo(), desk.undo(), len(desk.web())], ["keep", "do", 2])
-        self.assertEqual([desk.redo(), len(desk.web()), desk.redo(), desk.web()], ["do", 3, "keep", ((0, ()), (1, (0,)))])
+        self.assertEqual([desk.redo(), len(desk.web()), desk.redo(), desk.web()],
+                         ["do", 3, "keep", ((0, ()), (1, (0,)))])
         self.assertRaises(NothingDone, desk.redo)
         self.assertEqual([desk.undo() for _ in range(4)], ["keep", "do", "do", "do"])
         self.assertRaises(NothingDone, desk.undo)
@@ -177,15 +183,19 @@ class Looks(unittest.TestCase):
         for row in (2, 2, 1):
             desk.do(row, (0,))
             told.append(desk.kind(0))
-        self.assertEqual([kind[2:] for kind in told], [((), ()), ((1,), ((1,),)), ((1,), ((1,),)), ((0, 1), ((0,), (1,)))])
+        self.assertEqual([kind[2:] for kind in told], [((), ()), ((1,), ((1,),)), ((1,), ((1,),)),
+                                                       ((0, 1), ((0,), (1,)))])
         desk.undo()
         self.assertEqual(desk.kind(version=0), told[2])
 
     def test_wrong_inputs(self):
         desk = desk_with(TWINS, ((0, ()), (1, (0,))))
-        for call, kind, kept in ((lambda: desk.look(2, 9), NoVersion, {"number": 2}), (lambda: desk.look(-1, 0), NoVersion, {"number": -1}),
-                                 (lambda: desk.look(0, 2), NoSlot, {"slot": 2}), (lambda: desk.look(1, 0), NoSlot, {"slot": 0}),
-                                 (lambda: desk.look(0, -1), NoSlot, {"slot": -1}), (lambda: desk.kind(2), NoVersion, {"number": 2}),
+        for call, kind, kept in ((lambda: desk.look(2, 9), NoVersion, {"number": 2}), (lambda: desk.look(-1, 0),
+                                                                                       NoVersion, {"number": -1}),
+                                 (lambda: desk.look(0, 2), NoSlot, {"slot": 2}), (lambda: desk.look(1, 0), NoSlot,
+                                                                                  {"slot": 0}),
+                                 (lambda: desk.look(0, -1), NoSlot, {"slot": -1}), (lambda: desk.kind(2), NoVersion,
+                                                                                    {"number": 2}),
                                  (lambda: desk.kind(-1), NoVersion, {"number": -1})):
             with self.assertRaises(kind) as caught:
                 call()
@@ -195,7 +205,8 @@ class Looks(unittest.TestCase):
 
     def test_no_rows_come(self):
         desk = Board(NEVER)
-        self.assertEqual((desk.can_come(), desk.cost_now(), desk.paid_now(), desk.undone(), desk.web()), ([], 0, (), (), ()))
+        self.assertEqual((desk.can_come(), desk.cost_now(), desk.paid_now(), desk.undone(), desk.web()),
+                         ([], 0, (), (), ()))
         self.assertEqual(desk.accounts((ONE,), ()), [(NOUGHT, NOUGHT)])
 
     def test_each_told_list_is_new(self):
@@ -214,9 +225,11 @@ class Accounts(unittest.TestCase):
         self.assertEqual(desk.accounts((NOUGHT, ONE, NOUGHT), price),
                          [(NOUGHT, NOUGHT), (NOUGHT, NOUGHT), (NOUGHT, (5, 2)), (NOUGHT, (5, 2)), (NOUGHT, NOUGHT)])
         self.assertEqual(desk.accounts(payments=((1, 3), (1, 2), (-1, 1)), prices=[[[0, [0], [0]], [-1, 4]]]),
-                         [(NOUGHT, NOUGHT), ((1, 3), NOUGHT), ((-1, 6), (-1, 4)), ((-2, 3), (-1, 4)), ((-5, 3), NOUGHT)])
+                         [(NOUGHT, NOUGHT), ((1, 3), NOUGHT), ((-1, 6), (-1, 4)), ((-2, 3), (-1, 4)),
+                          ((-5, 3), NOUGHT)])
         self.assertEqual(Board(CHAIN).accounts((ONE, ONE, ONE), price), [(NOUGHT, NOUGHT)])
-        self.assertEqual(desk_with(STRAY, ((0, ()), (0, ()))).accounts(((6, 1), ONE), ()), [(NOUGHT, NOUGHT), (ONE, NOUGHT), ((2, 1), NOUGHT)])
+        self.assertEqual(desk_with(STRAY, ((0, ()), (0, ()))).accounts(((6, 1), ONE), ()),
+                         [(NOUGHT, NOUGHT), (ONE, NOUGHT), ((2, 1), NOUGHT)])
 
     def test_step_by_step(self):
         for craft in (*CRAFTS, *diced_crafts(40)):
@@ -251,8 +264,10 @@ class Accounts(unittest.TestCase):
         before = state(desk)
         for payments in ((), TWO[:2], (*TWO, ONE), (ONE, ONE, (2, 4)), (ONE, ONE, 1), (ONE, ONE, (1, 0))):
             self.assertRaises(Unfit, desk.accounts, payments, LESS)
-        for told in ((), LESS[1:], LESS[:-1], LESS[::-1], (*LESS, LESS[-1]), (*LESS[:3], (SORTS[3], (2, 4))), (*LESS[:3], (SORTS[3], 1)),
-                     (*LESS[:3], ((0, (1,), ()), ONE)), (*LESS[:3], LESS[2]), tuple(SORTS), ((LESS,),) * 4, (*LESS[:3], (*LESS[3], 1))):
+        for told in ((), LESS[1:], LESS[:-1], LESS[::-1], (*LESS, LESS[-1]), (*LESS[:3], (SORTS[3], (2, 4))),
+                     (*LESS[:3], (SORTS[3], 1)),
+                     (*LESS[:3], ((0, (1,), ()), ONE)), (*LESS[:3], LESS[2]), tuple(SORTS), ((LESS,),) * 4,
+                     (*LESS[:3], (*LESS[3], 1))):
             self.assertRaises(Unfit, desk.accounts, TWO, told)
         self.assertEqual(state(desk), before)
         self.assertRaises(TooMany, Board(BEYOND).accounts, (), ())
@@ -327,15 +342,19 @@ class Calls(unittest.TestCase):
 
     def test_kinds_of_results(self):
         desk = desk_with(KEPT, ((0, ()), (1, (0,)), (2, (1,))))
-        self.assertEqual([type(told) for told in (desk.web(), desk.can_come(), desk.cost_now(), desk.paid_now(), desk.undone(), desk.kind(0),
-                                                  desk.look(0, 0), desk.accounts(((1, 1),) * 3, prices(KEPT, ((1, 1),) * 3)), desk.undo())],
+        self.assertEqual([type(told) for told in (desk.web(), desk.can_come(), desk.cost_now(), desk.paid_now(),
+                                                  desk.undone(), desk.kind(0),
+                                                  desk.look(0, 0), desk.accounts(((1, 1),) * 3,
+                                                                                 prices(KEPT, ((1, 1),) * 3)),
+                                                                                 desk.undo())],
                          [tuple, list, int, tuple, tuple, tuple, int, list, str])
 
     def test_long_webs(self):
         web = diced_webs(MELDS, 1, 60)[0]
         desk = desk_with(MELDS, web)
         own = even(MELDS, added(mean(MELDS), ONE))
-        self.assertEqual((desk.web(), desk.cost_now(), len(desk.accounts(own, prices(MELDS, own)))), (web, cost(MELDS, web), 61))
+        self.assertEqual((desk.web(), desk.cost_now(), len(desk.accounts(own, prices(MELDS, own)))),
+                         (web, cost(MELDS, web), 61))
         self.assertEqual([desk.undo() for _ in range(60)], ["do"] * 60)
         self.assertEqual(len(let_kinds(MELDS)), 6)
 

@@ -9,7 +9,7 @@ from paidbyheirs.cuts import added, cut, taken_off
 from paidbyheirs.errors import CanNot, NoRow, TooMany, Unfit
 from paidbyheirs.lines import gaining
 from paidbyheirs.payments import even, is_enough, mean
-from tests.known import AMPLE, BEYOND, BORDER, CARRY, CHAIN, CRAFTS, DOUBLE, HALF, JUNK, KEPT, LATE, LONE, MELDS, NEVER, PAIRS
+from tests.known import AMPLE, BEYOND, BORDER, CARRY, CHAIN, CRAFTS, DOUBLE, FACETS, HALF, JUNK, KEPT, LATE, LONE, MELDS, NEVER, PAIRS
 from tests.known import RELAY, SHARES, SPROUT, STAIRS, STRAY, TWINS, deep, diced_crafts, variants
 
 ONE = (1, 1)
@@ -183,7 +183,8 @@ class Corners(unittest.TestCase):
 
     def test_by_hand(self):
         for craft, said in (
-                (TWINS, [(0, 3, 3), (3, 0, 3), (3, 3, 0), (6, 0, 0)]), (LONE, [(0, 0)]), (NEVER, [(0,)]), (STRAY, [(5, 0)]),
+                (TWINS, [(0, 3, 3), (3, 0, 3), (3, 3, 0), (6, 0, 0)]), (LONE, [(0, 0)]), (NEVER, [(0,)]),
+                (STRAY, [(5, 0)]),
                 (LATE, [(0, 1, 0, 0)]), (SPROUT, [(0, 0, 5), (0, 5, 0)]), (HALF, [(0, 1), (1, 0)]),
                 (CARRY, [(0, 0, 3), (2, 0, 1)]), (KEPT, [(0, 0, 1), (0, 1, 0), (1, 0, 0)])):
             told = corners(craft)
@@ -227,6 +228,11 @@ class Corners(unittest.TestCase):
             short = [[one[row] for row in done] for one in told]
             self.assertEqual(is_enough(craft, payments), is_mixed(short, [payments[row] for row in done]))
 
+    def test_the_most_corners(self):
+        told = corners(FACETS)
+        self.assertEqual(len(told), 11)
+        self.check(FACETS, (0, 1, 2), told)
+
     def test_too_many(self):
         for craft in (PAIRS, AMPLE, RELAY):
             self.assertGreater(len(rows_done(craft)), 3)
@@ -247,7 +253,8 @@ class Corners(unittest.TestCase):
                     self.assertIs(is_corner(craft, thing), any(repr(thing) == repr(one) for one in told), msg=thing)
 
     def test_on_the_border_and_no_corner(self):
-        for own in (((3, 1), (3, 2), (3, 2)), ((9, 2), (0, 1), (3, 2)), ((7, 1), (0, 1), (0, 1)), ((0, 1), (3, 1), (2, 1))):
+        for own in (((3, 1), (3, 2), (3, 2)), ((9, 2), (0, 1), (3, 2)), ((7, 1), (0, 1), (0, 1)),
+                    ((0, 1), (3, 1), (2, 1))):
             self.assertIs(is_corner(TWINS, own), False)
         self.assertIs(is_corner(STRAY, ((5, 1), (1, 1))), False)
         self.assertIs(is_corner(STRAY, ((5, 1), (-1, 1))), False)

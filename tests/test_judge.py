@@ -23,12 +23,18 @@ UNEVEN = ((2, 0), ((((), (), 0, 0, (("new", 2, ()), ("new", 4, ()))),) + TWINS[1
 MAKE = (0, (), (0, 1), ((0,), (1,)))
 LOST = (0, (), (0, 1), ((0, 1),))
 RING = (((0, ()), (1, (0,)), (1, (1,)), (2, (2,))), ((1, 0), (2, 0)), 1)
-OTHERS = (True, False, None, "", "let", 0, 1, -1, (), (0,), (0, 1), (1, 1), (2, 4), (-1, 2), (True, 1), [0, 1], ((0, 0),))
-STANDS = (("enough", CHAIN, (NOUGHT, ONE, NOUGHT)), ("enough", NEVER, ((-5, 1),)), ("mean", TWINS, (2, 1)), ("mean", NEVER, (-1, 1)),
-          ("mean", MELDS, (8, 3)), ("ratio", TWINS, UNEVEN, (3, 2)), ("ratio", TWINS, UNEVEN, (7, 1)), ("ratio", LONE, LONE, NOUGHT),
-          ("let", TWINS, MAKE), ("let", LONE, (0, (), (0,), ())), ("endless", CHAIN, ((1, 0),)), ("endless", KEPT, ((0, 1), (1, 0))))
-FALLS = (("enough", CHAIN, (NOUGHT, (1, 2), NOUGHT)), ("enough", STRAY, ((4, 1), (9, 1))), ("mean", TWINS, (3, 2)), ("mean", STRAY, (-1, 1)),
-         ("ratio", TWINS, UNEVEN, (4, 3)), ("ratio", counting(LONE), LONE, (10 ** 6, 1)), ("let", TWINS, LOST), ("let", NEVER, all_kinds(NEVER)[0]),
+OTHERS = (True, False, None, "", "let", 0, 1, -1, (), (0,), (0, 1), (1, 1), (2, 4), (-1, 2), (True, 1), [0, 1],
+          ((0, 0),))
+STANDS = (("enough", CHAIN, (NOUGHT, ONE, NOUGHT)), ("enough", NEVER, ((-5, 1),)), ("mean", TWINS, (2, 1)),
+          ("mean", NEVER, (-1, 1)),
+          ("mean", MELDS, (8, 3)), ("ratio", TWINS, UNEVEN, (3, 2)), ("ratio", TWINS, UNEVEN, (7, 1)),
+          ("ratio", LONE, LONE, NOUGHT),
+          ("let", TWINS, MAKE), ("let", LONE, (0, (), (0,), ())), ("endless", CHAIN, ((1, 0),)),
+          ("endless", KEPT, ((0, 1), (1, 0))))
+FALLS = (("enough", CHAIN, (NOUGHT, (1, 2), NOUGHT)), ("enough", STRAY, ((4, 1), (9, 1))), ("mean", TWINS, (3, 2)),
+         ("mean", STRAY, (-1, 1)),
+         ("ratio", TWINS, UNEVEN, (4, 3)), ("ratio", counting(LONE), LONE, (10 ** 6, 1)), ("let", TWINS, LOST),
+         ("let", NEVER, all_kinds(NEVER)[0]),
          ("endless", CHAIN, ()), ("endless", KEPT, ((0, 1),)), ("endless", NEVER, ()))
 
 
@@ -61,7 +67,8 @@ def ratio_claims():
     for craft, other in diced_mates(50):
         if told(let_twins, craft, other) is not TooMany:
             own = told(ratio, craft, other)
-            parts = [(10 ** 6, 1)] if own is CanNot else [own, added(own, ONE), *([cut(own[0], own[1] + 1)] if own != NOUGHT else [])]
+            parts = [(10 ** 6, 1)] if own is CanNot else [own, added(own, ONE),
+                                                          *([cut(own[0], own[1] + 1)] if own != NOUGHT else [])]
             for part in parts:
                 yield ("ratio", craft, other, part)
 
@@ -69,7 +76,8 @@ def ratio_claims():
 class IsClaim(unittest.TestCase):
 
     def test_those_that_are(self):
-        for claim in (*STANDS, *FALLS, ("enough", BEYOND, even(BEYOND, ONE)), ("mean", BEYOND, (-7, 3)), ("let", BEYOND, (0, (), (), ())),
+        for claim in (*STANDS, *FALLS, ("enough", BEYOND, even(BEYOND, ONE)), ("mean", BEYOND, (-7, 3)),
+                      ("let", BEYOND, (0, (), (), ())),
                       ("endless", AMPLE, new_slots(AMPLE)), ("ratio", BEYOND, counting(BEYOND), NOUGHT)):
             self.assertIs(is_claim(claim), True, msg=claim)
             self.assertIs(is_claim(list(claim)), False)
@@ -78,23 +86,33 @@ class IsClaim(unittest.TestCase):
                 self.assertIs(is_claim((*claim[:at], as_lists(claim[at]), *claim[at + 1:])), False)
 
     def test_those_that_are_not(self):
-        for thing in (*JUNK, deep(12), ("enough",), ("enough", CHAIN), ("enough", CHAIN, (ONE,) * 2), ("enough", CHAIN, (ONE,) * 4), ("Mean", CHAIN, ONE),
-                      ("enough", CHAIN, (ONE, ONE, (2, 2))), ("enough", CHAIN, ONE), ("mean", CHAIN, (ONE,) * 3), ("mean", CHAIN, (2, 4)),
-                      ("mean", CHAIN, 1), ("mean", CHAIN, ONE, ONE), ("mean", (1,), ONE), ("mean", CHAIN, (True, 1)), ("ratio", TWINS, UNEVEN),
-                      ("ratio", TWINS, UNEVEN, (-1, 2)), ("ratio", TWINS, CHAIN, ONE), ("ratio", CHAIN, LONE, ONE), ("ratio", TWINS, UNEVEN, (2, 2)),
-                      ("ratio", TWINS, UNEVEN, ONE, ONE), ("let", TWINS, (0, (), (1,), ())), ("let", CHAIN, MAKE), ("let", TWINS, list(MAKE)),
-                      ("endless", CHAIN, ((0, 0),)), ("endless", CHAIN, ((1, 0), (1, 0))), ("endless", KEPT, ((1, 0), (0, 1))),
-                      ("endless", KEPT, [(0, 1)]), ("endless", KEPT, ((0, True),)), ("endless", CHAIN, (1, 0)), ("endless", CHAIN, None),
-                      ("dear", CHAIN, ONE), (True, CHAIN, ONE), (None, CHAIN, ONE), (("mean",), CHAIN, ONE), "mean", ("", CHAIN, ONE)):
+        for thing in (*JUNK, deep(12), ("enough",), ("enough", CHAIN), ("enough", CHAIN, (ONE,) * 2),
+                      ("enough", CHAIN, (ONE,) * 4), ("Mean", CHAIN, ONE),
+                      ("enough", CHAIN, (ONE, ONE, (2, 2))), ("enough", CHAIN, ONE), ("mean", CHAIN, (ONE,) * 3),
+                      ("mean", CHAIN, (2, 4)),
+                      ("mean", CHAIN, 1), ("mean", CHAIN, ONE, ONE), ("mean", (1,), ONE), ("mean", CHAIN, (True, 1)),
+                      ("ratio", TWINS, UNEVEN),
+                      ("ratio", TWINS, UNEVEN, (-1, 2)), ("ratio", TWINS, CHAIN, ONE), ("ratio", CHAIN, LONE, ONE),
+                      ("ratio", TWINS, UNEVEN, (2, 2)),
+                      ("ratio", TWINS, UNEVEN, ONE, ONE), ("let", TWINS, (0, (), (1,), ())), ("let", CHAIN, MAKE),
+                      ("let", TWINS, list(MAKE)),
+                      ("endless", CHAIN, ((0, 0),)), ("endless", CHAIN, ((1, 0), (1, 0))),
+                      ("endless", KEPT, ((1, 0), (0, 1))),
+                      ("endless", KEPT, [(0, 1)]), ("endless", KEPT, ((0, True),)), ("endless", CHAIN, (1, 0)),
+                      ("endless", CHAIN, None),
+                      ("dear", CHAIN, ONE), (True, CHAIN, ONE), (None, CHAIN, ONE), (("mean",), CHAIN, ONE), "mean",
+                      ("", CHAIN, ONE)):
             self.assertIs(is_claim(thing), False, msg=thing)
-            for call in (is_so, paper_against, lambda claim: is_paper_against(claim, None), reason_for, lambda claim: is_reason_for(claim, None),
+            for call in (is_so, paper_against, lambda claim: is_paper_against(claim, None), reason_for,
+                         lambda claim: is_reason_for(claim, None),
                          lambda claim: first_fallen((STANDS[0], claim))):
                 # As an argument it may be one: lists are tuples there.
                 if not is_claim(as_tuples(thing)):
                     self.assertRaises(Unfit, call, thing)
 
     def test_bent_claims(self):
-        for claim in (("mean", LONE, (1, 2)), ("enough", STRAY, (ONE, (5, 1))), ("let", LONE, (0, (), (0,), ())), ("endless", LONE, ((1, 0),)),
+        for claim in (("mean", LONE, (1, 2)), ("enough", STRAY, (ONE, (5, 1))), ("let", LONE, (0, (), (0,), ())),
+                      ("endless", LONE, ((1, 0),)),
                       ("ratio", STRAY, STRAY, ONE)):
             for at in [0, *range(2, len(claim))]:
                 for part in (*JUNK, *variants(claim[at], OTHERS)):
@@ -140,7 +158,8 @@ class Judge(unittest.TestCase):
             for claim in claims_of(craft):
                 word, _, last = claim
                 said = {"enough": lambda: is_enough(craft, last), "mean": lambda: is_enough(craft, even(craft, last)),
-                        "let": lambda: is_let(craft, last), "endless": lambda: told(endless_ring, craft, last) is not CanNot}[word]()
+                        "let": lambda: is_let(craft, last), "endless": lambda: told(endless_ring, craft,
+                                                                                    last) is not CanNot}[word]()
                 self.assertIs(is_so(claim), said)
                 self.assertIs(is_so(as_lists(claim)), said)
                 self.assertIs(is_so(as_mixed(claim)), said)
@@ -165,7 +184,8 @@ class Judge(unittest.TestCase):
         self.assertEqual(paper is None, said)
         self.assertIs(is_paper_against(claim, paper), not said)
         if not said and claim[0] != "ratio":
-            self.assertIs(is_breaking(claim[1], claim[2] if claim[0] == "enough" else even(claim[1], claim[2]), paper), True)
+            self.assertIs(is_breaking(claim[1], claim[2] if claim[0] == "enough" else even(claim[1], claim[2]), paper),
+                          True)
 
     def check_reasons(self, claim, said):
         """There is a REASON exactly if it stands, where there are REASONS."""
@@ -211,7 +231,8 @@ class Judge(unittest.TestCase):
         self.assertIs(is_reason_for(("let", TWINS, MAKE), trio[:1]), False)
 
     def test_bent_papers(self):
-        for claim in (("mean", MELDS, (5, 2)), ("enough", CHAIN, (NOUGHT, (1, 2), NOUGHT)), ("ratio", TWINS, UNEVEN, (4, 3))):
+        for claim in (("mean", MELDS, (5, 2)), ("enough", CHAIN, (NOUGHT, (1, 2), NOUGHT)),
+                      ("ratio", TWINS, UNEVEN, (4, 3))):
             paper = paper_against(claim)
             for thing in (*JUNK, *variants(paper, OTHERS), deep(12)):
                 if claim[0] == "ratio":
@@ -223,13 +244,15 @@ class Judge(unittest.TestCase):
                     said = is_breaking(claim[1], claim[2] if claim[0] == "enough" else even(claim[1], claim[2]), thing)
                 self.assertIs(is_paper_against(claim, thing), said, msg=thing)
         many = ratio_bundle(TWINS, UNEVEN)
-        self.assertEqual([is_paper_against(("ratio", TWINS, UNEVEN, part), many) for part in ((4, 3), (149, 100), (3, 2), (2, 1))],
+        self.assertEqual([is_paper_against(("ratio", TWINS, UNEVEN, part), many) for part in ((4, 3), (149, 100),
+                                                                                              (3, 2), (2, 1))],
                          [True, True, False, False])
         apart = apart_bundle(counting(LONE), LONE)
         self.assertIs(is_paper_against(("ratio", counting(LONE), LONE, (10 ** 6, 1)), apart), True)
 
     def test_bent_reasons(self):
-        for claim in (("mean", MELDS, (8, 3)), ("enough", CHAIN, (NOUGHT, ONE, NOUGHT)), ("let", TWINS, MAKE), ("endless", CHAIN, ((1, 0),))):
+        for claim in (("mean", MELDS, (8, 3)), ("enough", CHAIN, (NOUGHT, ONE, NOUGHT)), ("let", TWINS, MAKE),
+                      ("endless", CHAIN, ((1, 0),))):
             reason = reason_for(claim)
             for thing in (*JUNK, *variants(reason, OTHERS), deep(12)):
                 if claim[0] == "let":
@@ -247,9 +270,11 @@ class Judge(unittest.TestCase):
 
     def test_of_one_claim_not_of_another(self):
         hurt = breaking(MELDS, even(MELDS, (5, 2)))
-        self.assertEqual([is_paper_against(("mean", MELDS, part), hurt) for part in ((5, 2), (8, 3), (3, 1), (-1, 1))], [True, False, False, True])
+        self.assertEqual([is_paper_against(("mean", MELDS, part), hurt) for part in ((5, 2), (8, 3), (3, 1), (-1, 1))],
+                         [True, False, False, True])
         show = prices(TWINS, even(TWINS, (2, 1)))
-        self.assertEqual([is_reason_for(("mean", TWINS, part), show) for part in ((2, 1), (3, 1), (3, 2))], [True, True, False])
+        self.assertEqual([is_reason_for(("mean", TWINS, part), show) for part in ((2, 1), (3, 1), (3, 2))],
+                         [True, True, False])
 
 
 class FirstFallen(unittest.TestCase):
@@ -277,7 +302,9 @@ class Errors(unittest.TestCase):
 
     def test_too_many(self):
         kind = (0, (), (), ())
-        for claim in (("enough", BEYOND, even(BEYOND, ONE)), ("mean", BEYOND, ONE), ("ratio", BEYOND, counting(BEYOND), ONE), ("ratio", AMPLE, AMPLE, ONE)):
+        for claim in (("enough", BEYOND, even(BEYOND, ONE)), ("mean", BEYOND, ONE), ("ratio", BEYOND, counting(BEYOND),
+                                                                                     ONE), ("ratio", AMPLE, AMPLE,
+                                                                                            ONE)):
             for call in (is_so, paper_against, lambda own: is_paper_against(own, None)):
                 self.assertRaises(TooMany, call, claim)
         for claim in (("enough", BEYOND, even(BEYOND, ONE)), ("mean", BEYOND, ONE), ("let", BEYOND, kind)):
@@ -295,7 +322,8 @@ class Errors(unittest.TestCase):
 
     def test_unfit_ahead_of_cannot(self):
         for claim in (("let", TWINS, None), ("endless", CHAIN, ((0, 0),)), ("ratio", TWINS, CHAIN, ONE)):
-            for call in (paper_against, reason_for, is_so, lambda own: is_paper_against(own, None), lambda own: is_reason_for(own, None)):
+            for call in (paper_against, reason_for, is_so, lambda own: is_paper_against(own, None),
+                         lambda own: is_reason_for(own, None)):
                 self.assertRaises(Unfit, call, claim)
 
 

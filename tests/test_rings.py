@@ -26,7 +26,8 @@ OTHERS = (True, False, None, "", 0, 1, -1, (), (0,), (0, 1), (1, 1), [0])
 ALONE = tuple(craft for craft in (*CRAFTS, *diced_crafts(130)) if all(len(row[0]) < 2 for row in craft[1]))
 # Two WAITS of one VERSION go on in one PART, or in two.
 SPLITS = ((2, 2), (((), (), 1, 0, (("new", 4, ()), ("new", 8, ()))), ((0,), (), 0, 1, (("kept", 0, 0), ("kept", 0, 1))),
-                   ((1,), ((0, 0),), 1, 1, (("none",), ("kept", 0, 1))), ((1,), ((0, 1), (0, 0)), 2, 1, (("none",), ("none",)))))
+                   ((1,), ((0, 0),), 1, 1, (("none",), ("kept", 0, 1))), ((1,), ((0, 1), (0, 0)), 2, 1,
+                                                                          (("none",), ("none",)))))
 # More and more KINDS in rows without two elders: too many of them.
 CROWD = ((2,), tuple([((0,), (), cost, 0, (("kept", 0, 0), ("new", 1, BOTH[:2]))) for cost in range(200)]
                      + [((), (), 1, 0, (("new", 1, ()), ("new", 1, ())))]))
@@ -57,14 +58,16 @@ class LineMean(unittest.TestCase):
 
     def test_by_hand(self):
         # RELAY: 9, 2, 3, 4. CARRY: made, handed on or not, looked at. SPLITS: made, handed on, looked at both.
-        for craft, said in ((RELAY, (9, 2)), (CARRY, (3, 2)), (HALF, (1, 2)), (STRAY, (5, 1)), (NEVER, NOUGHT), (PASSES, NOUGHT),
+        for craft, said in ((RELAY, (9, 2)), (CARRY, (3, 2)), (HALF, (1, 2)), (STRAY, (5, 1)), (NEVER, NOUGHT),
+                            (PASSES, NOUGHT),
                             (SPLITS, (5, 1)), (LATE, ONE), (SPROUT, (5, 2))):
             self.assertEqual(line_mean(craft), said)
         self.assertEqual([web_beats_line(craft) for craft in (RELAY, SPLITS, TWINS, SPROUT, NEVER)],
                          [False, False, True, False, False])
         # A look that makes two more to be looked at: one heir can only have one of them done.
         fork = ((2,), (((), (), 0, 0, (("new", 2, ()), ("new", 2, ()))),
-                       ((0,), ((0, 0),), 0, 0, (("new", 2, ()), ("new", 2, ()))), ((0,), ((0, 1),), 0, 0, (("none",), ("none",)))))
+                       ((0,), ((0, 0),), 0, 0, (("new", 2, ()), ("new", 2, ()))),
+                       ((0,), ((0, 1),), 0, 0, (("none",), ("none",)))))
         self.assertEqual((line_mean(fork), mean(fork), web_beats_line(fork)), ((2, 1), (2, 1), False))
 
     def test_the_most_that_lines_cost(self):
@@ -78,7 +81,8 @@ class LineMean(unittest.TestCase):
                     self.assertLessEqual(cost(craft, web), own * len(web))
             # That just so much can be paid: all LINES of so many VERSIONS are there.
             longest = max(map(len, webs))
-            self.assertEqual(max(cost(craft, web) for web in webs if is_line(web) and len(web) == longest), most[longest])
+            self.assertEqual(max(cost(craft, web) for web in webs if is_line(web) and len(web) == longest),
+                             most[longest])
             self.assertLessEqual(own, value(mean(craft)))
             self.assertIs(web_beats_line(craft), own < value(mean(craft)))
 
@@ -142,7 +146,8 @@ class LineBundle(unittest.TestCase):
         self.assertIs(is_line_bundle(CHAIN, (((1, (((0,), ()),), (), ()), 1), ((0, (), (0,), ()), 1))), False)
 
     def test_two_parts(self):
-        make, left, right = (0, (), (0, 1), ((0,), (1,))), (1, (((0, 1), (0,)),), (), ()), (2, (((0, 1), (1,)),), (), ())
+        make, left, right = (0, (), (0, 1), ((0,), (1,))), (1, (((0, 1), (0,)),), (), ()), (2, (((0, 1), (1,)),), (),
+                                                                                            ())
         self.assertIs(is_bundle(TWINS, ((make, 1), (left, 1), (right, 1))), True)
         self.assertIs(is_line_bundle(TWINS, ((make, 1), (left, 1), (right, 1))), False)
         self.assertIs(is_line_bundle(TWINS, ((make, 1), (left, 2))), False)
@@ -162,12 +167,15 @@ class Trees(unittest.TestCase):
     def test_by_hand(self):
         none = (NOUGHT,) * 3
         for craft, payments, sort, said in (
-                (CHAIN, none, WAIT, None), (CHAIN, ((9, 1), ONE, (7, 1)), WAIT, (-7, 1)), (CHAIN, (NOUGHT, (2, 1), (1, 2)), WAIT, (-1, 2)),
-                (TWINS, ((9, 1), (1, 3), (2, 3)), (0, (0, 1), (1,)), (-2, 3)), (SPROUT, (ONE, (4, 1), (6, 1)), (1, (0,), (0,)), (-6, 1)),
+                (CHAIN, none, WAIT, None), (CHAIN, ((9, 1), ONE, (7, 1)), WAIT, (-7, 1)),
+                (CHAIN, (NOUGHT, (2, 1), (1, 2)), WAIT, (-1, 2)),
+                (TWINS, ((9, 1), (1, 3), (2, 3)), (0, (0, 1), (1,)), (-2, 3)), (SPROUT, (ONE, (4, 1), (6, 1)),
+                                                                                (1, (0,), (0,)), (-6, 1)),
                 (CARRY, none, WAIT, ONE), (CARRY, (NOUGHT, (-1, 5), NOUGHT), WAIT, None),
                 (CARRY, (NOUGHT, (1, 5), (1, 3)), WAIT, (2, 3)),
                 # A PART of both is looked at at once, or one first, the other handed on.
-                (SPLITS, (*none[:2], ONE, NOUGHT), (1, (0, 1), (0, 1)), (2, 1)), (SPLITS, (*none, NOUGHT), (1, (0, 1), (0, 1)), None),
+                (SPLITS, (*none[:2], ONE, NOUGHT), (1, (0, 1), (0, 1)), (2, 1)), (SPLITS, (*none, NOUGHT),
+                                                                                  (1, (0, 1), (0, 1)), None),
                 (SPLITS, (*none[:2], (2, 1), (5, 1)), (1, (0, 1), (0, 1)), (-3, 1))):
             self.assertEqual(brings(craft, payments, sort), said, msg=(craft, payments, sort))
 
@@ -211,7 +219,8 @@ class Trees(unittest.TestCase):
 
 def some_payments(craft):
     own, rows = mean(craft), range(len(craft[1]))
-    told = [even(craft, own), even(craft, taken_off(own, (1, 3))), even(craft, taken_off(own, (2, 1))), even(craft, added(own, ONE))]
+    told = [even(craft, own), even(craft, taken_off(own, (1, 3))), even(craft, taken_off(own, (2, 1))),
+            even(craft, added(own, ONE))]
     told.append(tuple(cut(9 * row % 4, 1 + row % 3) for row in rows))
     return told
 
@@ -221,8 +230,10 @@ class OneAgain(unittest.TestCase):
     def test_by_hand(self):
         for craft, payments, said in (
                 (SPROUT, ((9, 1), NOUGHT, (9, 2)), 1), (SPROUT, ((9, 1), NOUGHT, (5, 1)), None),
-                (TWINS, ((9, 1), (-1, 1), ONE), 1), (TWINS, ((9, 1), NOUGHT, (-1, 2)), 2), (TWINS, ((9, 1), NOUGHT, NOUGHT), None),
-                (CHAIN, (NOUGHT, (1, 2), (9, 1)), 1), (CHAIN, (NOUGHT, ONE, (-1, 1)), 1), (CHAIN, (NOUGHT, (2, 1), (-1, 1)), 2),
+                (TWINS, ((9, 1), (-1, 1), ONE), 1), (TWINS, ((9, 1), NOUGHT, (-1, 2)), 2),
+                (TWINS, ((9, 1), NOUGHT, NOUGHT), None),
+                (CHAIN, (NOUGHT, (1, 2), (9, 1)), 1), (CHAIN, (NOUGHT, ONE, (-1, 1)), 1),
+                (CHAIN, (NOUGHT, (2, 1), (-1, 1)), 2),
                 # Those without an elder do not count.
                 (STRAY, ((1, 1), NOUGHT), None), (STRAY, ((1, 1), (-1, 1)), None), (NEVER, ((-1, 1),), None),
                 (HALF, (NOUGHT, NOUGHT), None)):
@@ -268,7 +279,8 @@ class Wrong(unittest.TestCase):
         ample = ((2, 2, 2), (((), (), 1, 0, (("new", 10 ** 6, ()), ("new", 3, ()))),
                              ((0,), ((0, 0),), 2, 1, (("new", 5, BOTH[:2]), ("kept", 0, 1))),
                              ((1,), (), 10 ** 6, 2, (("kept", 0, 1), ("new", 7, BOTH[:2]))),
-                             ((2,), (), 4, 0, (("kept", 0, 0), ("kept", 0, 1))), ((2,), BOTH[:2], 5, 1, (("none",), ("new", 9, ()))),
+                             ((2,), (), 4, 0, (("kept", 0, 0), ("kept", 0, 1))),
+                             ((2,), BOTH[:2], 5, 1, (("none",), ("new", 9, ()))),
                              ((0,), ((0, 1),), 6, 0, (("kept", 0, 0), ("new", 2, BOTH[:1])))))
         bundle = line_bundle(ample)
         self.assertIs(is_line_bundle(ample, bundle), True)

@@ -10,7 +10,7 @@ from paidbyheirs.errors import CanNot, TooMany, Unfit
 from paidbyheirs.manners import cost_anew
 from paidbyheirs.payments import even, is_enough, mean
 from paidbyheirs.shared import is_enough_with, is_must, lot_enough, must_share
-from tests.known import AMPLE, BEYOND, BOTH, CHAIN, CRAFTS, DOUBLE, GROWS, HALF, HIDES, JUNK, KEPT, LONE, MELDS, NEVER, PAIRS
+from tests.known import AMPLE, BEYOND, BOTH, CHAIN, CRAFTS, DOUBLE, GROWS, HALF, HIDES, JUNK, KEPT, LABOUR, LONE, MELDS, NEVER, PAIRS
 from tests.known import SIXTY, SPROUT, STAIRS, STRAY, TURNS, TWINS, begins, deep, diced_crafts, variants
 from tests.plain import powers
 from tests.test_guarantees import some_webs
@@ -53,12 +53,14 @@ class EnoughWith(unittest.TestCase):
     def test_by_hand(self):
         for craft, payments, some, said in (
                 (TWINS, even(TWINS, (2, 1)), (), True), (TWINS, even(TWINS, (2, 1)), ((0, 0),), False),
-                (TWINS, (NOUGHT, (3, 1), (3, 1)), new_slots(TWINS), True), (TWINS, ((3, 1), NOUGHT, (3, 1)), ((0, 1),), True),
+                (TWINS, (NOUGHT, (3, 1), (3, 1)), new_slots(TWINS), True), (TWINS, ((3, 1), NOUGHT, (3, 1)), ((0, 1),),
+                                                                            True),
                 (TWINS, ((3, 1), NOUGHT, (3, 1)), ((0, 0),), False), (CHAIN, even(CHAIN, MUCH), ((1, 0),), False),
                 (LONE, even(LONE, NOUGHT), ((1, 0),), True), (LONE, even(LONE, (-1, 1)), (), False),
                 (MELDS, (NOUGHT, (8, 1)), ((0, 0),), True), (MELDS, ((8, 1), (7, 1)), ((0, 0),), False),
                 (NEVER, ((-9, 1),), (), True), (SPROUT, (NOUGHT, (5, 1), NOUGHT), ((1, 0),), False),
-                (SPROUT, (NOUGHT, NOUGHT, (5, 1)), ((1, 0),), True), (GROWS, even(GROWS, MUCH), new_slots(GROWS), False),
+                (SPROUT, (NOUGHT, NOUGHT, (5, 1)), ((1, 0),), True), (GROWS, even(GROWS, MUCH), new_slots(GROWS),
+                                                                      False),
                 (HIDES, even(HIDES, (2, 1)), new_slots(HIDES), True), (STRAY, ((5, 1), (-3, 1)), (), True)):
             self.assertIs(is_enough_with(craft, payments, some), said, msg=(craft, payments, some))
 
@@ -104,7 +106,8 @@ class EnoughWith(unittest.TestCase):
                                      told(is_enough_with, craft, payments, without(slots, lot)))
 
     def test_lots_of_nothing_and_of_all(self):
-        self.assertEqual([lot_enough(TWINS, even(TWINS, own), lot) for own in ((2, 1), (3, 1)) for lot in ((), new_slots(TWINS))],
+        self.assertEqual([lot_enough(TWINS, even(TWINS, own), lot) for own in ((2, 1), (3, 1)) for lot in ((),
+                                                                                                           new_slots(TWINS))],
                          [False, True, True, True])
         self.assertIs(lot_enough(NEVER, ((-1, 1),), ()), True)
 
@@ -114,10 +117,14 @@ class MustShare(unittest.TestCase):
     def test_by_hand(self):
         for craft, payments, said in (
                 (TWINS, (NOUGHT, (3, 1), (3, 1)), [()]), (TWINS, ((3, 1), NOUGHT, (3, 1)), [((0, 0),)]),
-                (DOUBLE, even(DOUBLE, MUCH), [((0, 0), (0, 1)), ((1, 0),), ((1, 1),)]), (GROWS, even(GROWS, MUCH), [((0, 0),), ((1, 1),)]),
-                (TURNS, even(TURNS, MUCH), [((0, 0), (4, 0)), ((1, 0), (4, 0)), ((3, 0), (4, 0))]), (HIDES, even(HIDES, (2, 1)), [()]),
-                (HIDES, even(HIDES, ONE), [((0, 0),)]), (HALF, even(HALF, (1, 2)), [((0, 0),)]), (HALF, even(HALF, ONE), [()]),
-                (SPROUT, (NOUGHT, (5, 1), NOUGHT), [((1, 0),)]), (STRAY, even(STRAY, (5, 1)), [()]), (NEVER, ((-2, 1),), [()])):
+                (DOUBLE, even(DOUBLE, MUCH), [((0, 0), (0, 1)), ((1, 0),), ((1, 1),)]), (GROWS, even(GROWS, MUCH),
+                                                                                         [((0, 0),), ((1, 1),)]),
+                (TURNS, even(TURNS, MUCH), [((0, 0), (4, 0)), ((1, 0), (4, 0)), ((3, 0), (4, 0))]),
+                (HIDES, even(HIDES, (2, 1)), [()]),
+                (HIDES, even(HIDES, ONE), [((0, 0),)]), (HALF, even(HALF, (1, 2)), [((0, 0),)]),
+                (HALF, even(HALF, ONE), [()]),
+                (SPROUT, (NOUGHT, (5, 1), NOUGHT), [((1, 0),)]), (STRAY, even(STRAY, (5, 1)), [()]),
+                (NEVER, ((-2, 1),), [()])):
             self.assertEqual(must_share(craft, payments), said, msg=(craft, payments))
 
     def test_all_lots_one_by_one(self):
@@ -197,7 +204,8 @@ class IsMust(unittest.TestCase):
 class Wrong(unittest.TestCase):
 
     def test_the_order_of_errors(self):
-        calls = (lambda craft, own: is_enough_with(craft, own, ()), lambda craft, own: lot_enough(craft, own, ()), must_share,
+        calls = (lambda craft, own: is_enough_with(craft, own, ()), lambda craft, own: lot_enough(craft, own, ()),
+                 must_share,
                  lambda craft, own: is_must(craft, own, None))
         for call in calls:
             for craft in (*JUNK, (BEYOND[0], (*BEYOND[1], 5))):
@@ -210,7 +218,8 @@ class Wrong(unittest.TestCase):
 
     def test_more_than_six_new_slots(self):
         self.assertEqual(len(new_slots(AMPLE)), 7)
-        for call in (must_share, lambda craft, own: is_must(craft, own, None), lambda craft, own: is_must(craft, own, ())):
+        for call in (must_share, lambda craft, own: is_must(craft, own, None), lambda craft,
+                     own: is_must(craft, own, ())):
             self.assertRaises(TooMany, call, AMPLE, even(AMPLE, NOUGHT))
             self.assertRaises(Unfit, call, AMPLE, even(AMPLE, NOUGHT)[1:])
         # The others do not mind.
@@ -223,8 +232,17 @@ class Wrong(unittest.TestCase):
         for lot in must_share(six, own):
             self.assertIs(is_must(six, own, lot), True)
 
+    def test_what_takes_longest(self):
+        own = even(LABOUR, (15, 1))
+        least = must_share(LABOUR, own)
+        self.assertEqual(len(least), 4)
+        for lot in least:
+            self.assertIs(is_must(LABOUR, own, lot), True)
+            self.assertIs(is_must(LABOUR, own, lot[1:]), False)
+
     def test_payments_that_are_not_enough(self):
-        for craft, part in ((TWINS, (3, 2)), (CHAIN, (1, 2)), (MELDS, (5, 2)), (LONE, (-1, 1)), (STRAY, (4, 1)), (PAIRS, ONE)):
+        for craft, part in ((TWINS, (3, 2)), (CHAIN, (1, 2)), (MELDS, (5, 2)), (LONE, (-1, 1)), (STRAY, (4, 1)),
+                            (PAIRS, ONE)):
             self.assertRaises(CanNot, must_share, craft, even(craft, part))
             for lot in powers(new_slots(craft)):
                 self.assertIs(is_must(craft, even(craft, part), lot), False)

@@ -48,10 +48,12 @@ class KindNames(unittest.TestCase):
 
     def test_by_hand(self):
         for kind, name in (
-                ((0, (), (), ()), "0/-/-/-"), ((3, (((), ()),), (), ()), "3/-:-/-/-"), ((0, (), (0, 1), ((0,), (1,))), "0/-/0,1/0;1"),
+                ((0, (), (), ()), "0/-/-/-"), ((3, (((), ()),), (), ()), "3/-:-/-/-"), ((0, (), (0, 1), ((0,), (1,))),
+                                                                                        "0/-/0,1/0;1"),
                 ((0, (), (0, 1), ((0, 1),)), "0/-/0,1/0,1"), (MELD, "1/0:0;0:-/0/-"),
                 ((12, (((0, 1), (1,)), ((), ())), (1,), ((1,),)), "12/0,1:1;-:-/1/1"),
-                ((7, (((2,), (5, 6)), ((1,), (0,)), ((), ())), (10, 11), ((3,), (4, 9))), "7/2:5,6;1:0;-:-/10,11/3;4,9")):
+                ((7, (((2,), (5, 6)), ((1,), (0,)), ((), ())), (10, 11), ((3,), (4, 9))),
+                 "7/2:5,6;1:0;-:-/10,11/3;4,9")):
             self.assertEqual((kind_name(kind), kind_read(name)), (name, kind))
 
     def test_of_all_kinds(self):
@@ -60,10 +62,14 @@ class KindNames(unittest.TestCase):
                 self.assertEqual(kind_read(kind_name(kind)), kind)
 
     def test_what_is_no_name(self):
-        for word in ("", "-", "0", "0/-/-", "0/-/-/-/-", "/-/-/-", "0//-/-", "0/-//-", "0/-/-/", "-/-/-/-", "-1/-/-/-", "00/-/-/-", "01/-/-/-",
-                     "0/-/00/-", "0/-/0,/-", "0/-/,0/-", "0/-/1,0/-", "0/-/0,0/-", "0/-/0,1/1;0", "0/-/0,1/0;0", "0/-/0,1/1,0", "0/-/0/-;0",
-                     "0/-/0/0;-", "0/-/0/-;-", "0/0/-/-", "0/0:/-/-", "0/:0/-/-", "0/0:0:0/-/-", "0/-:-;/-/-", "0/;-:-/-/-", "0/1,0:-/-/-",
-                     "0/-:0,0/-/-", "0/-;-/-/-", " 0/-/-/-", "0/-/-/- ", "0/-/-/-\n", "\n0/-/-/-", "0/ -/-/-", "+0/-/-/-", "0/-/1_0/-",
+        for word in ("", "-", "0", "0/-/-", "0/-/-/-/-", "/-/-/-", "0//-/-", "0/-//-", "0/-/-/", "-/-/-/-", "-1/-/-/-",
+                     "00/-/-/-", "01/-/-/-",
+                     "0/-/00/-", "0/-/0,/-", "0/-/,0/-", "0/-/1,0/-", "0/-/0,0/-", "0/-/0,1/1;0", "0/-/0,1/0;0",
+                     "0/-/0,1/1,0", "0/-/0/-;0",
+                     "0/-/0/0;-", "0/-/0/-;-", "0/0/-/-", "0/0:/-/-", "0/:0/-/-", "0/0:0:0/-/-", "0/-:-;/-/-",
+                     "0/;-:-/-/-", "0/1,0:-/-/-",
+                     "0/-:0,0/-/-", "0/-;-/-/-", " 0/-/-/-", "0/-/-/- ", "0/-/-/-\n", "\n0/-/-/-", "0/ -/-/-",
+                     "+0/-/-/-", "0/-/1_0/-",
                      "0/-/0.0/-", "x/-/-/-", "0/-/-/x", "~", "0/--/-/-", "0/-/--/-"):
             self.assertIsNone(kind_read(word), msg=word)
 
@@ -86,13 +92,16 @@ class KindNames(unittest.TestCase):
 class FractionNames(unittest.TestCase):
 
     def test_by_hand(self):
-        for fraction, name in (((0, 1), "0/1"), ((-4, 3), "-4/3"), ((8, 3), "8/3"), ((10, 1), "10/1"), ((-1, 100), "-1/100"),
+        for fraction, name in (((0, 1), "0/1"), ((-4, 3), "-4/3"), ((8, 3), "8/3"), ((10, 1), "10/1"),
+                               ((-1, 100), "-1/100"),
                                ((int(LONG), 10), LONG + "/10"), ((-1, int(LONG)), "-1/" + LONG)):
             self.assertEqual((fraction_name(fraction), fraction_read(name)), (name, fraction))
 
     def test_what_is_no_name(self):
-        for word in ("", "-", "/", "1", "-1", "1/", "/1", "-/1", "2/4", "0/2", "1/0", "0/0", "-0/1", "-1/-1", "1/-1", "--1/2", "+1/2", "01/2", "1/02",
-                     "1/2/3", " 1/2", "1/2 ", "1 /2", "1/2\n", "1/2/", "1_0/3", "a/b", "1.5/2", "-1/0", "00/1", "- 1/2"):
+        for word in ("", "-", "/", "1", "-1", "1/", "/1", "-/1", "2/4", "0/2", "1/0", "0/0", "-0/1", "-1/-1", "1/-1",
+                     "--1/2", "+1/2", "01/2", "1/02",
+                     "1/2/3", " 1/2", "1/2 ", "1 /2", "1/2\n", "1/2/", "1_0/3", "a/b", "1.5/2", "-1/0", "00/1",
+                     "- 1/2"):
             self.assertIsNone(fraction_read(word), msg=word)
 
     def test_guarantee_on_bent_names(self):
@@ -122,23 +131,36 @@ class Crafts(unittest.TestCase):
     def test_lines_that_can_not_stand_there(self):
         head = "sizes 1\nrow - - 0 0\n"
         for text, number in (
-                ("", 0), ("\n", 0), ("\n\n", 0), ("sizes", 0), ("sizes\n", 0), ("sizes -", 0), ("sizes 1,2", 0), ("sizes 01", 0), ("sizes 1 ", 0),
-                (" sizes 1", 0), ("sizes  1", 0), ("Sizes 1", 0), ("size 1", 0), ("row - - 0 0", 0), ("none", 0), ("sizes -1\nrow - - 0 0", 0),
-                ("sizes 1", 1), ("sizes 1\n", 1), ("sizes 1\n\n", 1), ("sizes 1\nnone", 1), ("sizes 1\nnew 1 -", 1), ("sizes 1\nsizes 1", 1),
-                ("sizes 1\nrow", 1), ("sizes 1\nrow - -", 1), ("sizes 1\nrow - - 0", 1), ("sizes 1\nrow - - 0 0 0", 1), ("sizes 1\nrow - - 0 -", 1),
-                ("sizes 1\nrow - - -1 0", 1), ("sizes 1\nrow - - 0 00", 1), ("sizes 1\nrow 0, - 0 0", 1), ("sizes 1\nrow 0 0 0 0", 1),
-                ("sizes 1\nrow 0 0.0,0.0 0 0", 1), ("sizes 1\nrow 0 0.0,1.0,0.0 0 0", 1), ("sizes 1\nrow 0 0.0.0 0 0", 1), ("sizes 1\nrow  - 0 0", 1),
-                ("sizes 1\nrow - - 0 0 ", 1), (head + "\n", 2), (head + "\nnone", 2), (head + "none ", 2), (head + " none", 2), (head + "None", 2),
-                (head + "none none", 2), (head + "old 4 -", 2), (head + "kept 0", 2), (head + "kept 0 0 0", 2), (head + "kept 0 -", 2),
-                (head + "kept 0 0.0", 2), (head + "new 1", 2), (head + "new - 1", 2), (head + "new 1 0", 2), (head + "new 1 0.1,0.0", 2),
-                (head + "new 1 0.0,0.0", 2), (head + "new -1 -", 2), (head + "new 1  -", 2), (head + "none\n\n", 3), (head + "none\nsizes 1", 3),
+                ("", 0), ("\n", 0), ("\n\n", 0), ("sizes", 0), ("sizes\n", 0), ("sizes -", 0), ("sizes 1,2", 0),
+                ("sizes 01", 0), ("sizes 1 ", 0),
+                (" sizes 1", 0), ("sizes  1", 0), ("Sizes 1", 0), ("size 1", 0), ("row - - 0 0", 0), ("none", 0),
+                ("sizes -1\nrow - - 0 0", 0),
+                ("sizes 1", 1), ("sizes 1\n", 1), ("sizes 1\n\n", 1), ("sizes 1\nnone", 1), ("sizes 1\nnew 1 -", 1),
+                ("sizes 1\nsizes 1", 1),
+                ("sizes 1\nrow", 1), ("sizes 1\nrow - -", 1), ("sizes 1\nrow - - 0", 1), ("sizes 1\nrow - - 0 0 0", 1),
+                ("sizes 1\nrow - - 0 -", 1),
+                ("sizes 1\nrow - - -1 0", 1), ("sizes 1\nrow - - 0 00", 1), ("sizes 1\nrow 0, - 0 0", 1),
+                ("sizes 1\nrow 0 0 0 0", 1),
+                ("sizes 1\nrow 0 0.0,0.0 0 0", 1), ("sizes 1\nrow 0 0.0,1.0,0.0 0 0", 1), ("sizes 1\nrow 0 0.0.0 0 0",
+                                                                                           1), ("sizes 1\nrow  - 0 0",
+                                                                                                1),
+                ("sizes 1\nrow - - 0 0 ", 1), (head + "\n", 2), (head + "\nnone", 2), (head + "none ", 2),
+                (head + " none", 2), (head + "None", 2),
+                (head + "none none", 2), (head + "old 4 -", 2), (head + "kept 0", 2), (head + "kept 0 0 0", 2),
+                (head + "kept 0 -", 2),
+                (head + "kept 0 0.0", 2), (head + "new 1", 2), (head + "new - 1", 2), (head + "new 1 0", 2),
+                (head + "new 1 0.1,0.0", 2),
+                (head + "new 1 0.0,0.0", 2), (head + "new -1 -", 2), (head + "new 1  -", 2), (head + "none\n\n", 3),
+                (head + "none\nsizes 1", 3),
                 (head + "none\nrow - - 0 0\nnew 1 1.0,0.1\n", 4), (head + "none\nrow - - 0 0\nnone\nnext", 5)):
             self.assertEqual(read(read_craft, text), ("BadLine", number), msg=text)
 
     def test_what_is_told_and_is_no_craft(self):
-        for text in ("sizes 1\nrow - - 0 0", "sizes 1\nrow - - 0 0\nnone\nnone", "sizes 1\nrow - - 0 1\nnone", "sizes 1\nrow 1 - 0 0\nnone",
+        for text in ("sizes 1\nrow - - 0 0", "sizes 1\nrow - - 0 0\nnone\nnone", "sizes 1\nrow - - 0 1\nnone",
+                     "sizes 1\nrow 1 - 0 0\nnone",
                      "sizes 1\nrow 0 0.1 0 0\nnone", "sizes 1\nrow 0 1.0 0 0\nnone", "sizes 1\nrow 0,0,0 - 0 0\nnone",
-                     "sizes 1\nrow - - 0 0\nkept 0 0", "sizes 1\nrow 0 - 0 0\nnew 1 0.0,0.1", "sizes 2\nrow - - 0 0\nnone",
+                     "sizes 1\nrow - - 0 0\nkept 0 0", "sizes 1\nrow 0 - 0 0\nnew 1 0.0,0.1",
+                     "sizes 2\nrow - - 0 0\nnone",
                      "sizes 0\nrow - - 0 0\nrow - - 0 9"):
             self.assertEqual(read(read_craft, text), ("Unfit",), msg=text)
         # Wants may be in any order but this, looks may be so.
@@ -171,7 +193,8 @@ class Crafts(unittest.TestCase):
 class Webs(unittest.TestCase):
 
     def test_by_hand(self):
-        for web, text in (((), ""), (((0, ()),), "version 0 -\n"), (((0, ()), (1, (0, 0))), "version 0 -\nversion 1 0,0\n"),
+        for web, text in (((), ""), (((0, ()),), "version 0 -\n"),
+                          (((0, ()), (1, (0, 0))), "version 0 -\nversion 1 0,0\n"),
                           (((9, (7, 8, 9)),), "version 9 7,8,9\n")):
             self.assertEqual((web_text(web), read_web(text)), (text, web))
 
@@ -182,9 +205,12 @@ class Webs(unittest.TestCase):
                 self.assertEqual(read_web(web_text(web)[:-1]), web)
 
     def test_lines_that_can_not_stand_there(self):
-        for text, number in (("\n", 0), ("version", 0), ("version 0", 0), ("version 0 - -", 0), ("version - -", 0), ("version 0 0;0", 0),
-                             ("version 0 -\n\n", 1), ("version 0 -\n\nversion 0 -", 1), ("version 0 - ", 0), ("version  0 -", 0), ("version 00 -", 0),
-                             ("version 0 -\nversion 1 0,", 1), ("version 0 -\nversion 1 -1", 1), ("step 0 -", 0), (" ", 0), ("version 0 -\n ", 1)):
+        for text, number in (("\n", 0), ("version", 0), ("version 0", 0), ("version 0 - -", 0), ("version - -", 0),
+                             ("version 0 0;0", 0),
+                             ("version 0 -\n\n", 1), ("version 0 -\n\nversion 0 -", 1), ("version 0 - ", 0),
+                             ("version  0 -", 0), ("version 00 -", 0),
+                             ("version 0 -\nversion 1 0,", 1), ("version 0 -\nversion 1 -1", 1), ("step 0 -", 0),
+                             (" ", 0), ("version 0 -\n ", 1)):
             self.assertEqual(read(read_web, text), ("BadLine", number), msg=text)
 
 
@@ -203,9 +229,12 @@ class Plans(unittest.TestCase):
                 self.assertEqual(read_plan(plan_text(plan)), plan)
 
     def test_lines_that_can_not_stand_there(self):
-        for text, number in (("\n", 0), ("step", 0), ("step 0/-/-/-", 0), ("step 0/-/-/- - -", 0), ("step 0/-/- -", 0), ("step 0/-/-/- 0", 0),
-                             ("step 0/-/-/- 0.", 0), ("step 0/-/-/- .0", 0), ("step 0/-/-/- -.-", 0), ("step 0/-/-/- -.0", 0), ("step 0/-/-/- 0.0.0", 0),
-                             ("step 0/-/-/- 0.00", 0), ("step 0/-/-/- 0.-,", 0), ("step 0/-/-/- -\nstep 0/-/-/- 0.--", 1), ("step 0/-/-/- -\n\n", 1),
+        for text, number in (("\n", 0), ("step", 0), ("step 0/-/-/-", 0), ("step 0/-/-/- - -", 0), ("step 0/-/- -", 0),
+                             ("step 0/-/-/- 0", 0),
+                             ("step 0/-/-/- 0.", 0), ("step 0/-/-/- .0", 0), ("step 0/-/-/- -.-", 0),
+                             ("step 0/-/-/- -.0", 0), ("step 0/-/-/- 0.0.0", 0),
+                             ("step 0/-/-/- 0.00", 0), ("step 0/-/-/- 0.-,", 0), ("step 0/-/-/- -\nstep 0/-/-/- 0.--",
+                                                                                  1), ("step 0/-/-/- -\n\n", 1),
                              ("step 0/-/1,0/- -", 0), ("kind 0/-/-/- -", 0)):
             self.assertEqual(read(read_plan, text), ("BadLine", number), msg=text)
         # Of any numbers: a PLAN or not.
@@ -231,9 +260,13 @@ class Bundles(unittest.TestCase):
 
     def test_lines_that_can_not_stand_there(self):
         one, two = "kind 0/-/0/0 2", "kind 0/-/0,1/0;1 1"
-        for text, number in (("", 0), ("\n", 0), ("kind", 0), ("kind 0/-/0/0", 0), ("kind 0/-/0/0 0", 0), ("kind 0/-/0/0 -", 0), ("kind 0/-/0/0 -1", 0),
-                             ("kind 0/-/0/0 02", 0), ("kind 0/-/0/0 2 2", 0), ("kind 0/-/0 2", 0), (one + "\n" + one, 1), (two + "\n" + one, 1),
-                             (one + "\n" + two + "\n" + one, 2), (one + "\n\n", 1), (one + "\n" + two + "\n\n" + two, 2), (one + " ", 0), ("\n" + one, 0),
+        for text, number in (("", 0), ("\n", 0), ("kind", 0), ("kind 0/-/0/0", 0), ("kind 0/-/0/0 0", 0),
+                             ("kind 0/-/0/0 -", 0), ("kind 0/-/0/0 -1", 0),
+                             ("kind 0/-/0/0 02", 0), ("kind 0/-/0/0 2 2", 0), ("kind 0/-/0 2", 0),
+                             (one + "\n" + one, 1), (two + "\n" + one, 1),
+                             (one + "\n" + two + "\n" + one, 2), (one + "\n\n", 1), (one + "\n" + two + "\n\n" + two,
+                                                                                     2), (one + " ", 0), ("\n" + one,
+                                                                                                          0),
                              (one + "\nkind 0/-/0/0 3", 1), ("step 0/-/0/0 2", 0)):
             self.assertEqual(read(read_bundle, text), ("BadLine", number), msg=text)
         self.assertEqual(len(read_bundle(one + "\n" + two)), 2)

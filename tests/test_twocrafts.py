@@ -12,8 +12,8 @@ from paidbyheirs.ledgers import cost
 from paidbyheirs.payments import mean
 from paidbyheirs.twocrafts import all_twins, apart_bundle, are_mates, is_apart_bundle, is_never_dearer, is_ratio_bundle
 from paidbyheirs.twocrafts import let_twins, ratio, ratio_bundle, row_exchanged, twins_of
-from tests.known import AMPLE, BEYOND, CARRY, CHAIN, CRAFTS, DOUBLE, HALF, JUNK, KEPT, LONE, MELDS, NEVER, PAIRS, RELAY, SHARES
-from tests.known import SPROUT, STRAY, TWINS, counting, deep, diced_crafts, diced_mates, diced_webs, mate_of, paying_at_once, variants
+from tests.known import AMPLE, BEYOND, BUDDY, CARRY, CHAIN, CRAFTS, DOUBLE, HALF, JUNK, KEPT, LONE, MATE, MELDS, NEVER, PAIRS, RELAY, SHARES
+from tests.known import SPROUT, STRAY, TWINS, counting, deep, diced_crafts, diced_mates, diced_webs, paying_at_once, variants
 from tests.plain import plain_worth
 from tests.plain_twins import plain_all_twins, plain_is_twin_bundle, plain_let_twins, plain_pairings, plain_twin_costs
 from tests.plain_twins import plain_twins_of
@@ -22,7 +22,8 @@ from tests.test_guarantees import some_webs
 NOUGHT, ONE = (0, 1), (1, 1)
 UNEVEN = ((2, 0), ((((), (), 0, 0, (("new", 2, ()), ("new", 4, ()))),) + TWINS[1][1:]))
 AHEAD = row_exchanged(CHAIN, 1, ((0,), (), 1, 0, (("new", 0, ((0, 0),)),)))
-BY_HAND = [(TWINS, UNEVEN), (UNEVEN, TWINS), (CHAIN, AHEAD), (AHEAD, CHAIN), (MELDS, counting(MELDS)), (counting(TWINS), TWINS),
+BY_HAND = [(TWINS, UNEVEN), (UNEVEN, TWINS), (CHAIN, AHEAD), (AHEAD, CHAIN), (MELDS, counting(MELDS)),
+           (counting(TWINS), TWINS),
            (KEPT, DOUBLE), (DOUBLE, KEPT), (CARRY, counting(CARRY)), (HALF, counting(HALF)), (NEVER, NEVER)]
 SAME = [(craft, craft) for craft in (CHAIN, TWINS, MELDS, LONE, STRAY, SPROUT, RELAY, NEVER, HALF)]
 ALL = (*BY_HAND, *SAME, *diced_mates(90))
@@ -50,9 +51,12 @@ class Mates(unittest.TestCase):
 
     def test_are_mates(self):
         for craft, other, said in (
-                (TWINS, UNEVEN, True), (CHAIN, LONE, False), (KEPT, DOUBLE, True), (KEPT, CHAIN, True), (TWINS, CHAIN, False),
-                (TWINS, (TWINS[0], TWINS[1][:2]), False), (TWINS, ((2, 0, 0), TWINS[1]), False), (PAIRS, counting(PAIRS), True),
-                (STRAY, ((0, 0), (STRAY[1][0], ((0,), (), 0, 1, ()))), False), (STRAY, ((0, 0), (STRAY[1][0], ((1,), (), 0, 0, ()))), False),
+                (TWINS, UNEVEN, True), (CHAIN, LONE, False), (KEPT, DOUBLE, True), (KEPT, CHAIN, True),
+                (TWINS, CHAIN, False),
+                (TWINS, (TWINS[0], TWINS[1][:2]), False), (TWINS, ((2, 0, 0), TWINS[1]), False),
+                (PAIRS, counting(PAIRS), True),
+                (STRAY, ((0, 0), (STRAY[1][0], ((0,), (), 0, 1, ()))), False),
+                (STRAY, ((0, 0), (STRAY[1][0], ((1,), (), 0, 0, ()))), False),
                 (SHARES, ((1, 2), (*SHARES[1][:3], ((0, 1), (), 0, 1, (("none",), ("none",))))), False)):
             self.assertEqual((are_mates(craft, other), are_mates(other, craft)), (said, said))
         for craft in CRAFTS:
@@ -84,7 +88,8 @@ class Twins(unittest.TestCase):
         none = counting(CHAIN)
         web = ((0, ()), (1, (0,)), (2, (1,)))
         put, look = (1, (((0,), ()),), (0,), ((0,),)), (2, (((0,), (0,)),), (0,), ())
-        self.assertEqual(twins_of(CHAIN, none, web)[1:], ((put, (1, (((), ()),), (), ()), (((0,), ()),)), (look, (2, (((), ()),), (), ()), ())))
+        self.assertEqual(twins_of(CHAIN, none, web)[1:], ((put, (1, (((), ()),), (), ()), (((0,), ()),)),
+                                                          (look, (2, (((), ()),), (), ()), ())))
         self.assertEqual(twins_of(none, CHAIN, web)[1], ((1, (((), ()),), (), ()), put, (((), (0,)),)))
         for twin in twins_of(CHAIN, none, web):
             self.assertIn(twin, let_twins(CHAIN, none))
@@ -111,7 +116,8 @@ class Twins(unittest.TestCase):
     def test_too_many(self):
         self.assertGreater(len(all_kinds(AMPLE)), 200)
         calls = (all_twins, let_twins, ratio, ratio_bundle, apart_bundle, is_never_dearer,
-                 lambda craft, other: is_ratio_bundle(craft, other, None), lambda craft, other: is_apart_bundle(craft, other, None))
+                 lambda craft, other: is_ratio_bundle(craft, other, None), lambda craft, other: is_apart_bundle(craft,
+                                                                                                                other, None))
         for call in calls:
             self.assertRaises(TooMany, call, AMPLE, AMPLE)
             self.assertRaises(TooMany, call, BEYOND, counting(BEYOND))
@@ -119,11 +125,13 @@ class Twins(unittest.TestCase):
         # Neither of these minds.
         self.assertIs(are_mates(BEYOND, counting(BEYOND)), True)
         web = ((0, ()), (1, (0, 0)))
-        self.assertEqual([kind for kind, _, _ in twins_of(BEYOND, BEYOND, web)], [kind for _, kind, _ in twins_of(BEYOND, BEYOND, web)])
+        self.assertEqual([kind for kind, _, _ in twins_of(BEYOND, BEYOND, web)],
+                         [kind for _, kind, _ in twins_of(BEYOND, BEYOND, web)])
         self.assertEqual(row_exchanged(BEYOND, 0, BEYOND[1][0]), BEYOND)
 
     def test_just_as_many_as_there_may_be(self):
-        rows = tuple([((), (), 1, 0, slots) for slots in ((("new", 1, ()), ("new", 2, ())), (("new", 1, ()), ("none",)), (("none",), ("none",)))])
+        rows = tuple([((), (), 1, 0, slots) for slots in ((("new", 1, ()), ("new", 2, ())),
+                                                          (("new", 1, ()), ("none",)), (("none",), ("none",)))])
         self.assertEqual([len(all_twins(((2,), (row,)), ((2,), (row,)))) for row in rows], [52, 5, 1])
         most = ((2,), rows[:1] * 28 + rows[1:2] * 8 + rows[2:] * 4)
         self.assertEqual(len(all_twins(most, most)), 1500)
@@ -137,9 +145,12 @@ class Ratio(unittest.TestCase):
 
     def test_by_hand(self):
         for craft, other, said in (
-                (TWINS, UNEVEN, (3, 2)), (UNEVEN, TWINS, (4, 3)), (CHAIN, AHEAD, ONE), (AHEAD, CHAIN, CanNot), (counting(MELDS), MELDS, CanNot),
-                (MELDS, counting(MELDS), (8, 3)), (counting(STRAY), STRAY, (1, 5)), (STRAY, counting(STRAY), (5, 1)), (NEVER, NEVER, NOUGHT),
-                (LONE, counting(LONE), NOUGHT), (counting(LONE), LONE, CanNot), (LONE, LONE, NOUGHT), (TWINS, TWINS, ONE),
+                (TWINS, UNEVEN, (3, 2)), (UNEVEN, TWINS, (4, 3)), (CHAIN, AHEAD, ONE), (AHEAD, CHAIN, CanNot),
+                (counting(MELDS), MELDS, CanNot),
+                (MELDS, counting(MELDS), (8, 3)), (counting(STRAY), STRAY, (1, 5)), (STRAY, counting(STRAY), (5, 1)),
+                (NEVER, NEVER, NOUGHT),
+                (LONE, counting(LONE), NOUGHT), (counting(LONE), LONE, CanNot), (LONE, LONE, NOUGHT),
+                (TWINS, TWINS, ONE),
                 (TWINS, paying_at_once(TWINS), ONE), (KEPT, DOUBLE, ONE), (with_cost(CARRY, 0, 0, 7), CARRY, (8, 3))):
             self.assertEqual(told(ratio, craft, other), said)
 
@@ -284,8 +295,10 @@ class RowExchanged(unittest.TestCase):
             with self.assertRaises(NoRow) as caught:
                 row_exchanged(TWINS, row, None)
             self.assertEqual(vars(caught.exception), {"number": row})
-        for like in (*JUNK, ((1,), (), 0, 1, ()), ((), (), 0, 1, ()), ((0, 0), (), 0, 1, ()), ((0,), (), 0, 0, (("none",), ("none",))),
-                     ((0,), (), 0, 1, (("none",),)), ((0,), ((0, 2),), 0, 1, ()), ((0,), (), -1, 1, ()), ((0,), ((0, 0), (0, 0)), 0, 1, ())):
+        for like in (*JUNK, ((1,), (), 0, 1, ()), ((), (), 0, 1, ()), ((0, 0), (), 0, 1, ()),
+                     ((0,), (), 0, 0, (("none",), ("none",))),
+                     ((0,), (), 0, 1, (("none",),)), ((0,), ((0, 2),), 0, 1, ()), ((0,), (), -1, 1, ()),
+                     ((0,), ((0, 0), (0, 0)), 0, 1, ())):
             self.assertRaises(Unfit, row_exchanged, TWINS, 1, like)
         for craft in JUNK:
             self.assertRaises(Unfit, row_exchanged, craft, 9, None)
@@ -293,21 +306,16 @@ class RowExchanged(unittest.TestCase):
 
 class Slow(unittest.TestCase):
 
-    def test_near_the_bounds(self):
-        import random
-        dice = random.Random(3)
-        many = 0
-        for _ in range(60):
-            craft, other = AMPLE, mate_of(dice, AMPLE)
-            small = ((2, 2, 2), AMPLE[1][:3]), (other[0], other[1][:3])
-            own = told(ratio, *small)
-            if isinstance(own, tuple):
-                many += 1
-                bundle = told(ratio_bundle, *small)
-                self.assertTrue(bundle is CanNot or is_ratio_bundle(*small, bundle))
-                for web in diced_webs(small[0], 2, 20):
-                    self.assertLessEqual(cost(small[0], web), Fraction(*own) * cost(small[1], web))
-        self.assertGreater(many, 1)
+    def test_more_than_a_thousand_twins(self):
+        self.assertEqual((len(let_twins(MATE, BUDDY)), ratio(MATE, BUDDY)), (1282, (3, 1)))
+        bundle = ratio_bundle(MATE, BUDDY)
+        self.assertIs(is_ratio_bundle(MATE, BUDDY, bundle), True)
+        costs, likes = plain_twin_costs(MATE, BUDDY, bundle)
+        self.assertEqual(costs, 3 * likes)
+        self.assertIs(is_never_dearer(MATE, BUDDY), False)
+        for web in diced_webs(MATE, 6, 40):
+            self.assertLessEqual(cost(MATE, web), 3 * cost(BUDDY, web))
+            self.assertEqual(twins_of(MATE, BUDDY, web), plain_twins_of(MATE, BUDDY, web))
 
 
 if __name__ == "__main__":
