@@ -101,10 +101,14 @@ def is_endless_ring(craft, some, thing):
     return is_number(place) and 1 <= place < len(steps) and is_ring(craft, some, web, steps, place)
 
 
-def pairs_coming(craft, some):
-    """The list, ascending, of the NUMBERED pairs that come; CanNot() if endless, then TooMany()."""
+def check_ending(craft, some):
+    """CanNot() if CRAFT and SOME are endless."""
     if ring_found(craft, some) is not None:
         raise CanNot()
+
+
+def pairs_coming(craft, some):
+    """The list, ascending, of the NUMBERED pairs that come, CRAFT and SOME not being endless; TooMany()."""
     return sorted(list(numbered_pairs(craft, some, MOST_NUMBERED)))
 
 
@@ -116,7 +120,7 @@ def slot_numbered(told, anew, elders):
 
 
 def numbered_by(craft, some):
-    """numbered_craft(craft, some) for a CRAFT of which some ROW comes."""
+    """numbered_craft(craft, some), some ROW coming, CRAFT and SOME not being endless; TooMany()."""
     pairs = pairs_coming(craft, some)
     places = {pair: place for place, pair in enumerate(pairs)}
     leads = leading(craft)
@@ -136,12 +140,14 @@ def numbered_craft(craft, some):
     craft, some = fit_craft(craft), as_tuples(some, SOME_LEVELS)
     if not rows_coming(craft):
         raise CanNot()
+    check_ending(craft, some)
     return numbered_by(craft, some)
 
 
 def most_again(craft, some):
     """The greatest number of slots that deeds look at in ALL WEBS, 0 if none do; CanNot() if endless; TooMany()."""
     craft, some = fit_craft(craft), as_tuples(some, SOME_LEVELS)
+    check_ending(craft, some)
     pairs = pairs_coming(craft, some)
     most = 0
     for number in rows_coming(craft):
@@ -156,5 +162,6 @@ def anew_mean(craft, some):
     craft, some = fit_craft(craft), as_tuples(some, SOME_LEVELS)
     if not rows_coming(craft):
         return NOUGHT
+    check_ending(craft, some)
     numbered, _ = numbered_by(craft, some)
     return mean_told(numbered, deals_let(numbered))

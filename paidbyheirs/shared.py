@@ -84,11 +84,12 @@ def all_lots(slots):
 
 def least_within(craft, payments, slots, lot):
     """A least LOT within this one, which is enough: pair by pair what is not needed is taken away."""
+    least = lot
     for pair in lot:
-        less = others(lot, (pair,))
+        less = others(least, (pair,))
         if enough_with(craft, payments, others(slots, less)):
-            lot = less
-    return lot
+            least = less
+    return least
 
 
 def least_lots(craft, payments, slots):

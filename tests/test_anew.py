@@ -144,6 +144,21 @@ class Rings(unittest.TestCase):
         self.assertIs(is_endless_ring(TURNS, some, (web, ((2, 0), (3, 0), (4, 0), (5, 0), (6, 0)), 4)), False)
         self.assertIs(is_endless_ring(TURNS, some, (web, ((2, 0), (3, 0), (4, 0), (5, 0), (6, 0)), 3)), True)
 
+    def test_no_shared_one_up_to_the_place(self):
+        # What is dear at VERSION 1 is so no longer at VERSION 2, whose WAIT is done once.
+        craft = ((1, 1), (((), (), 0, 0, (("none",),)), ((0,), (), 0, 1, (("new", 1, ((0, 0),)),)),
+                          ((1,), (), 0, 0, (("new", 1, ((0, 0),)),)), ((0,), ((0, 0),), 0, 0, (("none",),))))
+        web = ((0, ()), (1, (0,)), (2, (1,)), (1, (2,)), (2, (3,)), (3, (4,)))
+        steps = ((0, 0), (1, 0), (2, 0), (3, 0), (4, 0))
+        self.assertEqual(dear_slots(craft, web, ((1, 0),)), ((), (0,), (), (0,), (), ()))
+        for own, place in ((steps, 2), (steps, 4), (steps[1:], 2), (steps[1:4], 2), (steps[2:], 2)):
+            self.assertIs(is_endless_ring(craft, ((1, 0),), (web, own, place)), False)
+            self.assertIs(plain_is_ring(craft, ((1, 0),), (web, own, place)), False)
+        self.assertIs(is_endless(craft, ((1, 0),)), False)
+        self.assertIs(is_endless_ring(craft, new_slots(craft), (web, steps[1:], 2)), True)
+        self.assertIs(is_endless_ring(craft, new_slots(craft), (web, steps[2:], 2)), True)
+        self.assertIs(is_endless_ring(craft, new_slots(craft), (web, steps, 2)), False)
+
     def test_the_same_slot_of_one_version_by_both_places(self):
         craft = ((1,), (((), (), 0, 0, (("new", 1, ()),)), ((0, 0), (), 0, 0, (("new", 0, ((0, 0), (1, 0))),)),
                         ((0,), ((0, 0),), 0, 0, (("none",),))))

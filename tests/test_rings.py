@@ -28,6 +28,10 @@ ALONE = tuple(craft for craft in (*CRAFTS, *diced_crafts(130)) if all(len(row[0]
 SPLITS = ((2, 2), (((), (), 1, 0, (("new", 4, ()), ("new", 8, ()))), ((0,), (), 0, 1, (("kept", 0, 0), ("kept", 0, 1))),
                    ((1,), ((0, 0),), 1, 1, (("none",), ("kept", 0, 1))), ((1,), ((0, 1), (0, 0)), 2, 1,
                                                                           (("none",), ("none",)))))
+# A PART goes round that no LINE ends: only two heirs can.
+TANGLE = ((2,), (((0,), (), 0, 0, (("new", 2, ((0, 1),)), ("kept", 0, 0))), ((), (), 2, 0, (("new", 0, ()), ("new", 4, ()))),
+                 ((), (), 1, 0, (("none",), ("none",))), ((0,), (), 3, 0, (("kept", 0, 1), ("new", 1, ((0, 0),)))),
+                 ((0,), ((0, 0),), 1, 0, (("none",), ("kept", 0, 0))), ((), (), 2, 0, (("new", 2, ()), ("new", 4, ())))))
 # More and more KINDS in rows without two elders: too many of them.
 CROWD = ((2,), tuple([((0,), (), cost, 0, (("kept", 0, 0), ("new", 1, BOTH[:2]))) for cost in range(200)]
                      + [((), (), 1, 0, (("new", 1, ()), ("new", 1, ())))]))
@@ -71,7 +75,7 @@ class LineMean(unittest.TestCase):
         self.assertEqual((line_mean(fork), mean(fork), web_beats_line(fork)), ((2, 1), (2, 1), False))
 
     def test_the_most_that_lines_cost(self):
-        for craft in (*ALONE, SPLITS):
+        for craft in (*ALONE, SPLITS, TANGLE):
             own, most = value(line_mean(craft)), plain_most_in_lines(craft, 12)
             for many, costs in enumerate(most):
                 self.assertLessEqual(costs, own * many)
@@ -87,7 +91,7 @@ class LineMean(unittest.TestCase):
             self.assertIs(web_beats_line(craft), own < value(mean(craft)))
 
     def test_some_line_comes_as_near_as_one_likes(self):
-        for craft in (*ALONE, SPLITS):
+        for craft in (*ALONE, SPLITS, TANGLE):
             if plain_legs(craft):
                 own, most = value(line_mean(craft)), plain_most_in_lines(craft, 60)
                 # What is lost where LINES begin and end does not grow with them.
@@ -96,7 +100,7 @@ class LineMean(unittest.TestCase):
 
     def test_kinds_of_lines(self):
         """Those of the deeds of LINES are, those with two PARTS are not."""
-        for craft in (*ALONE, SPLITS):
+        for craft in (*ALONE, SPLITS, TANGLE):
             kinds = {kind for kind, _, _ in plain_legs(craft)}
             self.assertTrue(kinds <= set(let_kinds(craft)))
             seen = {kind for web in some_webs(craft) if is_line(web) for kind in kinds_of(craft, web)}
@@ -109,7 +113,7 @@ class LineMean(unittest.TestCase):
 class LineBundle(unittest.TestCase):
 
     def test_its_own_judge(self):
-        for craft in (*ALONE, SPLITS):
+        for craft in (*ALONE, SPLITS, TANGLE):
             legs = plain_legs(craft)
             if not legs:
                 self.assertRaises(CanNot, line_bundle, craft)
@@ -144,6 +148,17 @@ class LineBundle(unittest.TestCase):
         begin = (0, (), (), ())
         self.assertIs(is_line_bundle(TWINS, ((begin, 1),)), False)
         self.assertIs(is_line_bundle(CHAIN, (((1, (((0,), ()),), (), ()), 1), ((0, (), (0,), ()), 1))), False)
+
+    def test_kinds_that_no_line_can_end(self):
+        round_it = [kind for kind in let_kinds(TANGLE) if kind[:1] == (0,) and kind[2] == (0, 1) and len(kind[3]) == 1
+                    and kind[1][0] == ((0, 1), kind[3][0])]
+        self.assertGreater(len(round_it), 0)
+        lines = {kind for kind, _, _ in plain_legs(TANGLE)}
+        for kind in round_it:
+            if kind not in lines:
+                self.assertIs(is_line_bundle(TANGLE, ((kind, 1),)), False)
+        self.assertTrue(set(round_it) - lines)
+        self.assertIs(web_beats_line(TANGLE), True)
 
     def test_two_parts(self):
         make, left, right = (0, (), (0, 1), ((0,), (1,))), (1, (((0, 1), (0,)),), (), ()), (2, (((0, 1), (1,)),), (),
@@ -185,7 +200,7 @@ class Trees(unittest.TestCase):
             self.assertRaises(CanNot, brings, craft, even(craft, ONE), sort)
 
     def test_higher_and_higher_trees(self):
-        for craft in (*ALONE, SPLITS):
+        for craft in (*ALONE, SPLITS, TANGLE):
             let = plain_struck(craft)[1]
             for payments in some_payments(craft):
                 gains = {kind: plain_worth(craft, kind) - value(payments[kind[0]]) for kind in let}
