@@ -114,6 +114,11 @@ class Rings(unittest.TestCase):
         self.assertIs(is_endless_ring(with_cost(CHAIN, 1, 0, 0), ((1, 0),), (PUTS, ((1, 0), (2, 0)), 1)), False)
         self.assertIs(is_endless_ring(KEPT, both, (PUTS, ((1, 0), (2, 0)), 1)), True)
         self.assertIs(is_endless_ring(KEPT, both, (PUTS, ((0, 1), (1, 1)), 1)), False)
+        # What is kept alone does not grow.
+        handed = ((0, ()), (1, (0,)), (1, (1,)), (2, (2,)))
+        self.assertEqual(dear_slots(CARRY, handed, ((0, 0),))[:3], ((0,),) * 3)
+        for steps, place in ((((0, 0), (1, 0), (2, 0)), 1), (((0, 0), (1, 0), (2, 0)), 2), (((1, 0), (2, 0)), 1)):
+            self.assertIs(is_endless_ring(CARRY, ((0, 0),), (handed, steps, place)), False)
         # VERSION 0 has not the dear slots of the others, nor has what a look made.
         self.assertIs(is_endless_ring(CHAIN, ((1, 0),), (PUTS, ((0, 0), (1, 0), (2, 0)), 1)), False)
         self.assertIs(is_endless_ring(CHAIN, ((1, 0),), (PUTS, ((0, 0), (1, 0), (2, 0)), 2)), False)
