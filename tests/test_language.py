@@ -189,8 +189,8 @@ class Language(unittest.TestCase):
 
     def test_expressions(self):
         # As Board has an __eq__, generator expressions would have to be looked at one by one.
-        for place, node in self.nodes(ast.GeneratorExp, ast.Div, ast.Lambda, ast.Await, ast.Set, ast.SetComp, ast.Global, ast.Yield,
-                                      ast.Is, ast.IsNot):
+        for place, node in self.nodes(ast.GeneratorExp, ast.Div, ast.Lambda, ast.Await, ast.Set, ast.SetComp,
+                                      ast.Global, ast.Yield, ast.Is, ast.IsNot):
             if isinstance(node, (ast.Is, ast.IsNot)):
                 other = self.parents[node].comparators[0]
                 self.assertIsInstance(other, ast.Constant, place)
@@ -207,7 +207,8 @@ class Language(unittest.TestCase):
         library = set().union(*LIBRARY.values())
         for place, node in self.nodes(ast.Call):
             if any(isinstance(one, ast.Starred) for one in node.args):
-                self.assertIn(getattr(node.func, "id", getattr(node.func, "attr", None)), own | {"max", "min", "zip"}, place)
+                called = getattr(node.func, "id", getattr(node.func, "attr", None))
+                self.assertIn(called, own | {"max", "min", "zip"}, place)
             if getattr(node.func, "id", None) in library:
                 self.assertEqual(node.keywords, [], place)
         for place, node in self.nodes(ast.Name):
