@@ -24,10 +24,11 @@ def is_plan_of(craft, thing):
     """Whether thing is a PLAN of KINDS of this CRAFT."""
     if not isinstance(thing, tuple):
         return False
-    given = {}
-    for at, step in enumerate(thing):
-        if not is_step(craft, thing[:at], given, step):
+    ahead, given = [], {}
+    for step in thing:
+        if not is_step(craft, ahead, given, step):
             return False
+        ahead.append(step)
     return True
 
 

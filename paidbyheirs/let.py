@@ -41,7 +41,7 @@ def laps_of(told):
     while many < len(laps):
         many = len(laps)
         lap += 1
-        ready = [gives for asks, gives in told if all([own in laps for own in asks])]
+        ready = [gives for asks, gives in told if all([asked in laps for asked in asks])]
         for gives in ready:
             for own in gives:
                 laps.setdefault(own, lap)

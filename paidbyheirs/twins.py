@@ -49,7 +49,7 @@ def paired_with(pairs, left, part):
 def twins_found(craft, other):
     """The list, ascending, of all TWINS of these mates; TooMany() if they are too many, or the KINDS of one are."""
     kinds, likes = kinds_found(craft), kinds_found(other)
-    by_row = [[like for like in likes if like[0] == number] for number in range(len(craft[1]))]
+    by_row = [[own for own in likes if own[0] == number] for number in range(len(craft[1]))]
     found = []
     for kind in kinds:
         for like in by_row[kind[0]]:

@@ -202,6 +202,32 @@ class Language(unittest.TestCase):
                 self.assertNotIn("%", node.value, place)
                 self.assertNotRegex(node.value, r"\._{1,2}$")
 
+    def test_comprehensions_in_others_have_names_of_their_own(self):
+        """The variable of a comprehension in another one, or in a nested function, has no name from further out."""
+        kinds = (ast.ListComp, ast.DictComp)
+        for place, node in self.nodes(*kinds):
+            own = self.stored(*[part.target for part in node.generators])
+            over, above = [], node
+            while above in self.parents:
+                above = self.parents[above]
+                if isinstance(above, (*kinds, ast.FunctionDef)):
+                    over.append(above)
+            # Directly in a function at module level, or in a method, a name of this may come again.
+            for outer in over if len(over) > 1 else ():
+                if isinstance(outer, kinds):
+                    further = self.stored(*[part.target for part in outer.generators])
+                else:
+                    inner = {one for comp in ast.walk(outer) if isinstance(comp, kinds) for one in ast.walk(comp)}
+                    further = self.stored(*[one for one in ast.walk(outer) if one not in inner and one is not outer
+                                            and isinstance(one, (ast.Name, ast.arg))])
+                self.assertEqual(own & further - {"_"}, set(), place)
+
+    def stored(self, *parts):
+        """The names that are bound in these parts."""
+        names = {getattr(one, "arg", None) or one.id for part in parts for one in ast.walk(part)
+                 if isinstance(one, ast.arg) or isinstance(one, ast.Name) and isinstance(one.ctx, ast.Store)}
+        return names
+
     def test_stars_and_the_library_in_calls(self):
         own = {node.name for _, node in self.nodes(ast.FunctionDef, ast.ClassDef)}
         library = set().union(*LIBRARY.values())
