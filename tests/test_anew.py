@@ -174,6 +174,20 @@ class Rings(unittest.TestCase):
         self.assertIs(is_endless_ring(craft, ((1, 0),), (((0, ()), (1, (0, 0)), (2, (1,))), ((0, 0), (1, 0)), 1)),
                       False)
 
+    def test_a_slot_that_goes_on_two_ways(self):
+        """What stands in slot 0 is handed on in it, which leads nowhere dearer, or in slot 1, from where it grows."""
+        craft = ((2,), (((0,), (), 2, 0, (("kept", 0, 0), ("none",))),
+                        ((), (), 1, 0, (("new", 2, ()), ("new", 1, ()))),
+                        ((0,), ((0, 0),), 2, 0, (("new", 2, ((0, 1),)), ("kept", 0, 0)))))
+        some = ((1, 0), (1, 1), (2, 0))
+        ring = endless_ring(craft, some)
+        self.assertIs(is_endless_ring(craft, some, ring), True)
+        self.assertTrue(plain_is_ring(craft, some, ring))
+        web = ((1, ()), (2, (0,)), (2, (1,)), (2, (2,)), (2, (3,)))
+        self.assertIs(is_endless_ring(craft, some, (web, ((0, 1), (1, 0), (2, 1), (3, 0)), 2)), True)
+        self.assertIs(is_endless_ring(craft, some, (web, ((0, 1), (1, 0), (2, 1), (3, 0)), 1)), False)
+        self.assertIs(is_endless(craft, ((1, 0), (1, 1))), False)
+
     def test_bent_rings(self):
         both = new_slots(KEPT)
         for craft, some in ((CHAIN, ((1, 0),)), (KEPT, both), (GROWS, new_slots(GROWS)), (TURNS, new_slots(TURNS)),
